@@ -1,32 +1,26 @@
 package tally_test
 
 import (
-	"iter"
 	"math"
 	"slices"
 	"testing"
 
 	"midden/api"
-	"midden/cells"
 	"midden/tally"
-	"midden/turn"
+	"midden/trial"
 )
 
-// A source makes numbers, always the same ones.
-type source uint64
-
-func (s *source) below(n int) int {
-	*s = *s*6364136223846793005 + 1442695040888963407
-	return int(uint64(*s) >> 33 % uint64(n))
-}
-
-// ends are numbers at both ends of their type, and those below 0 that come first.
-var ends = [...]int{math.MinInt, math.MinInt + 1, -2, -1, math.MaxInt - 1, math.MaxInt}
+var tallies = trial.Layer{Size: tally.Size, Fresh: tally.Fresh, Task: tally.Task, Play: tally.Play, Free: tally.Free, Table: table}
 
 // values are few, so that a Most is often met, and near to the top, so that sums pass 2^64.
 var values = [...]uint64{0, 0, 1, 2, 3, 4, 5, 6, 7, 1 << 32, 1<<63 - 1, 1 << 63, math.MaxUint64 - 1, math.MaxUint64}
 
-func (s *source) value() uint64 { return values[s.below(len(values))] }
+// A source makes a tally's words and jobs.
+type source struct{ trial.Source }
+
+func newSource(n uint64) *source { return &source{trial.Source(n)} }
+
+func (s *source) value() uint64 { return values[s.Below(len(values))] }
 
 func (s *source) words(room int) []uint64 {
 	out := make([]uint64, 2*room)
@@ -36,24 +30,14 @@ func (s *source) words(room int) []uint64 {
 	return out
 }
 
-func (s *source) schedule(n int) []int {
-	out := make([]int, n)
-	for i := range out {
-		if out[i] = s.below(40) - 20; s.below(8) == 0 {
-			out[i] = ends[s.below(len(ends))]
-		}
-	}
-	return out
-}
-
 // jobs: up to most for each hand, of all kinds and places; some hands have none. What a kind doesn't use is any number.
 func (s *source) jobs(hands, most, room int, value func() uint64) [][]api.Job {
 	out := make([][]api.Job, hands)
 	for h := range out {
-		for range s.below(most + 1) {
-			j := api.Job{Kind: tally.Count + s.below(3), A: s.below(room), B: ends[s.below(len(ends))], C: s.below(9), H: value()}
+		for range s.Below(most + 1) {
+			j := api.Job{Kind: tally.Count + s.Below(3), A: s.Below(room), B: s.End(), C: s.Below(9), H: value()}
 			if j.Kind == tally.Sum {
-				j.A = ends[s.below(len(ends))]
+				j.A = s.End()
 			}
 			out[h] = append(out[h], j)
 		}
@@ -66,97 +50,37 @@ func most(place int, h uint64) api.Job   { return api.Job{Kind: tally.Most, A: p
 
 var sum = api.Job{Kind: tally.Sum}
 
-// A routine is a job as plain code that stands still ahead of each act. It is a task too, so that turn can play it.
-type routine struct {
-	hand int
-	act  api.Step // the next one, as cells.Script takes it
-	made api.Step // the step that the last one made
-	told api.Answer
-	pull func() (api.Step, bool)
-	stop func()
-}
-
-func begin(room, hand int, j api.Job) *routine {
-	r := &routine{hand: hand}
-	r.pull, r.stop = iter.Pull(r.acts(room, j))
-	r.act, _ = r.pull()
-	return r
-}
-
-// acts is the chapter's table: one act behind the other, and what the job tells in the end.
-func (r *routine) acts(room int, j api.Job) iter.Seq[api.Step] {
-	return func(yield func(api.Step) bool) {
-		switch j.Kind {
-		case tally.Count:
-			yield(api.Step{Act: api.Add, At: j.A, Put: j.H})
-			r.told = api.Answer{OK: true, Val: r.made.Put}
-		case tally.Sum:
-			total := uint64(0)
-			for i := range room {
-				if !yield(api.Step{Act: api.Load, At: i}) {
-					return
-				}
-				total += r.made.Had
-			}
-			r.told = api.Answer{OK: true, Val: total}
-		case tally.Most:
-			for yield(api.Step{Act: api.Load, At: room + j.A}) {
-				w := r.made.Had
-				if w >= j.H {
-					r.told = api.Answer{Val: w}
-					return
-				}
-				if !yield(api.Step{Act: api.CAS, At: room + j.A, Had: w, Put: j.H}) {
-					return
-				}
-				if r.made.OK {
-					r.told = api.Answer{OK: true, Val: j.H}
-					return
-				}
-			}
+// table is the chapter's tables as plain code.
+func table(sh api.Shape, _ int, j api.Job, act trial.Act) api.Answer {
+	switch j.Kind {
+	case tally.Count:
+		return trial.Told(act(api.Add, j.A, 0, j.H).Put)
+	case tally.Sum:
+		total := uint64(0)
+		for i := range sh.Room {
+			total += act.Load(i)
+		}
+		return trial.Told(total)
+	}
+	for {
+		w := act.Load(sh.Room + j.A)
+		if w >= j.H {
+			return api.Answer{Val: w}
+		}
+		if act.CAS(sh.Room+j.A, w, j.H) {
+			return trial.Told(j.H)
 		}
 	}
 }
 
-func (r *routine) Step(m *cells.Mem) (api.Step, int) {
-	r.made = m.Do(r.hand, r.act.Act, r.act.At, r.act.Had, r.act.Put)
-	next, more := r.pull()
-	r.act = next
-	if more {
-		return r.made, turn.Going
-	}
-	return r.made, turn.Ended
-}
-
-func (r *routine) Answer() api.Answer { return r.told }
-
-// model is the run by the schedule of the jobs as plain code.
-func model(t *testing.T, words []uint64, hands [][]api.Job, schedule []int, most int) (api.Trace, [][]api.Answer) {
-	t.Helper()
-	var begun []*routine
-	x, a, e := turn.Play(words, hands, schedule, most, func(hand int, j api.Job) (turn.Task, api.Errno) {
-		r := begin(len(words)/2, hand, j)
-		begun = append(begun, r)
-		return r, api.OK
-	})
-	for _, r := range begun {
-		r.stop()
-	}
-	if e != api.OK {
-		t.Fatal(e)
-	}
-	return x, a
-}
-
-// holdRun fails, if the run by the schedule is not what the plain code makes of it.
+// holdRun, holdSteps: the layer's own, with as much room as the words are for.
 func holdRun(t *testing.T, words []uint64, hands [][]api.Job, schedule []int, most int) (api.Trace, [][]api.Answer) {
 	t.Helper()
-	x, a, e := tally.Play(api.Shape{Room: len(words) / 2}, words, hands, schedule, most)
-	wantX, wantA := model(t, words, hands, schedule, most)
-	if e != api.OK || !sameTrace(x, wantX) || !sameAnswers(a, wantA) {
-		t.Fatalf("%v %v %v %d: %v %v %v; want %v %v", words, hands, schedule, most, x, a, e, wantX, wantA)
-	}
-	return x, a
+	return tallies.HoldRun(t, api.Shape{Room: len(words) / 2}, words, hands, schedule, most)
+}
+func holdSteps(t *testing.T, words []uint64, hands [][]api.Job, schedule []int, steps []api.Step, answers [][]api.Answer, after []uint64) {
+	t.Helper()
+	tallies.HoldSteps(t, api.Shape{Room: len(words) / 2}, words, hands, schedule, steps, answers, after)
 }
 
 // holdEnd fails, if the words behind a run that has ended are not what P5.2 promises.
@@ -218,28 +142,3 @@ func endsWith(j api.Job, s api.Step, steps, room int) bool {
 	}
 	return j.Kind == tally.Count || s.Had >= j.H
 }
-
-// schedules: all lists of so many numbers below n.
-func schedules(n, length int) iter.Seq[[]int] {
-	return func(yield func([]int) bool) {
-		all := 1
-		for range length {
-			all *= n
-		}
-		for code := range all {
-			list := make([]int, length)
-			for i := range list {
-				list[i], code = code%n, code/n
-			}
-			if !yield(list) {
-				return
-			}
-		}
-	}
-}
-
-func sameTrace(a, b api.Trace) bool {
-	return slices.Equal(a.Steps, b.Steps) && slices.Equal(a.Words, b.Words) && a.Ended == b.Ended
-}
-
-func sameAnswers(a, b [][]api.Answer) bool { return slices.EqualFunc(a, b, slices.Equal) }

@@ -7,6 +7,7 @@ import (
 
 	"midden/api"
 	"midden/tally"
+	"midden/trial"
 )
 
 // All schedules of the first steps; behind them the hands take turns.
@@ -17,7 +18,7 @@ func TestP5_2_EverySchedule(t *testing.T) {
 		{{most(1, 5), most(1, 8)}, {most(1, 7), sum}},
 		{{most(0, 5), count(0, 1)}, {most(0, 5)}, {count(0, 2), most(0, 6)}},
 	} {
-		for schedule := range schedules(len(hands), 8) {
+		for schedule := range trial.Lists(len(hands), 8) {
 			x, a := holdRun(t, words, hands, schedule, 60)
 			if !x.Ended || len(a[0]) != len(hands[0]) {
 				t.Fatal(hands, schedule, x)
@@ -28,12 +29,12 @@ func TestP5_2_EverySchedule(t *testing.T) {
 }
 
 func TestP5_2_AnySchedule(t *testing.T) {
-	from := source(4)
+	from := newSource(4)
 	for range 1000 {
-		room := 1 + from.below(3)
+		room := 1 + from.Below(3)
 		words := from.words(room)
-		hands := from.jobs(1+from.below(api.MaxHands), 8, room, from.value)
-		x, _ := holdRun(t, words, hands, from.schedule(from.below(200)), 5000)
+		hands := from.jobs(1+from.Below(api.MaxHands), 8, room, from.value)
+		x, _ := holdRun(t, words, hands, from.Schedule(from.Below(200)), 5000)
 		if !x.Ended {
 			t.Fatal(hands, len(x.Steps))
 		}
@@ -69,12 +70,12 @@ func TestP5_2_FreeAtOneStripe(t *testing.T) {
 
 // Sums that pass 2^64 many times over.
 func TestP5_2_FreePastTheEnd(t *testing.T) {
-	from := source(5)
+	from := newSource(5)
 	for range 40 {
 		hands := make([][]api.Job, api.MaxHands)
 		for h := range hands {
 			for range api.MaxJobs {
-				hands[h] = append(hands[h], count(0, 1<<63+uint64(from.below(1<<30))<<20+uint64(h)))
+				hands[h] = append(hands[h], count(0, 1<<63+uint64(from.Below(1<<30))<<20+uint64(h)))
 			}
 		}
 		w, _, e := tally.Free(api.Shape{Room: 1}, hands)
@@ -96,7 +97,7 @@ func TestP5_2_FreeAtOneGreatest(t *testing.T) {
 	hands[3][100] = most(0, 1<<40) // the greatest amid the others
 	for range 100 {
 		w, a, e := tally.Free(api.Shape{Room: 1}, hands)
-		if e != api.OK || !slices.Equal(w, []uint64{0, 1 << 40}) || a[3][100] != told(1<<40) {
+		if e != api.OK || !slices.Equal(w, []uint64{0, 1 << 40}) || a[3][100] != trial.Told(1<<40) {
 			t.Fatal(w, e)
 		}
 		for h := range a {
@@ -112,10 +113,10 @@ func TestP5_2_FreeAtOneGreatest(t *testing.T) {
 }
 
 func TestP5_2_FreeOfAnyJobs(t *testing.T) {
-	from := source(6)
+	from := newSource(6)
 	for range 500 {
-		room := 1 + from.below(4)
-		hands := from.jobs(from.below(api.MaxHands+1), 40, room, from.value)
+		room := 1 + from.Below(4)
+		hands := from.jobs(from.Below(api.MaxHands+1), 40, room, from.value)
 		w, a, e := tally.Free(api.Shape{Room: room}, hands)
 		if e != api.OK || len(a) != len(hands) {
 			t.Fatal(e)
@@ -131,13 +132,13 @@ func TestP5_2_FreeOfAnyJobs(t *testing.T) {
 
 // By one hand alone there is nothing to choose: free and by any schedule it is one and the same.
 func TestP5_2_FreeByOneHand(t *testing.T) {
-	from := source(7)
+	from := newSource(7)
 	for range 300 {
-		room := 1 + from.below(3)
+		room := 1 + from.Below(3)
 		hands := from.jobs(1, 20, room, from.value)
-		x, a := model(t, make([]uint64, 2*room), hands, nil, 500)
+		x, a, _ := tallies.Model(api.Shape{Room: room}, make([]uint64, 2*room), hands, nil, 500)
 		w, b, e := tally.Free(api.Shape{Room: room}, hands)
-		if e != api.OK || !x.Ended || !slices.Equal(x.Words, w) || !sameAnswers(a, b) {
+		if e != api.OK || !x.Ended || !slices.Equal(x.Words, w) || !trial.SameAnswers(a, b) {
 			t.Fatal(hands, w, b, e)
 		}
 	}
@@ -146,7 +147,7 @@ func TestP5_2_FreeByOneHand(t *testing.T) {
 // With one processor, too, all hands end.
 func TestP5_2_FreeOnOneProcessor(t *testing.T) {
 	defer runtime.GOMAXPROCS(runtime.GOMAXPROCS(1))
-	from := source(8)
+	from := newSource(8)
 	for range 100 {
 		hands := from.jobs(api.MaxHands, 100, 2, from.value)
 		w, _, e := tally.Free(api.Shape{Room: 2}, hands)
@@ -160,7 +161,7 @@ func TestP5_2_FreeOnOneProcessor(t *testing.T) {
 // All goroutines have ended when the call answers. (One that has told so may need a moment to be gone.)
 func TestP5_2_NobodyLeft(t *testing.T) {
 	before := runtime.NumGoroutine()
-	from := source(9)
+	from := newSource(9)
 	for range 50 {
 		tally.Free(api.Shape{Room: 2}, from.jobs(api.MaxHands, 9, 2, from.value))
 	}
@@ -210,11 +211,11 @@ func holdBetween(t *testing.T, words []uint64, hands [][]api.Job, schedule []int
 
 func TestP5_3_EverySchedule(t *testing.T) {
 	words, strictly := []uint64{1 << 20, 0, 5, 9, 9, 9}, 0
-	for schedule := range schedules(2, 10) {
+	for schedule := range trial.Lists(2, 10) {
 		hands := [][]api.Job{{sum, sum}, {count(0, 1), count(2, 1<<8), count(1, 1<<16), count(0, 1<<62)}}
 		strictly += holdBetween(t, words, hands, schedule)
 	}
-	for schedule := range schedules(3, 7) {
+	for schedule := range trial.Lists(3, 7) {
 		hands := [][]api.Job{{sum}, {count(0, 1), count(2, 4)}, {count(2, 16), count(1, 64), sum}}
 		strictly += holdBetween(t, words, hands, schedule)
 	}
@@ -225,16 +226,16 @@ func TestP5_3_EverySchedule(t *testing.T) {
 
 // Up to sums just below 2^64.
 func TestP5_3_AnySchedule(t *testing.T) {
-	from := source(10)
+	from := newSource(10)
 	for round := range 1500 {
-		room := 1 + from.below(6)
+		room := 1 + from.Below(6)
 		words := make([]uint64, 2*room)
-		words[from.below(room)] = 1 << 62
+		words[from.Below(room)] = 1 << 62
 		if round%2 == 0 { // one less than what all Counts could add, up to 2^64
-			words[from.below(room)] += 3<<62 - 8*10*(1<<10) - 1
+			words[from.Below(room)] += 3<<62 - 8*10*(1<<10) - 1
 		}
-		small := func() uint64 { return uint64(from.below(1 << 10)) }
-		holdBetween(t, words, from.jobs(1+from.below(api.MaxHands), 10, room, small), from.schedule(from.below(300)))
+		small := func() uint64 { return uint64(from.Below(1 << 10)) }
+		holdBetween(t, words, from.jobs(1+from.Below(api.MaxHands), 10, room, small), from.Schedule(from.Below(300)))
 	}
 }
 
@@ -291,24 +292,24 @@ func holdShort(t *testing.T, words []uint64, hands [][]api.Job, schedule []int) 
 func TestP5_4_EverySchedule(t *testing.T) {
 	words := []uint64{0, 0, 1, 1}
 	longest := 0
-	for schedule := range schedules(2, 10) {
+	for schedule := range trial.Lists(2, 10) {
 		hands := [][]api.Job{{most(0, 9), most(0, 4)}, {most(0, 3), count(0, 1), most(1, 5), most(0, 6), most(0, 9)}}
 		longest = max(longest, holdShort(t, words, hands, schedule))
 	}
 	if longest < 6 {
 		t.Error("no Most has lost twice", longest)
 	}
-	for schedule := range schedules(3, 7) {
+	for schedule := range trial.Lists(3, 7) {
 		holdShort(t, words, [][]api.Job{{most(1, 4)}, {most(1, 3), most(1, 5)}, {most(1, 2), sum}}, schedule)
 	}
 }
 
 func TestP5_4_AnySchedule(t *testing.T) {
-	from := source(11)
+	from := newSource(11)
 	for range 1500 {
-		room := 1 + from.below(2)
-		hands := from.jobs(1+from.below(api.MaxHands), 12, room, from.value)
-		holdShort(t, make([]uint64, 2*room), hands, from.schedule(from.below(400)))
+		room := 1 + from.Below(2)
+		hands := from.jobs(1+from.Below(api.MaxHands), 12, room, from.value)
+		holdShort(t, make([]uint64, 2*room), hands, from.Schedule(from.Below(400)))
 	}
 }
 

@@ -1,0 +1,98 @@
+package trial
+
+import (
+	"slices"
+
+	"midden/api"
+)
+
+// A handed is what a call is given, each list with spare room behind it.
+type handed struct {
+	words    []uint64
+	hands    [][]api.Job
+	schedule []int
+}
+
+// roomy: the same list, with some more in its spare room.
+func roomy[E any](list []E, more E) []E {
+	return append(slices.Clip(slices.Clone(list)), more, more)[:len(list)]
+}
+
+func hand(words []uint64, hands [][]api.Job, schedule []int) handed {
+	h := handed{roomy(words, 77), roomy(hands, nil), roomy(schedule, 77)}
+	for i, jobs := range h.hands {
+		h.hands[i] = roomy(jobs, api.Job{Kind: -9, A: -9})
+	}
+	return h
+}
+
+// whole: a list with its spare room.
+func whole[E any](list []E) []E { return list[:cap(list)] }
+
+func (h handed) same(o handed) bool {
+	jobs := func(a, b []api.Job) bool { return slices.Equal(whole(a), whole(b)) }
+	return slices.Equal(whole(h.words), whole(o.words)) && slices.Equal(whole(h.schedule), whole(o.schedule)) &&
+		slices.EqualFunc(whole(h.hands), whole(o.hands), jobs)
+}
+
+// spoil writes over an answer and over its spare room.
+func spoil[E any](list []E, with E) {
+	all := whole(list)
+	for i := range all {
+		all[i] = with
+	}
+}
+
+// HoldMemory fails, if a call changes what it is given, if its answer shares memory, or if a call hangs on what was
+// done to an earlier answer. The hands are to be such that each has an answer.
+func (l Layer) HoldMemory(t T, sh api.Shape, words []uint64, hands [][]api.Job, schedule []int, most int) {
+	t.Helper()
+	given, held := hand(words, hands, schedule), hand(words, hands, schedule)
+	wantX, wantA, _ := l.Model(sh, words, hands, schedule, most)
+	for range 3 {
+		x, a, e := l.Play(sh, given.words, given.hands, given.schedule, most)
+		if e != api.OK || !SameTrace(x, wantX) || !SameAnswers(a, wantA) {
+			t.Fatalf("Play: %v %v %v; want %v %v", x, a, e, wantX, wantA)
+		}
+		spoil(x.Steps, api.Step{Hand: -5})
+		spoil(x.Words, 55)
+		holdApart(t, a, wantA)
+	}
+	fresh, _ := l.Fresh(sh)
+	for range 3 {
+		w, a, e := l.Free(sh, given.hands)
+		if e != api.OK || len(w) != len(words) || len(a) != len(hands) {
+			t.Fatalf("Free: %v %v %v", w, a, e)
+		}
+		spoil(w, 55)
+		holdApart(t, a, CloneAnswers(a))
+		again, _ := l.Fresh(sh)
+		if !slices.Equal(fresh, again) {
+			t.Fatalf("Fresh: %v; want %v", again, fresh)
+		}
+		spoil(again, 55)
+	}
+	if !given.same(held) {
+		t.Errorf("what was handed in has changed: %v; was %v", given, held)
+	}
+}
+
+// holdApart spoils one hand's answers behind the other: those of the others must stay.
+func holdApart(t T, a, want [][]api.Answer) {
+	t.Helper()
+	for h := range a {
+		if !slices.Equal(a[h], want[h]) {
+			t.Fatalf("the answers of hand %d share memory with those of another one: %v; want %v", h, a[h], want[h])
+		}
+		spoil(a[h], api.Answer{Val: 99})
+	}
+}
+
+// CloneAnswers: the same answers in other memory.
+func CloneAnswers(a [][]api.Answer) [][]api.Answer {
+	out := slices.Clone(a)
+	for h := range out {
+		out[h] = slices.Clone(out[h])
+	}
+	return out
+}

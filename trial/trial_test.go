@@ -1,0 +1,230 @@
+package trial_test
+
+import (
+	"slices"
+	"testing"
+
+	"midden/api"
+	"midden/cells"
+	"midden/layer"
+	"midden/trial"
+	"midden/turn"
+)
+
+// An ear is a test that only hears what doesn't hold.
+type ear struct{ heard int }
+
+type left struct{}
+
+func (e *ear) Helper()               {}
+func (e *ear) Errorf(string, ...any) { e.heard++ }
+func (e *ear) Fatalf(string, ...any) { e.heard++; panic(left{}) }
+
+func hears(try func(t trial.T)) bool {
+	e := &ear{}
+	func() {
+		defer func() {
+			if x := recover(); x != nil && x != (left{}) {
+				panic(x)
+			}
+		}()
+		try(e)
+	}()
+	return e.heard > 0
+}
+
+// The layer on trial has one kind of jobs, 1: by a load and a CAS H is added to word A.
+func size(sh api.Shape) (int, api.Errno) {
+	if e := layer.CheckRoom(sh, 4); e != api.OK {
+		return 0, e
+	}
+	return sh.Room, api.OK
+}
+
+func fresh(sh api.Shape) ([]uint64, api.Errno) {
+	n, e := size(sh)
+	if e != api.OK {
+		return nil, e
+	}
+	return make([]uint64, n), api.OK
+}
+
+func table(_ api.Shape, _ int, j api.Job, act trial.Act) api.Answer {
+	for {
+		w := act.Load(j.A)
+		if act.CAS(j.A, w, w+j.H) {
+			return trial.Told(w)
+		}
+	}
+}
+
+type adding struct {
+	hand   int
+	job    api.Job
+	w      uint64
+	loaded bool
+}
+
+func (a *adding) Answer() api.Answer { return trial.Told(a.w) }
+
+func (a *adding) Step(m *cells.Mem) (api.Step, int) {
+	if !a.loaded {
+		s := m.Do(a.hand, api.Load, a.job.A, 0, 0)
+		a.w, a.loaded = s.Had, true
+		return s, turn.Going
+	}
+	s := m.Do(a.hand, api.CAS, a.job.A, a.w, a.w+a.job.H)
+	if s.OK {
+		return s, turn.Ended
+	}
+	a.loaded = false
+	return s, turn.Going
+}
+
+func task(sh api.Shape, hand int, j api.Job) (turn.Task, api.Errno) {
+	switch _, e := size(sh); {
+	case e != api.OK:
+		return nil, e
+	case j.Kind != 1:
+		return nil, api.ErrKind
+	case j.A < 0 || j.A >= sh.Room:
+		return nil, api.ErrArg
+	}
+	return &adding{hand: hand, job: j}, api.OK
+}
+
+func play(sh api.Shape, words []uint64, hands [][]api.Job, schedule []int, most int) (api.Trace, [][]api.Answer, api.Errno) {
+	return layer.Play(size, task, sh, words, hands, schedule, most)
+}
+
+func free(sh api.Shape, hands [][]api.Job) ([]uint64, [][]api.Answer, api.Errno) {
+	return layer.Free(fresh, task, sh, hands)
+}
+
+func sound() trial.Layer {
+	return trial.Layer{Size: size, Fresh: fresh, Task: task, Play: play, Free: free, Table: table}
+}
+
+func add(h uint64) api.Job { return api.Job{Kind: 1, H: h} }
+
+// all holds a layer to all that trial has.
+func all(l trial.Layer) bool {
+	sh := api.Shape{Room: 3}
+	words := []uint64{4, 5, 6}
+	hands := [][]api.Job{{add(1), add(2)}, {add(3)}, {{Kind: 1, A: 1, H: 4}}}
+	return hears(func(t trial.T) {
+		for schedule := range trial.Lists(3, 5) {
+			l.HoldRun(t, sh, words, hands, schedule, 30)
+		}
+		l.HoldTask(t, sh, 5, add(7), words, 9)
+		l.HoldTask(t, sh, -5, add(7), nil, 9)
+		l.HoldSteps(t, sh, words, hands[:2], []int{0, 1, 0, 1, 1, 0, 1},
+			[]api.Step{
+				trial.Load(0, 0, 4), trial.Load(1, 0, 4), trial.CAS(0, 0, 4, 5), trial.Lost(1, 0, 5),
+				trial.Load(1, 0, 5), trial.Load(0, 0, 5), trial.CAS(1, 0, 5, 8), trial.Lost(0, 0, 8),
+				trial.Load(0, 0, 8), trial.CAS(0, 0, 8, 10),
+			},
+			[][]api.Answer{{trial.Told(4), trial.Told(8)}, {trial.Told(5)}}, []uint64{10, 5, 6})
+		l.HoldRefusals(t, trial.Faults{
+			Shape:  sh,
+			Shapes: []api.Shape{{}, {Room: 5}},
+			Fine:   add(1),
+			Wrong:  []trial.Wrong{{Job: api.Job{Kind: 2, A: -1}, Errno: api.ErrKind}, {Job: api.Job{Kind: 1, A: 3}, Errno: api.ErrArg}},
+		})
+		l.HoldNothingToDo(t, sh, words, add(1))
+		l.HoldMemory(t, sh, words, hands, []int{0, 1, 2}, 30)
+	})
+}
+
+func TestSoundLayer(t *testing.T) {
+	if all(sound()) {
+		t.Error("something was heard")
+	}
+}
+
+// Each layer has one fault; among them are such as only one of trial's calls can find.
+func TestFaultyLayers(t *testing.T) {
+	kept := make([]uint64, 3)
+	for name, spoil := range map[string]func(l *trial.Layer){
+		"a step more": func(l *trial.Layer) {
+			l.Table = func(sh api.Shape, hand int, j api.Job, act trial.Act) api.Answer {
+				act.Load(0)
+				return table(sh, hand, j, act)
+			}
+		},
+		"another answer": func(l *trial.Layer) {
+			l.Table = func(sh api.Shape, hand int, j api.Job, act trial.Act) api.Answer {
+				a := table(sh, hand, j, act)
+				a.Val++
+				return a
+			}
+		},
+		"a task of another hand": func(l *trial.Layer) {
+			l.Task = func(sh api.Shape, hand int, j api.Job) (turn.Task, api.Errno) { return task(sh, 0, j) }
+		},
+		"a size beside an error": func(l *trial.Layer) {
+			l.Size = func(sh api.Shape) (int, api.Errno) { return sh.Room, layer.CheckRoom(sh, 4) }
+		},
+		"words beside an error": func(l *trial.Layer) {
+			l.Fresh = func(api.Shape) ([]uint64, api.Errno) { return kept, api.ErrShape }
+		},
+		"words that are kept": func(l *trial.Layer) {
+			l.Fresh = func(sh api.Shape) ([]uint64, api.Errno) { return keep(kept, sh) }
+		},
+		"no run": func(l *trial.Layer) {
+			l.Free = func(api.Shape, [][]api.Job) ([]uint64, [][]api.Answer, api.Errno) { return nil, nil, api.OK }
+		},
+		"any number of words":     func(l *trial.Layer) { l.Play = unsized },
+		"spare room that changes": func(l *trial.Layer) { l.Play = changing },
+		"words that are shared":   func(l *trial.Layer) { l.Play = sharing },
+		"answers that are shared": func(l *trial.Layer) { l.Play = crowding },
+	} {
+		l := sound()
+		spoil(&l)
+		if !all(l) {
+			t.Error("nothing was heard of", name)
+		}
+	}
+}
+
+func keep(kept []uint64, sh api.Shape) ([]uint64, api.Errno) {
+	if _, e := size(sh); e != api.OK {
+		return nil, e
+	}
+	return kept[:sh.Room], api.OK
+}
+
+// unsized doesn't look at how many words there are.
+func unsized(sh api.Shape, words []uint64, hands [][]api.Job, schedule []int, most int) (api.Trace, [][]api.Answer, api.Errno) {
+	if _, e := size(sh); e != api.OK {
+		return api.Trace{}, nil, e
+	}
+	return turn.Play(words, hands, schedule, most, func(hand int, j api.Job) (turn.Task, api.Errno) { return task(sh, hand, j) })
+}
+
+// changing writes into the spare room of what it is given.
+func changing(sh api.Shape, words []uint64, hands [][]api.Job, schedule []int, most int) (api.Trace, [][]api.Answer, api.Errno) {
+	_ = append(schedule, 1)
+	return play(sh, words, hands, schedule, most)
+}
+
+// sharing answers the words that it was given.
+func sharing(sh api.Shape, words []uint64, hands [][]api.Job, schedule []int, most int) (api.Trace, [][]api.Answer, api.Errno) {
+	x, a, e := play(sh, words, hands, schedule, most)
+	if e == api.OK {
+		copy(words, x.Words)
+		x.Words = words
+	}
+	return x, a, e
+}
+
+// crowding lays all hands' answers into one list.
+func crowding(sh api.Shape, words []uint64, hands [][]api.Job, schedule []int, most int) (api.Trace, [][]api.Answer, api.Errno) {
+	x, a, e := play(sh, words, hands, schedule, most)
+	list := slices.Concat(a...)
+	for h := range a {
+		n := len(a[h])
+		a[h], list = list[:n], list[n:]
+	}
+	return x, a, e
+}
