@@ -58,7 +58,9 @@ func (l Layer) HoldMemory(t T, sh api.Shape, words []uint64, hands [][]api.Job, 
 		spoil(x.Words, 55)
 		holdApart(t, a, wantA)
 	}
-	fresh, _ := l.Fresh(sh)
+	first, _ := l.Fresh(sh)
+	fresh := slices.Clone(first)
+	spoil(first, 55)
 	for range 3 {
 		w, a, e := l.Free(sh, given.hands)
 		if e != api.OK || len(w) != len(words) || len(a) != len(hands) {
@@ -77,14 +79,21 @@ func (l Layer) HoldMemory(t T, sh api.Shape, words []uint64, hands [][]api.Job, 
 	}
 }
 
-// holdApart spoils one hand's answers behind the other: those of the others must stay.
+// holdApart spoils one hand's answers behind the other: those of the others must stay, spoilt or not.
 func holdApart(t T, a, want [][]api.Answer) {
 	t.Helper()
 	for h := range a {
 		if !slices.Equal(a[h], want[h]) {
 			t.Fatalf("the answers of hand %d share memory with those of another one: %v; want %v", h, a[h], want[h])
 		}
-		spoil(a[h], api.Answer{Val: 99})
+		spoil(a[h], api.Answer{Val: uint64(h)})
+	}
+	for h := range a {
+		for _, x := range a[h] {
+			if x != (api.Answer{Val: uint64(h)}) {
+				t.Fatalf("the answers of hand %d share memory with those of a later one: %v", h, a[h])
+			}
+		}
 	}
 }
 

@@ -144,7 +144,6 @@ func TestSoundLayer(t *testing.T) {
 
 // Each layer has one fault; among them are such as only one of trial's calls can find.
 func TestFaultyLayers(t *testing.T) {
-	kept := make([]uint64, 3)
 	for name, spoil := range map[string]func(l *trial.Layer){
 		"a step more": func(l *trial.Layer) {
 			l.Table = func(sh api.Shape, hand int, j api.Job, act trial.Act) api.Answer {
@@ -166,9 +165,10 @@ func TestFaultyLayers(t *testing.T) {
 			l.Size = func(sh api.Shape) (int, api.Errno) { return sh.Room, layer.CheckRoom(sh, 4) }
 		},
 		"words beside an error": func(l *trial.Layer) {
-			l.Fresh = func(api.Shape) ([]uint64, api.Errno) { return kept, api.ErrShape }
+			l.Fresh = func(api.Shape) ([]uint64, api.Errno) { return []uint64{0}, api.ErrShape }
 		},
 		"words that are kept": func(l *trial.Layer) {
+			kept := make([]uint64, 3)
 			l.Fresh = func(sh api.Shape) ([]uint64, api.Errno) { return keep(kept, sh) }
 		},
 		"no run": func(l *trial.Layer) {
