@@ -10,7 +10,7 @@ import (
 	"midden/trial"
 )
 
-// Two jobs in every interleaving of their steps, and longer runs by all schedules of the first ones.
+// All schedules of the first steps; behind them the hands take turns. Two jobs without a CAS lost are over by then.
 func TestP6_2_EverySchedule(t *testing.T) {
 	for kinds := range trial.Lists(2, 2) {
 		for schedule := range trial.Lists(2, 13) {
