@@ -106,15 +106,11 @@ func anyWords(from *trial.Source, room int) []uint64 {
 	return out
 }
 
-// anyJobs: up to most for each hand; some hands have none. What a kind doesn't use is any number.
+// anyJobs: of both kinds. What a kind doesn't use is any number.
 func anyJobs(from *trial.Source, hands, most int) [][]api.Job {
-	out := make([][]api.Job, hands)
-	for h := range out {
-		for range from.Below(most + 1) {
-			out[h] = append(out[h], api.Job{Kind: pile.Push + from.Below(2), A: from.End(), B: from.End(), C: from.Below(9), H: anyValue(from)})
-		}
-	}
-	return out
+	return from.Jobs(hands, most, func() api.Job {
+		return api.Job{Kind: pile.Push + from.Below(2), A: from.End(), B: from.End(), C: from.Below(9), H: anyValue(from)}
+	})
 }
 
 func fresh(t *testing.T, n int) []uint64 {

@@ -10,16 +10,8 @@ import (
 )
 
 func TestP6_1_ErrorsInOrder(t *testing.T) {
-	faults := trial.Faults{Shape: room(2), Fine: push(1)}
-	for _, n := range trial.NoRooms(api.MaxRoom) {
-		faults.Shapes = append(faults.Shapes, api.Shape{Objects: 1, Slots: 1, Hands: 1, Roots: 1, Weaks: 1, Room: n})
-	}
-	for _, kind := range trial.NoKinds(pile.Pop) {
-		faults.Wrong = append(faults.Wrong, trial.Wrong{Job: api.Job{Kind: kind, H: 1}, Errno: api.ErrKind})
-	}
-	piles.HoldRefusals(t, faults)
-	faults.Shape, faults.Fine = room(api.MaxRoom), pop
-	piles.HoldRefusals(t, faults)
+	piles.HoldRefusals(t, trial.RoomFaults(room(2), api.MaxRoom, push(1), pile.Pop))
+	piles.HoldRefusals(t, trial.RoomFaults(room(api.MaxRoom), api.MaxRoom, pop, pile.Pop))
 }
 
 // The fields that a kind doesn't use are not looked at, Pop's H among them.

@@ -187,17 +187,10 @@ func TestP6_4_MoreThanRoom(t *testing.T) {
 	}
 }
 
-// By one hand alone there is nothing to choose: free and by any schedule it is one and the same.
 func TestP6_4_OneHand(t *testing.T) {
 	from := trial.Source(12)
 	for range 300 {
-		n := 1 + from.Below(3)
-		hands := anyJobs(&from, 1, 20)
-		x, a, _ := piles.Model(room(n), fresh(t, n), hands, nil, 500)
-		w, b, e := pile.Free(room(n), hands)
-		if e != api.OK || !x.Ended || !slices.Equal(x.Words, w) || !trial.SameAnswers(a, b) {
-			t.Fatal(hands, w, b, e)
-		}
+		piles.HoldOneHand(t, room(1+from.Below(3)), anyJobs(&from, 1, 20)[0])
 	}
 }
 
@@ -210,18 +203,14 @@ func TestP6_4_OneProcessor(t *testing.T) {
 	}
 }
 
-// All goroutines have ended when the call answers. (One that has told so may need a moment to be gone.)
+// All goroutines have ended when the call answers.
 func TestP6_4_NobodyLeft(t *testing.T) {
 	before := runtime.NumGoroutine()
 	from := trial.Source(14)
 	for range 50 {
 		holdFree(t, 2, anyJobs(&from, api.MaxHands, 9))
 	}
-	for range 1000000 {
-		if runtime.NumGoroutine() <= before {
-			return
-		}
-		runtime.Gosched()
+	if !trial.Settles(before, runtime.NumGoroutine, runtime.Gosched) {
+		t.Error(before, runtime.NumGoroutine())
 	}
-	t.Error(before, runtime.NumGoroutine())
 }

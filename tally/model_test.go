@@ -30,19 +30,15 @@ func (s *source) words(room int) []uint64 {
 	return out
 }
 
-// jobs: up to most for each hand, of all kinds and places; some hands have none. What a kind doesn't use is any number.
+// jobs: of all kinds and places. What a kind doesn't use is any number.
 func (s *source) jobs(hands, most, room int, value func() uint64) [][]api.Job {
-	out := make([][]api.Job, hands)
-	for h := range out {
-		for range s.Below(most + 1) {
-			j := api.Job{Kind: tally.Count + s.Below(3), A: s.Below(room), B: s.End(), C: s.Below(9), H: value()}
-			if j.Kind == tally.Sum {
-				j.A = s.End()
-			}
-			out[h] = append(out[h], j)
+	return s.Jobs(hands, most, func() api.Job {
+		j := api.Job{Kind: tally.Count + s.Below(3), A: s.Below(room), B: s.End(), C: s.Below(9), H: value()}
+		if j.Kind == tally.Sum {
+			j.A = s.End()
 		}
-	}
-	return out
+		return j
+	})
 }
 
 func count(stripe int, h uint64) api.Job { return api.Job{Kind: tally.Count, A: stripe, H: h} }

@@ -10,10 +10,7 @@ import (
 )
 
 func TestP5_1_ErrorsInOrder(t *testing.T) {
-	faults := trial.Faults{Shape: api.Shape{Room: 2}, Fine: count(1, 1)}
-	for _, n := range trial.NoRooms(api.MaxRoom) {
-		faults.Shapes = append(faults.Shapes, api.Shape{Objects: 1, Slots: 1, Hands: 1, Roots: 1, Weaks: 1, Room: n})
-	}
+	faults := trial.RoomFaults(api.Shape{Room: 2}, api.MaxRoom, count(1, 1), tally.Most)
 	for _, kind := range trial.NoKinds(tally.Most) {
 		faults.Wrong = append(faults.Wrong, trial.Wrong{Job: api.Job{Kind: kind, A: -1}, Errno: api.ErrKind})
 	}

@@ -130,17 +130,11 @@ func TestP5_2_FreeOfAnyJobs(t *testing.T) {
 	}
 }
 
-// By one hand alone there is nothing to choose: free and by any schedule it is one and the same.
 func TestP5_2_FreeByOneHand(t *testing.T) {
 	from := newSource(7)
 	for range 300 {
 		room := 1 + from.Below(3)
-		hands := from.jobs(1, 20, room, from.value)
-		x, a, _ := tallies.Model(api.Shape{Room: room}, make([]uint64, 2*room), hands, nil, 500)
-		w, b, e := tally.Free(api.Shape{Room: room}, hands)
-		if e != api.OK || !x.Ended || !slices.Equal(x.Words, w) || !trial.SameAnswers(a, b) {
-			t.Fatal(hands, w, b, e)
-		}
+		tallies.HoldOneHand(t, api.Shape{Room: room}, from.jobs(1, 20, room, from.value)[0])
 	}
 }
 
@@ -158,20 +152,16 @@ func TestP5_2_FreeOnOneProcessor(t *testing.T) {
 	}
 }
 
-// All goroutines have ended when the call answers. (One that has told so may need a moment to be gone.)
+// All goroutines have ended when the call answers.
 func TestP5_2_NobodyLeft(t *testing.T) {
 	before := runtime.NumGoroutine()
 	from := newSource(9)
 	for range 50 {
 		tally.Free(api.Shape{Room: 2}, from.jobs(api.MaxHands, 9, 2, from.value))
 	}
-	for range 1000000 {
-		if runtime.NumGoroutine() <= before {
-			return
-		}
-		runtime.Gosched()
+	if !trial.Settles(before, runtime.NumGoroutine, runtime.Gosched) {
+		t.Error(before, runtime.NumGoroutine())
 	}
-	t.Error(before, runtime.NumGoroutine())
 }
 
 // holdBetween fails, if a Sum tells less than the stripes' sum ahead of it, or more than that behind it. It tells

@@ -21,6 +21,21 @@ type Faults struct {
 	Wrong  []Wrong
 }
 
+// RoomFaults: of a layer that looks at Room alone of a shape, up to most, and has the kinds 1 to kinds. The job that it
+// takes is one of them; with another kind it is refused.
+func RoomFaults(sh api.Shape, most int, fine api.Job, kinds int) Faults {
+	f := Faults{Shape: sh, Fine: fine}
+	for _, n := range NoRooms(most) {
+		f.Shapes = append(f.Shapes, api.Shape{Objects: 1, Slots: 1, Hands: 1, Roots: 1, Weaks: 1, Room: n})
+	}
+	for _, kind := range NoKinds(kinds) {
+		bad := fine
+		bad.Kind = kind
+		f.Wrong = append(f.Wrong, Wrong{bad, api.ErrKind})
+	}
+	return f
+}
+
 // A call of Play with one fault, and as many of those behind it as go along with it.
 type call struct {
 	name     string

@@ -3,6 +3,8 @@ package trial
 import (
 	"iter"
 	"math"
+
+	"midden/api"
 )
 
 // A Source makes numbers, always the same ones.
@@ -26,6 +28,17 @@ func (s *Source) Schedule(n int) []int {
 	for i := range out {
 		if out[i] = s.Below(40) - 20; s.Below(8) == 0 {
 			out[i] = s.End()
+		}
+	}
+	return out
+}
+
+// Jobs: up to most for each hand, each made by itself; some hands have none.
+func (s *Source) Jobs(hands, most int, job func() api.Job) [][]api.Job {
+	out := make([][]api.Job, hands)
+	for h := range out {
+		for range s.Below(most + 1) {
+			out[h] = append(out[h], job())
 		}
 	}
 	return out

@@ -125,14 +125,13 @@ func all(l trial.Layer) bool {
 				trial.Load(0, 0, 8), trial.CAS(0, 0, 8, 10),
 			},
 			[][]api.Answer{{trial.Told(4), trial.Told(8)}, {trial.Told(5)}}, []uint64{10, 5, 6})
-		l.HoldRefusals(t, trial.Faults{
-			Shape:  sh,
-			Shapes: []api.Shape{{}, {Room: 5}},
-			Fine:   add(1),
-			Wrong:  []trial.Wrong{{Job: api.Job{Kind: 2, A: -1}, Errno: api.ErrKind}, {Job: api.Job{Kind: 1, A: 3}, Errno: api.ErrArg}},
-		})
+		faults := trial.RoomFaults(sh, 4, add(1), 1)
+		faults.Wrong = append(faults.Wrong,
+			trial.Wrong{Job: api.Job{Kind: 2, A: -1}, Errno: api.ErrKind}, trial.Wrong{Job: api.Job{Kind: 1, A: 3}, Errno: api.ErrArg})
+		l.HoldRefusals(t, faults)
 		l.HoldNothingToDo(t, sh, words, add(1))
 		l.HoldMemory(t, sh, words, hands, []int{0, 1, 2}, 30)
+		l.HoldOneHand(t, sh, hands[0])
 	})
 }
 
@@ -174,6 +173,17 @@ func TestFaultyLayers(t *testing.T) {
 		"no run": func(l *trial.Layer) {
 			l.Free = func(api.Shape, [][]api.Job) ([]uint64, [][]api.Answer, api.Errno) { return nil, nil, api.OK }
 		},
+		"answers of another run": func(l *trial.Layer) {
+			l.Free = func(sh api.Shape, hands [][]api.Job) ([]uint64, [][]api.Answer, api.Errno) {
+				w, a, e := free(sh, hands)
+				for h := range a {
+					for i := range a[h] {
+						a[h][i].Val++
+					}
+				}
+				return w, a, e
+			}
+		},
 		"any number of words":     func(l *trial.Layer) { l.Play = unsized },
 		"spare room that changes": func(l *trial.Layer) { l.Play = changing },
 		"words that are shared":   func(l *trial.Layer) { l.Play = sharing },
@@ -184,6 +194,18 @@ func TestFaultyLayers(t *testing.T) {
 		if !all(l) {
 			t.Error("nothing was heard of", name)
 		}
+	}
+}
+
+func TestSettles(t *testing.T) {
+	left := 9
+	one := func() { left-- }
+	count := func() int { return left }
+	if !trial.Settles(9, count, one) || left != 9 || !trial.Settles(3, count, one) || left != 3 {
+		t.Error("it hasn't waited as long as it must:", left)
+	}
+	if trial.Settles(2, count, func() {}) {
+		t.Error("three are left")
 	}
 }
 
