@@ -145,17 +145,6 @@ func TestP7_1_RoomThatDoesNotDivide(t *testing.T) {
 	}
 }
 
-// lost counts a hand's CAS that were not done.
-func lost(x api.Trace, hand, at int) int {
-	n := 0
-	for _, s := range x.Steps {
-		if s.Hand == hand && s.At == at && s.Act == api.CAS && !s.OK {
-			n++
-		}
-	}
-	return n
-}
-
 // A CAS that isn't done, again and again: hand 1 does a whole job of the same kind between hand 0's load and its CAS.
 func TestP7_1_CASNotDone(t *testing.T) {
 	for _, times := range []uint64{0, 1, 2, 5, 30} {
@@ -174,7 +163,7 @@ func TestP7_1_CASNotDone(t *testing.T) {
 				schedule = append(schedule, 0, 0, 1, 1, 1, 1, 1, 0)
 			}
 			x, a := belts.HoldRun(t, room(api.MaxRoom), words, [][]api.Job{{j}, slices.Repeat([]api.Job{j}, int(times))}, schedule, 1000)
-			if !x.Ended || lost(x, 0, count) != int(times) || len(x.Steps) != 5+8*int(times) || a[0][0] != want {
+			if !x.Ended || trial.CountLost(x, 0, count) != int(times) || len(x.Steps) != 5+8*int(times) || a[0][0] != want {
 				t.Error(j, times, x, a)
 			}
 		}
@@ -192,7 +181,7 @@ func TestP7_1_TurnsPassedBy(t *testing.T) {
 				schedule = append(schedule, 0, 1, 1, 1, 1, 1, 1, 1, 1, 1, 1, 0)
 			}
 			x, a := belts.HoldRun(t, room(n), fresh(t, n), [][]api.Job{{give(5)}, through}, schedule, 1000)
-			if !x.Ended || lost(x, 0, tail) != 0 || len(x.Steps) != 5+12*int(times) || a[0][0] != trial.Told(times) {
+			if !x.Ended || trial.CountLost(x, 0, tail) != 0 || len(x.Steps) != 5+12*int(times) || a[0][0] != trial.Told(times) {
 				t.Error("a give", n, times, x, a)
 			}
 			words := begun(n, 0)
@@ -202,7 +191,7 @@ func TestP7_1_TurnsPassedBy(t *testing.T) {
 				through = append(through, fetch, give(100+i))
 			}
 			x, a = belts.HoldRun(t, room(n), words, [][]api.Job{{fetch}, through}, schedule, 1000)
-			if !x.Ended || lost(x, 0, head) != 0 || len(x.Steps) != 5+12*int(times) || a[0][0] != trial.Told(100+times-1) {
+			if !x.Ended || trial.CountLost(x, 0, head) != 0 || len(x.Steps) != 5+12*int(times) || a[0][0] != trial.Told(100+times-1) {
 				t.Error("a fetch", n, times, x, a)
 			}
 		}
@@ -210,43 +199,23 @@ func TestP7_1_TurnsPassedBy(t *testing.T) {
 }
 
 func TestP7_1_SizeAndFresh(t *testing.T) {
-	for n := 1; n <= api.MaxRoom; n++ {
-		// Of the shape nothing else is looked at.
-		sh := api.Shape{Objects: -1, Slots: math.MaxInt, Hands: math.MinInt, Roots: -7, Weaks: 99, Room: n}
+	belts.HoldFresh(t, api.MaxRoom, func(n int) []uint64 {
 		want := []uint64{0, 0}
 		for i := range n {
 			want = append(want, uint64(2*i))
 		}
-		want = append(want, make([]uint64, n)...)
-		size, e := belt.Size(sh)
-		words, e2 := belt.Fresh(sh)
-		if e != api.OK || e2 != api.OK || size != 2+2*n || !slices.Equal(words, want) {
-			t.Fatal(n, size, e, words, e2)
-		}
-	}
+		return append(want, make([]uint64, n)...)
+	})
 }
 
 // ErrShape, then ErrKind; the hand is any number.
 func TestP7_1_TaskErrors(t *testing.T) {
-	kinds := []int{belt.Give, belt.Fetch}
-	noKinds := trial.NoKinds(belt.Fetch)
-	for _, hand := range append([]int{0, 1, api.MaxHands - 1, api.MaxHands}, trial.Ends()...) {
-		for _, kind := range slices.Concat(kinds, noKinds) {
-			for _, n := range append([]int{1, 2, api.MaxRoom}, trial.NoRooms(api.MaxRoom)...) {
-				want := api.OK
-				switch {
-				case n < 1 || n > api.MaxRoom:
-					want = api.ErrShape
-				case slices.Contains(noKinds, kind):
-					want = api.ErrKind
-				}
-				k, e := belt.Task(room(n), hand, api.Job{Kind: kind, A: -1, B: math.MaxInt, C: math.MinInt, H: math.MaxUint64})
-				if e != want || (k == nil) != (want != api.OK) {
-					t.Errorf("room %d, hand %d, kind %d: %v, %v; want %v", n, hand, kind, k, e, want)
-				}
-			}
+	belts.HoldTaskErrors(t, api.MaxRoom, belt.Fetch, func(_, kind int) api.Errno {
+		if kind != belt.Give && kind != belt.Fetch {
+			return api.ErrKind
 		}
-	}
+		return api.OK
+	})
 }
 
 // A task alone, of hands of whatever number, on memories by hand: shorter than the belt's, longer, and none at all.
@@ -355,7 +324,7 @@ func TestP7_1_AtTheLimits(t *testing.T) {
 	hands := make([][]api.Job, api.MaxHands)
 	for h := range hands {
 		for range api.MaxJobs {
-			hands[h] = append(hands[h], api.Job{Kind: belt.Give + from.Below(2), H: anyValue(&from)})
+			hands[h] = append(hands[h], api.Job{Kind: belt.Give + from.Below(2), H: from.Value()})
 		}
 	}
 	holdWhole(t, api.MaxRoom, hands, from.Schedule(api.MaxSteps))

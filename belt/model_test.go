@@ -73,11 +73,6 @@ func fetchTable(n int, act trial.Act) api.Answer {
 	}
 }
 
-// values are few, so that one is often given again.
-var values = [...]uint64{0, 1, 2, 3, 1 << 32, 1<<63 - 1, 1 << 63, math.MaxUint64 - 1, math.MaxUint64}
-
-func anyValue(from *trial.Source) uint64 { return values[from.Below(len(values))] }
-
 // turns: numbers at which doubling, counting on or a sign passes an end.
 var turns = [...]uint64{0, 1, 2, 7, 1 << 32, 1<<62 - 1, 1 << 62, 1<<63 - 2, 1<<63 - 1, 1 << 63, 1<<63 + 1, math.MaxUint64 - 1, math.MaxUint64}
 
@@ -98,7 +93,7 @@ func anyWords(from *trial.Source, n int) []uint64 {
 		if from.Below(3) == 0 {
 			out[2+i] = 2*p + gaps[from.Below(len(gaps))]
 		}
-		out[2+n+i] = anyValue(from)
+		out[2+n+i] = from.Value()
 	}
 	return out
 }
@@ -106,7 +101,7 @@ func anyWords(from *trial.Source, n int) []uint64 {
 // anyJobs: of both kinds. What a kind doesn't use is any number.
 func anyJobs(from *trial.Source, hands, most int) [][]api.Job {
 	return from.Jobs(hands, most, func() api.Job {
-		return api.Job{Kind: belt.Give + from.Below(2), A: from.End(), B: from.End(), C: from.Below(9), H: anyValue(from)}
+		return api.Job{Kind: belt.Give + from.Below(2), A: from.End(), B: from.End(), C: from.Below(9), H: from.Value()}
 	})
 }
 
@@ -144,26 +139,18 @@ func newLine(n int, first uint64) *line {
 	return l
 }
 
-// A job under way, as the line is told of it.
-type underWay struct {
-	job   api.Job
-	turn  uint64
-	ended bool
-	want  api.Answer
-}
-
-// follow takes a step of a job, and tells what is wrong with it.
-func (l *line) follow(n int, u *underWay, s api.Step) string {
+// follow takes a step of a job. A job notes the turn that it has loaded.
+func (l *line) follow(n int, j *trial.Job, s api.Step) string {
 	back := uint64(n)
-	isGive := u.job.Kind == belt.Give
+	isGive := j.Kind == belt.Give
 	switch {
 	case s.At < 2 && s.Act == api.Load:
-		u.turn = s.Had
+		j.Note = s.Had
 	case s.At < 2 && s.OK && isGive:
 		if s.At != tail || s.Had != l.tail || !l.gone[l.tail-back] {
 			return "a give that takes a turn which isn't next, or whose place isn't free"
 		}
-		l.given[l.tail] = u.job.H
+		l.given[l.tail] = j.H
 		l.tail++
 	case s.At < 2 && s.OK:
 		if s.At != head || s.Had != l.head || !l.stands[l.head] {
@@ -172,13 +159,15 @@ func (l *line) follow(n int, u *underWay, s api.Step) string {
 		l.head++
 	case s.At >= 2+n || s.At < 2:
 	case s.Act == api.Store && isGive:
-		l.stands[u.turn], u.ended, u.want = true, true, trial.Told(u.turn)
+		l.stands[j.Note] = true
+		j.End(trial.Told(j.Note))
 	case s.Act == api.Store:
-		l.gone[u.turn], u.ended, u.want = true, true, trial.Told(l.given[u.turn])
-	case isGive && !l.gone[u.turn-back]:
-		u.ended = true
-	case !isGive && !l.stands[u.turn]:
-		u.ended = true
+		l.gone[j.Note] = true
+		j.End(trial.Told(l.given[j.Note]))
+	case isGive && !l.gone[j.Note-back]:
+		j.End(api.Answer{})
+	case !isGive && !l.stands[j.Note]:
+		j.End(api.Answer{})
 	}
 	return ""
 }
@@ -186,28 +175,7 @@ func (l *line) follow(n int, u *underWay, s api.Step) string {
 // holdLine fails, if the run doesn't go by the line.
 func (l *line) holdLine(t *testing.T, n int, x api.Trace, hands [][]api.Job, answers [][]api.Answer) {
 	t.Helper()
-	jobs := make([]underWay, len(hands))
-	number := make([]int, len(hands))
-	for i, s := range x.Steps {
-		h := s.Hand
-		jobs[h].job = hands[h][number[h]]
-		if fault := l.follow(n, &jobs[h], s); fault != "" {
-			t.Fatalf("step %d of %v: %s", i, x, fault)
-		}
-		if !jobs[h].ended {
-			continue
-		}
-		if number[h] >= len(answers[h]) || answers[h][number[h]] != jobs[h].want {
-			t.Fatalf("step %d of %v: hand %d, job %d: %v; want %v", i, x, h, number[h], answers[h], jobs[h].want)
-		}
-		jobs[h] = underWay{}
-		number[h]++
-	}
-	for h := range hands {
-		if number[h] != len(answers[h]) {
-			t.Fatalf("%v: hand %d has ended %d jobs, but told %d", x, h, number[h], len(answers[h]))
-		}
-	}
+	trial.HoldFollowed(t, x, hands, answers, func(j *trial.Job, s api.Step) string { return l.follow(n, j, s) })
 }
 
 // holdStanding fails, if the words behind a run that has ended are not those of its tail and head: each place is free

@@ -66,8 +66,8 @@ func TestP7_2_AnySchedule(t *testing.T) {
 	for range 1500 {
 		x := holdWhole(t, 1+from.Below(5), anyJobs(&from, 1+from.Below(api.MaxHands), 12), from.Schedule(from.Below(800)))
 		for h := range api.MaxHands {
-			losses[tail] += lost(x, h, tail)
-			losses[head] += lost(x, h, head)
+			losses[tail] += trial.CountLost(x, h, tail)
+			losses[head] += trial.CountLost(x, h, head)
 		}
 	}
 	if losses[tail] < 1000 || losses[head] < 1000 {

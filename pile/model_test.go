@@ -1,7 +1,6 @@
 package pile_test
 
 import (
-	"math"
 	"slices"
 	"testing"
 
@@ -82,11 +81,6 @@ func layOn(head int, i uint64, act trial.Act) {
 	}
 }
 
-// values are few, so that one is often pushed again.
-var values = [...]uint64{0, 1, 2, 3, 1 << 32, 1<<63 - 1, 1 << 63, math.MaxUint64 - 1, math.MaxUint64}
-
-func anyValue(from *trial.Source) uint64 { return values[from.Below(len(values))] }
-
 // anyWords: heads and links that show places, none, and places that aren't there, with tags at both ends.
 func anyWords(from *trial.Source, room int) []uint64 {
 	out := make([]uint64, 2+2*room)
@@ -94,7 +88,7 @@ func anyWords(from *trial.Source, room int) []uint64 {
 	far := [...]uint64{uint64(room) + 1, uint64(room) + 2, 1<<31 - 1, 1 << 31, 1<<32 - 1}
 	for w := range out {
 		if w > spare && w%2 == 1 {
-			out[w] = anyValue(from)
+			out[w] = from.Value()
 			continue
 		}
 		i := uint64(from.Below(room + 1))
@@ -109,7 +103,7 @@ func anyWords(from *trial.Source, room int) []uint64 {
 // anyJobs: of both kinds. What a kind doesn't use is any number.
 func anyJobs(from *trial.Source, hands, most int) [][]api.Job {
 	return from.Jobs(hands, most, func() api.Job {
-		return api.Job{Kind: pile.Push + from.Below(2), A: from.End(), B: from.End(), C: from.Below(9), H: anyValue(from)}
+		return api.Job{Kind: pile.Push + from.Below(2), A: from.End(), B: from.End(), C: from.Below(9), H: from.Value()}
 	})
 }
 
@@ -126,52 +120,40 @@ func fresh(t *testing.T, n int) []uint64 {
 func isLoad(s api.Step, head int) bool { return s.Act == api.Load && s.At == head }
 func isDone(s api.Step, head int) bool { return s.Act == api.CAS && s.At == head && s.OK }
 
-// ends tells, whether the step is the last one of such a job.
-func ends(j api.Job, s api.Step) bool {
-	if j.Kind == pile.Push {
-		return isDone(s, top) || isLoad(s, spare) && index(s.Had) == 0
+// A stack is what lies on a pile by the jobs of runs so far, in the order of P6.2: the last one last.
+type stack []uint64
+
+// follow takes a step of a job. A job notes what it will tell: a Push its place, a Pop its value.
+func (l *stack) follow(j *trial.Job, s api.Step) string {
+	isPush, last := j.Kind == pile.Push, len(*l)-1
+	switch {
+	case isPush && isLoad(s, spare) && index(s.Had) == 0:
+		j.End(api.Answer{})
+	case isPush && isDone(s, spare):
+		j.Note = index(s.Had)
+	case isPush && isDone(s, top):
+		*l = append(*l, j.H)
+		j.End(trial.Told(j.Note))
+	case !isPush && isLoad(s, top) && (index(s.Had) == 0) != (last < 0):
+		return "something is there, and top tells nothing, or the other way"
+	case !isPush && isLoad(s, top) && last < 0:
+		j.End(api.Answer{})
+	case !isPush && isDone(s, top) && last < 0:
+		return "nothing lies there"
+	case !isPush && isDone(s, top):
+		j.Note, *l = (*l)[last], (*l)[:last]
+	case !isPush && isDone(s, spare):
+		j.End(trial.Told(j.Note))
 	}
-	return isDone(s, spare) || isLoad(s, top) && index(s.Had) == 0
+	return ""
 }
 
-// holdPile fails, if the jobs of a run, in the order of P6.2, are not those of a pile on which these values lie, the
-// last one last. It tells what lies there then.
+// holdPile fails, if the jobs of a run are not those of a pile on which these values lie. It tells what lies there then.
 func holdPile(t *testing.T, lies []uint64, x api.Trace, hands [][]api.Job, answers [][]api.Answer) []uint64 {
 	t.Helper()
-	number := make([]int, len(hands))
-	want := make([]api.Answer, len(hands)) // of the Pop under way
-	for n, s := range x.Steps {
-		h := s.Hand
-		j := hands[h][number[h]]
-		switch {
-		case j.Kind == pile.Push && isDone(s, top):
-			lies = append(lies, j.H)
-		case j.Kind == pile.Pop && isLoad(s, top):
-			if (index(s.Had) == 0) != (len(lies) == 0) {
-				t.Fatalf("step %d of %v: top is %x, on the pile lie %v", n, x, s.Had, lies)
-			}
-			want[h] = api.Answer{}
-		case j.Kind == pile.Pop && isDone(s, top):
-			if len(lies) == 0 {
-				t.Fatalf("step %d of %v: nothing lies there", n, x)
-			}
-			want[h] = trial.Told(lies[len(lies)-1])
-			lies = lies[:len(lies)-1]
-		}
-		if !ends(j, s) {
-			continue
-		}
-		if j.Kind == pile.Pop && answers[h][number[h]] != want[h] {
-			t.Fatalf("step %d of %v: hand %d, job %d: %v; want %v", n, x, h, number[h], answers[h][number[h]], want[h])
-		}
-		number[h]++
-	}
-	for h := range hands {
-		if number[h] != len(answers[h]) {
-			t.Fatalf("%v: hand %d has ended %d jobs, but told %d", x, h, number[h], len(answers[h]))
-		}
-	}
-	return lies
+	l := stack(lies)
+	trial.HoldFollowed(t, x, hands, answers, l.follow)
+	return l
 }
 
 // holdPlaces fails, if top and spare don't lead to all places, each once. It tells the values from the top on.

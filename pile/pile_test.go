@@ -119,17 +119,6 @@ func TestP6_1_LinksAroundAgain(t *testing.T) {
 	}
 }
 
-// lost counts a hand's CAS of a head that were not done.
-func lost(x api.Trace, hand, head int) int {
-	n := 0
-	for _, s := range x.Steps {
-		if s.Hand == hand && s.At == head && s.Act == api.CAS && !s.OK {
-			n++
-		}
-	}
-	return n
-}
-
 // A CAS that isn't done, again and again: hand 1 does a whole job between hand 0's load of a head and its CAS.
 func TestP6_1_CASNotDone(t *testing.T) {
 	for _, c := range []struct {
@@ -152,7 +141,7 @@ func TestP6_1_CASNotDone(t *testing.T) {
 			}
 			words := []uint64{tagged(1, 1), tagged(2, 1), 0, 4, 3, 0, 0, 0}
 			x, a := piles.HoldRun(t, room(3), words, hands, schedule, 1000)
-			if !x.Ended || lost(x, 0, c.head) != times || len(x.Steps) != 7+3*times+7*times || a[0][0] != c.want {
+			if !x.Ended || trial.CountLost(x, 0, c.head) != times || len(x.Steps) != 7+3*times+7*times || a[0][0] != c.want {
 				t.Error(c.name, times, x, a)
 			}
 		}
@@ -164,66 +153,41 @@ func TestP6_1_HeadsThatCameAgain(t *testing.T) {
 	words := []uint64{tagged(1, 2), tagged(3, 2), 2, 4, 0, 5, 4, 0, 0, 0} // 4 lies on 5; places 3 and 4 are free
 	sleeps := append([]int{0, 0}, slices.Repeat([]int{1}, 21)...)
 	x, a := piles.HoldRun(t, room(4), words, [][]api.Job{{pop}, {pop, pop, push(6), push(7)}}, append(sleeps, 1, 1, 1, 1, 1, 1, 1), 100)
-	if a[1][3] != trial.Told(1) || lost(x, 0, top) != 1 || a[0][0] != trial.Told(7) {
+	if a[1][3] != trial.Told(1) || trial.CountLost(x, 0, top) != 1 || a[0][0] != trial.Told(7) {
 		t.Error("top", x, a)
 	}
 	// The same place on top, but nothing below it: a CAS without tags would show place 2 again.
 	x, a = piles.HoldRun(t, room(4), words, [][]api.Job{{pop}, {pop, pop, push(6)}}, sleeps, 100)
-	if index(x.Steps[2+21-1].Put) != 2 || lost(x, 0, top) != 1 || a[0][0] != trial.Told(6) || index(x.Words[top]) != 0 {
+	if index(x.Steps[2+21-1].Put) != 2 || trial.CountLost(x, 0, top) != 1 || a[0][0] != trial.Told(6) || index(x.Words[top]) != 0 {
 		t.Error("another place on top", x, a)
 	}
 	x, a = piles.HoldRun(t, room(4), words, [][]api.Job{{push(8)}, {push(6), pop}}, sleeps[:2+14], 100)
-	if lost(x, 0, spare) != 1 || !slices.Equal(a[1], []api.Answer{trial.Told(3), trial.Told(6)}) || a[0][0] != trial.Told(3) {
+	if trial.CountLost(x, 0, spare) != 1 || !slices.Equal(a[1], []api.Answer{trial.Told(3), trial.Told(6)}) || a[0][0] != trial.Told(3) {
 		t.Error("spare", x, a)
 	}
 }
 
 func TestP6_1_SizeAndFresh(t *testing.T) {
-	for n := 1; n <= api.MaxRoom; n++ {
-		// Of the shape nothing else is looked at.
-		sh := api.Shape{Objects: -1, Slots: math.MaxInt, Hands: math.MinInt, Roots: -7, Weaks: 99, Room: n}
+	piles.HoldFresh(t, api.MaxRoom, func(n int) []uint64 {
 		want := []uint64{0, 1}
 		for i := 1; i < n; i++ {
 			want = append(want, uint64(i+1), 0)
 		}
-		want = append(want, 0, 0)
-		size, e := pile.Size(sh)
-		words, e2 := pile.Fresh(sh)
-		if e != api.OK || e2 != api.OK || size != 2+2*n || !slices.Equal(words, want) {
-			t.Fatal(n, size, e, words, e2)
-		}
-	}
+		return append(want, 0, 0)
+	})
 }
 
 // ErrShape, then ErrArg of the hand, then ErrKind.
 func TestP6_1_TaskErrors(t *testing.T) {
-	expect := func(n, hand, kind int, want api.Errno) {
-		t.Helper()
-		k, e := pile.Task(room(n), hand, api.Job{Kind: kind, A: -1, B: math.MaxInt, C: math.MinInt, H: math.MaxUint64})
-		if e != want || (k == nil) != (want != api.OK) {
-			t.Errorf("room %d, hand %d, kind %d: %v, %v; want %v", n, hand, kind, k, e, want)
+	piles.HoldTaskErrors(t, api.MaxRoom, pile.Pop, func(hand, kind int) api.Errno {
+		switch {
+		case hand < 0 || hand >= api.MaxHands:
+			return api.ErrArg
+		case kind != pile.Push && kind != pile.Pop:
+			return api.ErrKind
 		}
-	}
-	hands := []int{0, 1, api.MaxHands - 1}
-	noHands := append([]int{api.MaxHands, api.MaxHands + 1, 1 << 32}, trial.Ends()...)
-	kinds := []int{pile.Push, pile.Pop}
-	noKinds := trial.NoKinds(pile.Pop)
-	for _, hand := range slices.Concat(hands, noHands) {
-		for _, kind := range slices.Concat(kinds, noKinds) {
-			for _, n := range trial.NoRooms(api.MaxRoom) {
-				expect(n, hand, kind, api.ErrShape)
-			}
-			for _, n := range []int{1, 2, api.MaxRoom} {
-				want := api.OK
-				if slices.Contains(noHands, hand) {
-					want = api.ErrArg
-				} else if slices.Contains(noKinds, kind) {
-					want = api.ErrKind
-				}
-				expect(n, hand, kind, want)
-			}
-		}
-	}
+		return api.OK
+	})
 }
 
 // A task alone, on memories by hand: shorter than the pile's, longer, and none at all.
@@ -335,7 +299,7 @@ func TestP6_1_AtTheLimits(t *testing.T) {
 	hands := make([][]api.Job, api.MaxHands)
 	for h := range hands {
 		for range api.MaxJobs {
-			hands[h] = append(hands[h], api.Job{Kind: pile.Push + from.Below(2), H: anyValue(&from)})
+			hands[h] = append(hands[h], api.Job{Kind: pile.Push + from.Below(2), H: from.Value()})
 		}
 	}
 	holdWhole(t, api.MaxRoom, hands, from.Schedule(api.MaxSteps))

@@ -50,8 +50,8 @@ func TestP6_2_AnySchedule(t *testing.T) {
 	for range 1500 {
 		x := holdWhole(t, 1+from.Below(5), anyJobs(&from, 1+from.Below(api.MaxHands), 12), from.Schedule(from.Below(800)))
 		for h := range api.MaxHands {
-			losses[top] += lost(x, h, top)
-			losses[spare] += lost(x, h, spare)
+			losses[top] += trial.CountLost(x, h, top)
+			losses[spare] += trial.CountLost(x, h, spare)
 		}
 	}
 	if losses[top] < 1000 || losses[spare] < 1000 {

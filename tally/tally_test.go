@@ -99,20 +99,7 @@ func TestP5_1_MostRaisedByOthers(t *testing.T) {
 }
 
 func TestP5_1_SizeAndFresh(t *testing.T) {
-	for room := 1; room <= api.MaxRoom; room++ {
-		// Of the shape nothing else is looked at.
-		sh := api.Shape{Objects: -1, Slots: math.MaxInt, Hands: math.MinInt, Roots: -7, Weaks: 99, Room: room}
-		size, e := tally.Size(sh)
-		words, e2 := tally.Fresh(sh)
-		if e != api.OK || e2 != api.OK || size != 2*room || !slices.Equal(words, make([]uint64, 2*room)) {
-			t.Fatal(room, size, e, words, e2)
-		}
-		words[0] = 9
-		_ = append(words, 9)
-		if again, _ := tally.Fresh(sh); again[0] != 0 {
-			t.Error("the words are shared")
-		}
-	}
+	tallies.HoldFresh(t, api.MaxRoom, func(room int) []uint64 { return make([]uint64, 2*room) })
 }
 
 func TestP5_1_TaskErrors(t *testing.T) {

@@ -22,6 +22,12 @@ func (s *Source) End() int {
 	return all[s.Below(len(all))]
 }
 
+// Value: one of Values.
+func (s *Source) Value() uint64 {
+	all := Values()
+	return all[s.Below(len(all))]
+}
+
 // Schedule: so many numbers, most of them small, some at both ends.
 func (s *Source) Schedule(n int) []int {
 	out := make([]int, n)
@@ -47,6 +53,11 @@ func (s *Source) Jobs(hands, most int, job func() api.Job) [][]api.Job {
 // Ends: numbers at both ends of int, and those below 0 that come first.
 func Ends() []int {
 	return []int{math.MinInt, math.MinInt + 1, -2, -1, math.MaxInt - 1, math.MaxInt}
+}
+
+// Values: words at both ends and at those of their halves. They are few, so that one often comes again.
+func Values() []uint64 {
+	return []uint64{0, 1, 2, 3, 1 << 32, 1<<63 - 1, 1 << 63, math.MaxUint64 - 1, math.MaxUint64}
 }
 
 // NoRooms: what is no Room from 1 to most; some of them pass the end, when they are doubled.

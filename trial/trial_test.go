@@ -132,6 +132,13 @@ func all(l trial.Layer) bool {
 		l.HoldNothingToDo(t, sh, words, add(1))
 		l.HoldMemory(t, sh, words, hands, []int{0, 1, 2}, 30)
 		l.HoldOneHand(t, sh, hands[0])
+		l.HoldFresh(t, 4, func(n int) []uint64 { return make([]uint64, n) })
+		l.HoldTaskErrors(t, 4, 1, func(_, kind int) api.Errno { // of a job with A below 0
+			if kind != 1 {
+				return api.ErrKind
+			}
+			return api.ErrArg
+		})
 	})
 }
 
@@ -159,6 +166,45 @@ func TestFaultyLayers(t *testing.T) {
 		},
 		"a task of another hand": func(l *trial.Layer) {
 			l.Task = func(sh api.Shape, hand int, j api.Job) (turn.Task, api.Errno) { return task(sh, 0, j) }
+		},
+		"a task of no room": func(l *trial.Layer) {
+			l.Task = func(sh api.Shape, hand int, j api.Job) (turn.Task, api.Errno) {
+				return task(api.Shape{Room: 3}, hand, j)
+			}
+		},
+		"hands of some numbers alone": func(l *trial.Layer) {
+			l.Task = func(sh api.Shape, hand int, j api.Job) (turn.Task, api.Errno) {
+				if hand == api.MaxHands {
+					return nil, api.ErrKind
+				}
+				return task(sh, hand, j)
+			}
+		},
+		"a task beside an error": func(l *trial.Layer) {
+			l.Task = func(sh api.Shape, hand int, j api.Job) (turn.Task, api.Errno) {
+				k, e := task(sh, hand, j)
+				if k == nil {
+					k = &adding{}
+				}
+				return k, e
+			}
+		},
+		"a room that begins otherwise": func(l *trial.Layer) {
+			l.Fresh = func(sh api.Shape) ([]uint64, api.Errno) {
+				words, e := fresh(sh)
+				if sh.Room == 4 {
+					words[3] = 1
+				}
+				return words, e
+			}
+		},
+		"a shape that is looked at": func(l *trial.Layer) {
+			l.Size = func(sh api.Shape) (int, api.Errno) {
+				if sh.Objects < 0 {
+					return 0, api.ErrShape
+				}
+				return size(sh)
+			}
 		},
 		"a size beside an error": func(l *trial.Layer) {
 			l.Size = func(sh api.Shape) (int, api.Errno) { return sh.Room, layer.CheckRoom(sh, 4) }
@@ -193,6 +239,49 @@ func TestFaultyLayers(t *testing.T) {
 		spoil(&l)
 		if !all(l) {
 			t.Error("nothing was heard of", name)
+		}
+	}
+}
+
+// A follower of the layer on trial; with one fault each, it is heard of.
+func TestFollowed(t *testing.T) {
+	hands := [][]api.Job{{add(1), add(2)}, {add(3)}, nil}
+	x, a, _ := play(api.Shape{Room: 3}, []uint64{4, 5, 6}, hands, []int{0, 1, 0}, 7)
+	if trial.CountLost(x, 0, 0) != 0 || trial.CountLost(x, 1, 0) != 1 || trial.CountLost(x, 1, 1) != 0 {
+		t.Fatal("the CAS that were not done", x)
+	}
+	follow := func(j *trial.Job, s api.Step) string {
+		switch {
+		case s.Act == api.Load:
+			if j.Steps == 1 && (j.Note != 0 || j.Ended || j.Want != api.Answer{}) {
+				return "a job that isn't new"
+			}
+			j.Note = s.Had
+		case s.OK && (s.Hand != j.Hand || s.Put-s.Had != j.H):
+			return "another job's step"
+		case s.OK:
+			j.End(trial.Told(j.Note))
+		case j.Steps%2 != 0:
+			return "an odd step"
+		}
+		return ""
+	}
+	more := append(slices.Clone(a[:2]), []api.Answer{{}})
+	for _, c := range []struct {
+		name   string
+		told   [][]api.Answer
+		follow func(j *trial.Job, s api.Step) string
+		heard  bool
+	}{
+		{"nothing", a, follow, false},
+		{"an answer too many", more, follow, true},
+		{"an answer too few", [][]api.Answer{a[0][:1], a[1], nil}, follow, true},
+		{"no end", a, func(*trial.Job, api.Step) string { return "" }, true},
+		{"a fault", a, func(j *trial.Job, s api.Step) string { follow(j, s); return "a fault" }, true},
+		{"another answer", a, func(j *trial.Job, s api.Step) string { follow(j, s); j.Want.Val++; return "" }, true},
+	} {
+		if hears(func(t trial.T) { trial.HoldFollowed(t, x, hands, c.told, c.follow) }) != c.heard {
+			t.Error(c.name)
 		}
 	}
 }
