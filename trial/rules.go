@@ -147,26 +147,44 @@ func (f Faults) ofJobs(size int) []call {
 	return out
 }
 
+// idle: hands that have nothing to do.
+func idle() [][][]api.Job {
+	return [][][]api.Job{nil, {}, {nil}, {nil, {}, nil}, make([][]api.Job, api.MaxHands)}
+}
+
 // HoldNothingToDo fails, if no hands, hands without jobs, or no steps give anything but the words as they are.
 func (l Layer) HoldNothingToDo(t T, sh api.Shape, words []uint64, fine api.Job) {
 	t.Helper()
-	fresh, _ := l.Fresh(sh)
-	for _, hands := range [][][]api.Job{nil, {}, {nil}, {nil, {}, nil}, make([][]api.Job, api.MaxHands)} {
-		none := make([][]api.Answer, len(hands))
+	l.HoldNothingPlayed(t, sh, words, fine)
+	for _, hands := range idle() {
+		l.HoldNothingFree(t, sh, hands)
+	}
+}
+
+// HoldNothingPlayed: Play's part of it.
+func (l Layer) HoldNothingPlayed(t T, sh api.Shape, words []uint64, fine api.Job) {
+	t.Helper()
+	for _, hands := range idle() {
 		for _, schedule := range [][]int{nil, {}, {3, -1}} {
 			for _, most := range []int{0, 5} {
 				x, a, e := l.Play(sh, words, hands, schedule, most)
-				if e != api.OK || !SameTrace(x, api.Trace{Words: words, Ended: true}) || !SameAnswers(a, none) {
+				if e != api.OK || !SameTrace(x, api.Trace{Words: words, Ended: true}) || !SameAnswers(a, make([][]api.Answer, len(hands))) {
 					t.Errorf("%v: %v %v %v", hands, x, a, e)
 				}
 			}
-		}
-		if w, a, e := l.Free(sh, hands); e != api.OK || !slices.Equal(w, fresh) || !SameAnswers(a, none) {
-			t.Errorf("free, %v: %v %v %v", hands, w, a, e)
 		}
 	}
 	x, a, e := l.Play(sh, words, [][]api.Job{{fine}, nil}, []int{0}, 0)
 	if e != api.OK || !SameTrace(x, api.Trace{Words: words}) || !SameAnswers(a, make([][]api.Answer, 2)) {
 		t.Errorf("no step: %v %v %v", x, a, e)
+	}
+}
+
+// HoldNothingFree: Free's part, for a layer that doesn't take any number of hands.
+func (l Layer) HoldNothingFree(t T, sh api.Shape, hands [][]api.Job) {
+	t.Helper()
+	fresh, _ := l.Fresh(sh)
+	if w, a, e := l.Free(sh, hands); e != api.OK || !slices.Equal(w, fresh) || !SameAnswers(a, make([][]api.Answer, len(hands))) {
+		t.Errorf("free, %v: %v %v %v", hands, w, a, e)
 	}
 }
