@@ -153,47 +153,8 @@ func holdWhole(t *testing.T, hands, each int, schedule []int) (api.Trace, [][]ap
 	return x, a
 }
 
-// spotOf: where a run stands behind a schedule, told by all that its going on hangs on, and by what it told so far; and
-// how many hands go on.
-func spotOf(t *testing.T, sh api.Shape, words []uint64, hands [][]api.Job, schedule []int) (spot string, going int) {
-	t.Helper()
-	made := make([][]turn.Task, len(hands))
-	x, a, e := turn.Play(words, hands, schedule, len(schedule), func(hand int, j api.Job) (turn.Task, api.Errno) {
-		k, e := bell.Task(sh, hand, j)
-		made[hand] = append(made[hand], k)
-		return k, e
-	})
-	if e != api.OK {
-		t.Fatal(sh, hands, e)
-	}
-	spot = fmt.Sprint(x.Words, a)
-	for h, own := range made {
-		if n := len(a[h]); n < len(own) {
-			spot += fmt.Sprintf(" %+v", own[n])
-			going++
-		}
-	}
-	return spot, going
-}
-
-// everyOrder tells of each spot that the hands can come to, and of each step from there, one schedule that leads to it.
-// (A hand that waits comes back to where it was: so there are not many.) It answers how many spots there are.
+// everyOrder goes through each order of the steps of hands with Rings alone.
 func everyOrder(t *testing.T, sh api.Shape, words []uint64, hands [][]api.Job, hold func(schedule []int)) int {
 	t.Helper()
-	seen := map[string]struct{}{}
-	for todo := [][]int{nil}; len(todo) > 0; todo = todo[1:] {
-		schedule := todo[0]
-		hold(schedule)
-		spot, going := spotOf(t, sh, words, hands, schedule)
-		if _, known := seen[spot]; known {
-			continue
-		}
-		if seen[spot] = struct{}{}; len(seen) > 100000 {
-			t.Fatal("there is no end of it", sh, words, hands)
-		}
-		for pick := range going {
-			todo = append(todo, append(slices.Clip(schedule), pick))
-		}
-	}
-	return len(seen)
+	return bells.EveryOrder(t, sh, words, hands, func(k turn.Task) string { return fmt.Sprintf("%+v", k) }, hold)
 }

@@ -1,7 +1,9 @@
 package trial_test
 
 import (
+	"fmt"
 	"slices"
+	"strconv"
 	"testing"
 
 	"midden/api"
@@ -338,4 +340,60 @@ func crowding(sh api.Shape, words []uint64, hands [][]api.Job, schedule []int, m
 		a[h], list = list[:n], list[n:]
 	}
 	return x, a, e
+}
+
+// stateOf: all that the going on of an adding hangs on.
+func stateOf(k turn.Task) string {
+	a := k.(*adding)
+	return strconv.FormatUint(a.w, 10) + strconv.FormatBool(a.loaded)
+}
+
+// Each run by each schedule comes by spots that were told of, and by no others.
+func TestEveryOrder(t *testing.T) {
+	sh, words := api.Shape{Room: 1}, []uint64{0}
+	hands := [][]api.Job{{add(1), add(2)}, nil, {add(4)}}
+	spotOf := func(schedule []int) string {
+		x, a, _ := play(sh, words, hands, schedule, len(schedule))
+		loaded := make([]string, len(hands))
+		for _, s := range x.Steps {
+			loaded[s.Hand] = ""
+			if s.Act == api.Load {
+				loaded[s.Hand] = fmt.Sprint(s.Had)
+			}
+		}
+		return fmt.Sprint(x.Words, a, loaded)
+	}
+	told := map[string]int{}
+	ended := 0
+	spots := sound().EveryOrder(t, sh, words, hands, stateOf, func(schedule []int) {
+		told[spotOf(schedule)]++
+		if x, _, _ := play(sh, words, hands, schedule, len(schedule)); x.Ended {
+			ended++
+		}
+	})
+	if ended < 3 || spots < len(told) {
+		t.Error(ended, spots, len(told))
+	}
+	for schedule := range trial.Lists(2, 10) {
+		for n := range len(schedule) + 1 {
+			if told[spotOf(schedule[:n])] == 0 {
+				t.Fatal("not told of:", schedule[:n])
+			}
+		}
+	}
+	if n := sound().EveryOrder(t, sh, words, nil, stateOf, func([]int) {}); n != 1 {
+		t.Error("no hands:", n)
+	}
+}
+
+func TestEveryOrderWithoutEnd(t *testing.T) {
+	sh, words, hands := api.Shape{Room: 1}, []uint64{0}, slices.Repeat([][]api.Job{{add(1), add(1), add(1), add(1)}}, 4)
+	n := 0
+	other := func(turn.Task) string { n++; return strconv.Itoa(n) }
+	if !hears(func(t trial.T) { sound().EveryOrder(t, sh, words, hands, other, func([]int) {}) }) {
+		t.Error("it has come to an end")
+	}
+	if !hears(func(t trial.T) { sound().EveryOrder(t, sh, words, [][]api.Job{{{}}}, stateOf, func([]int) {}) }) {
+		t.Error("a job that is none")
+	}
 }
