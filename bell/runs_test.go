@@ -182,11 +182,12 @@ func holdFree(t *testing.T, n, each int) {
 
 func TestP9_4_Free(t *testing.T) {
 	for n := 1; n <= api.MaxHands; n++ {
-		for _, each := range []int{0, 1, 2, 3, 17, api.MaxJobs} {
+		for _, each := range []int{0, 1, 2, 3, 17} {
 			for range 10 {
 				holdFree(t, n, each)
 			}
 		}
+		holdFree(t, n, api.MaxJobs) // once: on a machine that has much else to do each round takes long
 	}
 }
 

@@ -207,7 +207,7 @@ func TestP3_5_OneWordForAll(t *testing.T) {
 // Each hand waits for the one ahead of it, around and around: by every schedule that ends, so it must free, on
 // one processor too. Hands that run one behind the other would wait for ever.
 func TestP3_5_OneWaitsForAnother(t *testing.T) {
-	const rounds = 60
+	const rounds = 20
 	hands := make([][]api.Job, api.MaxHands)
 	for h := range hands {
 		for i := range rounds {
