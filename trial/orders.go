@@ -16,11 +16,22 @@ const mostSpots = 100000
 // What a task's going on hangs on, state tells.
 func (l Layer) EveryOrder(t T, sh api.Shape, words []uint64, hands [][]api.Job, state func(turn.Task) string, hold func(schedule []int)) int {
 	t.Helper()
+	return l.EveryPast(t, sh, words, hands, state, func(schedule []int) string {
+		hold(schedule)
+		return ""
+	})
+}
+
+// EveryPast is EveryOrder for what hangs on how a run came to a spot, too: that hold tells, and two spots are the same
+// only where it is.
+func (l Layer) EveryPast(t T, sh api.Shape, words []uint64, hands [][]api.Job, state func(turn.Task) string, hold func(schedule []int) string) int {
+	t.Helper()
 	seen := map[string]struct{}{}
 	for todo := [][]int{nil}; len(todo) > 0; todo = todo[1:] {
 		schedule := todo[0]
-		hold(schedule)
+		past := hold(schedule)
 		spot, going := l.spotOf(t, sh, words, hands, state, schedule)
+		spot += "\n" + past
 		if _, known := seen[spot]; known {
 			continue
 		}

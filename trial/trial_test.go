@@ -386,6 +386,26 @@ func TestEveryOrder(t *testing.T) {
 	}
 }
 
+// Who was first stands in no word, when both have ended: it is told of by the past alone.
+func TestEveryPast(t *testing.T) {
+	sh, words, hands := api.Shape{Room: 2}, []uint64{0, 0}, [][]api.Job{{add(1)}, {{Kind: 1, A: 1, H: 1}}}
+	firsts := map[int]int{}
+	pasts := sound().EveryPast(t, sh, words, hands, stateOf, func(schedule []int) string {
+		x, _, _ := play(sh, words, hands, schedule, len(schedule))
+		if len(x.Steps) == 0 {
+			return ""
+		}
+		if x.Ended {
+			firsts[x.Steps[0].Hand]++
+		}
+		return strconv.Itoa(x.Steps[0].Hand)
+	})
+	spots := sound().EveryOrder(t, sh, words, hands, stateOf, func([]int) {})
+	if spots != 9 || pasts != 1+2+2+4*2 || firsts[0] == 0 || firsts[1] == 0 {
+		t.Error(spots, pasts, firsts)
+	}
+}
+
 func TestEveryOrderWithoutEnd(t *testing.T) {
 	sh, words, hands := api.Shape{Room: 1}, []uint64{0}, slices.Repeat([][]api.Job{{add(1), add(1), add(1), add(1)}}, 4)
 	n := 0
