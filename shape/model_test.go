@@ -3,7 +3,6 @@ package shape_test
 import (
 	"fmt"
 	"iter"
-	"math"
 	"slices"
 	"strconv"
 	"strings"
@@ -123,64 +122,6 @@ func everyShape() iter.Seq[api.Shape] {
 func someShapes() iter.Seq[api.Shape] {
 	return shapes([]int{1, 2, 3, 10, api.MaxObjects - 1, api.MaxObjects}, span(0, api.MaxSlots), []int{1, 2, 3, api.MaxHands - 1},
 		[]int{1, 2, 3, api.MaxRoots}, []int{0, 1, 2, 11, api.MaxWeaks})
-}
-
-// A field is a number of a shape, and from where to where it is right.
-type field struct {
-	name        string
-	of          func(sh *api.Shape) *int
-	least, most int
-}
-
-func fields() []field {
-	return []field{
-		{"Objects", func(sh *api.Shape) *int { return &sh.Objects }, 1, 64},
-		{"Slots", func(sh *api.Shape) *int { return &sh.Slots }, 0, 4},
-		{"Hands", func(sh *api.Shape) *int { return &sh.Hands }, 1, 7},
-		{"Roots", func(sh *api.Shape) *int { return &sh.Roots }, 1, 8},
-		{"Weaks", func(sh *api.Shape) *int { return &sh.Weaks }, 0, 16},
-	}
-}
-
-// wrong: numbers that the field refuses; some of them pass the end of int, when they are added up or multiplied, or are
-// right in their lower half alone.
-func (f field) wrong() []int {
-	return append([]int{f.least - 1, f.least - 2, f.most + 1, f.most + 2, 1<<32 + f.least, 1<<32 + f.most, 1 << 61, 1 << 62, -1 << 62,
-		math.MaxInt / 7, math.MaxInt - 7}, trial.Ends()...)
-}
-
-// wrongShapes: each field wrong in a right shape, and each two of them.
-func wrongShapes() []api.Shape {
-	var out []api.Shape
-	for _, sh := range rightShapes() {
-		for i, f := range fields() {
-			for _, n := range f.wrong() {
-				one := sh
-				*f.of(&one) = n
-				out = append(out, one)
-				for _, g := range fields()[i+1:] {
-					for _, m := range []int{math.MinInt, g.least - 1, g.most + 1, math.MaxInt} {
-						two := one
-						*g.of(&two) = m
-						out = append(out, two)
-					}
-				}
-			}
-		}
-	}
-	return append(out, api.Shape{}, api.Shape{Room: 5}, api.Shape{Objects: math.MinInt, Slots: math.MinInt, Hands: math.MinInt, Roots: math.MinInt, Weaks: math.MinInt},
-		api.Shape{Objects: math.MaxInt, Slots: math.MaxInt, Hands: math.MaxInt, Roots: math.MaxInt, Weaks: math.MaxInt})
-}
-
-// rightShapes: the example's, the least and the greatest one, one without slots and one without weak words.
-func rightShapes() []api.Shape {
-	return []api.Shape{
-		example,
-		{Objects: 1, Hands: 1, Roots: 1},
-		{Objects: 64, Slots: 4, Hands: 7, Roots: 8, Weaks: 16},
-		{Objects: 9, Slots: 0, Hands: 3, Roots: 2, Weaks: 5, Room: -1},
-		{Objects: 5, Slots: 3, Hands: 2, Roots: 7, Weaks: 0, Room: math.MaxInt},
-	}
 }
 
 // example: two objects with a slot each, one hand with two roots, one weak word.

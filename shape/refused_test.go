@@ -21,7 +21,7 @@ func holdNoShape(t *testing.T, sh api.Shape, n, m int) {
 
 // ErrShape comes ahead of all others: of arguments that would be right, and of those that never are.
 func TestP12_1_NoShape(t *testing.T) {
-	for _, sh := range wrongShapes() {
+	for _, sh := range trial.WrongShapes() {
 		if e := shape.Check(sh); e != api.ErrShape {
 			t.Errorf("%+v: %d", sh, e)
 		}
@@ -40,16 +40,16 @@ func TestP12_1_NoShape(t *testing.T) {
 
 // At a limit a field is taken, one past it it is refused, whatever the others are.
 func TestP12_1_LimitsOfTheFields(t *testing.T) {
-	for _, sh := range rightShapes() {
-		for _, f := range fields() {
-			for n := f.least - 3; n <= f.most+3; n++ {
+	for _, sh := range trial.RightShapes() {
+		for _, f := range trial.Fields() {
+			for n := f.Least - 3; n <= f.Most+3; n++ {
 				turned, want := sh, api.OK
-				*f.of(&turned) = n
-				if n < f.least || n > f.most {
+				*f.Of(&turned) = n
+				if n < f.Least || n > f.Most {
 					want = api.ErrShape
 				}
 				if e := shape.Check(turned); e != want {
-					t.Errorf("%s %d in %+v: %d; want %d", f.name, n, sh, e, want)
+					t.Errorf("%s %d in %+v: %d; want %d", f.Name, n, sh, e, want)
 				}
 			}
 		}
@@ -63,7 +63,7 @@ func outside(first, last int) []int {
 }
 
 func TestP12_1_NoSuchWord(t *testing.T) {
-	for _, sh := range rightShapes() {
+	for _, sh := range trial.RightShapes() {
 		for _, n := range outside(0, sh.Hands-1) {
 			holdPlace(t, sh, ack(n), 0, api.ErrArg)
 			for _, r := range append(span(0, sh.Roots), trial.Ends()...) {
@@ -138,11 +138,11 @@ func TestP12_1_NoSuchPlace(t *testing.T) {
 
 // A call that is refused changes nothing for the next one, and a call with one shape nothing for one with another.
 func TestP12_1_NothingIsKept(t *testing.T) {
-	wrong := wrongShapes()
-	for i, sh := range rightShapes() {
+	wrong := trial.WrongShapes()
+	for i, sh := range trial.RightShapes() {
 		want := layout(sh)
 		for k := range 40 {
-			other := rightShapes()[(i+k)%len(rightShapes())]
+			other := trial.RightShapes()[(i+k)%len(trial.RightShapes())]
 			bad := wrong[(i*97+k*31)%len(wrong)]
 			shape.Fresh(bad)
 			shape.Fresh(other)

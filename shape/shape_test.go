@@ -161,7 +161,7 @@ func TestP12_1_EveryWord(t *testing.T) {
 
 // Room isn't looked at, by any call.
 func TestP12_1_RoomIsNotLookedAt(t *testing.T) {
-	for _, sh := range rightShapes() {
+	for _, sh := range trial.RightShapes() {
 		want, _ := shape.Fresh(sh)
 		for _, room := range append([]int{0, 1, api.MaxRoom, api.MaxRoom + 1, 1 << 32}, trial.Ends()...) {
 			other := sh
@@ -304,7 +304,7 @@ func TestP12_3_FewestAndMostObjects(t *testing.T) {
 
 // The words at the beginning tell the phase Idle, the colour 0 and the round 0, and a free list whose tag is 0.
 func TestP12_3_FreshWordsAreRead(t *testing.T) {
-	for _, sh := range rightShapes() {
+	for _, sh := range trial.RightShapes() {
 		words, _ := shape.Fresh(sh)
 		if phase, colour, round := word.Parts(words[api.Phase]); phase != api.Idle || colour != 0 || round != 0 {
 			t.Errorf("%+v: %d, %d, %d", sh, phase, colour, round)
@@ -318,7 +318,7 @@ func TestP12_3_FreshWordsAreRead(t *testing.T) {
 // Each answer is memory of its own: what is written over it, and over its spare room, is seen in no other one, made ahead
 // or behind.
 func TestP12_3_FreshIsNewEachTime(t *testing.T) {
-	for _, sh := range rightShapes() {
+	for _, sh := range trial.RightShapes() {
 		first, _ := shape.Fresh(sh)
 		want := slices.Clone(first)
 		for range 3 {

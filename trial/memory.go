@@ -13,31 +13,31 @@ type handed struct {
 	schedule []int
 }
 
-// roomy: the same list, with some more in its spare room.
-func roomy[E any](list []E, more E) []E {
+// Roomy: the same list, with some more in its spare room.
+func Roomy[E any](list []E, more E) []E {
 	return append(slices.Clip(slices.Clone(list)), more, more)[:len(list)]
 }
 
 func hand(words []uint64, hands [][]api.Job, schedule []int) handed {
-	h := handed{roomy(words, 77), roomy(hands, nil), roomy(schedule, 77)}
+	h := handed{Roomy(words, 77), Roomy(hands, nil), Roomy(schedule, 77)}
 	for i, jobs := range h.hands {
-		h.hands[i] = roomy(jobs, api.Job{Kind: -9, A: -9})
+		h.hands[i] = Roomy(jobs, api.Job{Kind: -9, A: -9})
 	}
 	return h
 }
 
-// whole: a list with its spare room.
-func whole[E any](list []E) []E { return list[:cap(list)] }
+// Whole: a list with its spare room.
+func Whole[E any](list []E) []E { return list[:cap(list)] }
 
 func (h handed) same(o handed) bool {
-	jobs := func(a, b []api.Job) bool { return slices.Equal(whole(a), whole(b)) }
-	return slices.Equal(whole(h.words), whole(o.words)) && slices.Equal(whole(h.schedule), whole(o.schedule)) &&
-		slices.EqualFunc(whole(h.hands), whole(o.hands), jobs)
+	jobs := func(a, b []api.Job) bool { return slices.Equal(Whole(a), Whole(b)) }
+	return slices.Equal(Whole(h.words), Whole(o.words)) && slices.Equal(Whole(h.schedule), Whole(o.schedule)) &&
+		slices.EqualFunc(Whole(h.hands), Whole(o.hands), jobs)
 }
 
-// spoil writes over an answer and over its spare room.
-func spoil[E any](list []E, with E) {
-	all := whole(list)
+// Spoil writes over an answer and over its spare room.
+func Spoil[E any](list []E, with E) {
+	all := Whole(list)
 	for i := range all {
 		all[i] = with
 	}
@@ -54,25 +54,25 @@ func (l Layer) HoldMemory(t T, sh api.Shape, words []uint64, hands [][]api.Job, 
 		if e != api.OK || !SameTrace(x, wantX) || !SameAnswers(a, wantA) {
 			t.Fatalf("Play: %v %v %v; want %v %v", x, a, e, wantX, wantA)
 		}
-		spoil(x.Steps, api.Step{Hand: -5})
-		spoil(x.Words, 55)
+		Spoil(x.Steps, api.Step{Hand: -5})
+		Spoil(x.Words, 55)
 		holdApart(t, a, wantA)
 	}
 	first, _ := l.Fresh(sh)
 	fresh := slices.Clone(first)
-	spoil(first, 55)
+	Spoil(first, 55)
 	for range 3 {
 		w, a, e := l.Free(sh, given.hands)
 		if e != api.OK || len(w) != len(words) || len(a) != len(hands) {
 			t.Fatalf("Free: %v %v %v", w, a, e)
 		}
-		spoil(w, 55)
+		Spoil(w, 55)
 		holdApart(t, a, CloneAnswers(a))
 		again, _ := l.Fresh(sh)
 		if !slices.Equal(fresh, again) {
 			t.Fatalf("Fresh: %v; want %v", again, fresh)
 		}
-		spoil(again, 55)
+		Spoil(again, 55)
 	}
 	if !given.same(held) {
 		t.Errorf("what was handed in has changed: %v; was %v", given, held)
@@ -86,7 +86,7 @@ func holdApart(t T, a, want [][]api.Answer) {
 		if !slices.Equal(a[h], want[h]) {
 			t.Fatalf("the answers of hand %d share memory with those of another one: %v; want %v", h, a[h], want[h])
 		}
-		spoil(a[h], api.Answer{Val: uint64(h)})
+		Spoil(a[h], api.Answer{Val: uint64(h)})
 	}
 	for h := range a {
 		for _, x := range a[h] {

@@ -1,5 +1,6 @@
-// Package trial holds what the tests of the layers of tasks do alike: a layer is held against its chapter's tables as
-// plain code, and against the rules that all layers share. The program itself doesn't call it.
+// Package trial holds what the tests of the layers do alike: a layer of tasks is held against its chapter's tables as
+// plain code, and against the rules that all layers share; heaps' shapes and views are made and held against one another.
+// The program itself doesn't call it.
 package trial
 
 import (
