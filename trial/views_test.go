@@ -5,6 +5,7 @@ import (
 	"testing"
 
 	"midden/api"
+	"midden/good"
 	"midden/shape"
 	"midden/trial"
 )
@@ -96,6 +97,57 @@ func TestShapes(t *testing.T) {
 	for _, sh := range trial.WrongShapes() {
 		if shape.Check(sh) != api.ErrShape {
 			t.Error(sh)
+		}
+	}
+}
+
+// The views of a source are of all kinds: of no object, of none in use, of all in use; with good handles and others, with
+// generations that no handle has, with numbers of no object; and always the same ones.
+func TestAnyViews(t *testing.T) {
+	from, again := trial.Source(1), trial.Source(1)
+	counts := map[string]int{}
+	for range 2000 {
+		v := from.View(6)
+		if !trial.SameView(v, again.View(6)) || len(v.Objects) > 6 {
+			t.Fatalf("%+v", v)
+		}
+		used := 0
+		for _, o := range v.Objects {
+			if o.Used {
+				used++
+			}
+			if o.Gen > 1<<32-1 {
+				counts["great generations"]++
+			}
+			for _, h := range o.Slots {
+				if good.Object(v.Objects, h) > 0 {
+					counts["good handles"]++
+				} else {
+					counts["bad handles"]++
+				}
+			}
+		}
+		switch {
+		case len(v.Objects) == 0:
+			counts["no object"]++
+		case used == 0:
+			counts["none in use"]++
+		case used == len(v.Objects):
+			counts["all in use"]++
+		default:
+			counts["some in use"]++
+		}
+		for _, number := range v.Queue {
+			if number < 1 || number > len(v.Objects) {
+				counts["numbers of no object"]++
+			} else {
+				counts["numbers of objects"]++
+			}
+		}
+	}
+	for _, kind := range []string{"great generations", "good handles", "bad handles", "no object", "none in use", "all in use", "some in use", "numbers of no object", "numbers of objects"} {
+		if counts[kind] < 100 {
+			t.Errorf("%s: %d", kind, counts[kind])
 		}
 	}
 }

@@ -255,14 +255,13 @@ func TestP13_3_RunsOfTheLayers(t *testing.T) {
 	}
 }
 
-// A heap's runs: objects that two hands make.
+// A heap's runs: objects that two hands make, put into one another and drop.
 func TestP13_3_RunsOnAHeap(t *testing.T) {
 	from := newSource(24)
 	for range 100 {
 		sh := api.Shape{Objects: 1 + from.Below(4), Slots: 1, Hands: 2, Roots: 2}
 		words := from.sound(sh)
-		hands := from.Jobs(2, 4, func() api.Job { return api.Job{A: from.Below(2), B: from.Below(2)} })
-		x, _, e := heap().Model(sh, words, hands, from.Schedule(30), from.Below(60))
+		x, _, e := trial.Heap().Model(sh, words, from.HeapJobs(sh, 5), from.Schedule(30), from.Below(80))
 		if e != api.OK {
 			t.Fatal(e)
 		}

@@ -4,7 +4,7 @@ import (
 	"slices"
 
 	"midden/api"
-	"midden/word"
+	"midden/good"
 )
 
 // outForGood: an object of this generation that is out of use needn't be on the free list: it is never made again.
@@ -63,19 +63,10 @@ func areHandlesGood(v api.View) bool {
 	}
 	for _, handles := range held {
 		for _, h := range handles {
-			if h != 0 && !isGood(v, h) {
+			if h != 0 && good.Object(v.Objects, h) == 0 {
 				return false
 			}
 		}
 	}
 	return true
-}
-
-func isGood(v api.View, h uint64) bool {
-	index := word.Index(h)
-	if index < 1 || index > len(v.Objects) {
-		return false
-	}
-	o := v.Objects[index-1]
-	return o.Used && o.Gen == word.Gen(h)
 }

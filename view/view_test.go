@@ -12,7 +12,6 @@ import (
 	"midden/trial"
 	"midden/turn"
 	"midden/view"
-	"midden/word"
 )
 
 // holdLook fails, if Look doesn't tell what the words show, or if there is no way back from it.
@@ -253,43 +252,13 @@ func TestP13_1_LookOfAnyWords(t *testing.T) {
 	}
 }
 
-// A making is an object made by hand: the first one of Free is taken off it by a CAS, its head is laid, and a root shows it.
-// (A heap as the layers above will leave it.)
-func making(sh api.Shape, root int, final bool, act trial.Act) api.Answer {
-	for {
-		free := act.Load(api.Free)
-		index := word.Index(free)
-		at, e := shape.Object(sh, index)
-		if e != api.OK {
-			return api.Answer{}
-		}
-		link := act.Load(at + 1)
-		if !act.CAS(api.Free, free, word.Bump(free, word.Index(link))) {
-			continue
-		}
-		head := act.Load(at)
-		act.Store(at, head|1|bits(false, false, final))
-		place, _ := shape.Root(sh, 0, root)
-		act.Store(place, word.Handle(index, word.Gen(head)))
-		return trial.Told(uint64(index))
-	}
-}
-
-// heap: hands that make objects, as tasks by a schedule.
-func heap() trial.Layer {
-	return trial.Layer{Table: func(sh api.Shape, hand int, j api.Job, act trial.Act) api.Answer {
-		return making(sh, j.A, j.B == 1, act)
-	}}
-}
-
 // Memories that runs leave, behind each of their steps.
 func TestP13_1_MemoriesOfRuns(t *testing.T) {
 	from := newSource(8)
 	for range 60 {
 		sh := api.Shape{Objects: 1 + from.Below(5), Slots: from.Below(3), Hands: 2, Roots: 3, Weaks: from.Below(2)}
 		words := from.sound(sh)
-		hands := from.Jobs(2, 4, func() api.Job { return api.Job{A: from.Below(3), B: from.Below(2)} })
-		x, _, e := heap().Model(sh, words, hands, from.Schedule(30), 200)
+		x, _, e := trial.Heap().Model(sh, words, from.HeapJobs(sh, 5), from.Schedule(30), 400)
 		if e != api.OK || !x.Ended {
 			t.Fatal(x, e)
 		}

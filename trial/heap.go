@@ -1,0 +1,102 @@
+package trial
+
+import (
+	"midden/api"
+	"midden/shape"
+	"midden/word"
+)
+
+// The bits of an object's head that are set by hand.
+const (
+	usedBit  = 1
+	finalBit = 4
+	takenBit = 8
+)
+
+// Heap: hands that make objects, let them show one another, and drop them, by plain acts: heaps as the layers above will leave
+// them, and all that stands there on the way. It has a table alone. Its jobs are New, Put and Drop, as a hand's; but a Drop
+// whose B is 1 puts the object on the queue first.
+func Heap() Layer {
+	return Layer{Table: func(sh api.Shape, hand int, j api.Job, act Act) api.Answer {
+		switch j.Kind {
+		case api.New:
+			return making(sh, hand, j, act)
+		case api.Put:
+			return putting(sh, hand, j, act)
+		default:
+			return dropping(sh, hand, j, act)
+		}
+	}}
+}
+
+func making(sh api.Shape, hand int, j api.Job, act Act) api.Answer {
+	for {
+		free := act.Load(api.Free)
+		index := word.Index(free)
+		at, e := shape.Object(sh, index)
+		if e != api.OK {
+			return api.Answer{}
+		}
+		link := act.Load(at + 1)
+		if !act.CAS(api.Free, free, word.Bump(free, word.Index(link))) {
+			continue
+		}
+		head := act.Load(at)
+		act.Store(at, head|usedBit|finalBit*uint64(j.B))
+		root, _ := shape.Root(sh, hand, j.A)
+		act.Store(root, word.Handle(index, word.Gen(head)))
+		return Told(uint64(index))
+	}
+}
+
+func putting(sh api.Shape, hand int, j api.Job, act Act) api.Answer {
+	root, _ := shape.Root(sh, hand, j.A)
+	at, e := shape.Slot(sh, word.Index(act.Load(root)), j.B)
+	if e != api.OK {
+		return api.Answer{}
+	}
+	from, _ := shape.Root(sh, hand, j.C)
+	h := act.Load(from)
+	act.Store(at, h)
+	return Told(h)
+}
+
+func dropping(sh api.Shape, hand int, j api.Job, act Act) api.Answer {
+	root, _ := shape.Root(sh, hand, j.A)
+	h := act.Load(root)
+	at, e := shape.Object(sh, word.Index(h))
+	if e == api.OK && j.B == 1 {
+		queueing(at, word.Index(h), act)
+	}
+	act.Store(root, 0)
+	return Told(h)
+}
+
+// queueing: an object that is queued once is not queued again.
+func queueing(at, index int, act Act) {
+	head := act.Load(at)
+	if head&takenBit != 0 || !act.CAS(at, head, head|finalBit|takenBit) {
+		return
+	}
+	for {
+		queue := act.Load(api.Queue)
+		act.Store(at+2, uint64(word.Index(queue)))
+		if act.CAS(api.Queue, queue, word.Bump(queue, index)) {
+			return
+		}
+	}
+}
+
+// HeapJobs: for each of the shape's hands, up to most.
+func (s *Source) HeapJobs(sh api.Shape, most int) [][]api.Job {
+	return s.Jobs(sh.Hands, most, func() api.Job {
+		j := api.Job{Kind: api.New, A: s.Below(sh.Roots), B: s.Below(2)}
+		switch s.Below(6) {
+		case 0:
+			j.Kind = api.Drop
+		case 1, 2, 3:
+			j = api.Job{Kind: api.Put, A: s.Below(sh.Roots), B: s.Below(max(sh.Slots, 1)), C: s.Below(sh.Roots)}
+		}
+		return j
+	})
+}

@@ -1,0 +1,51 @@
+package trial_test
+
+import (
+	"slices"
+	"testing"
+
+	"midden/api"
+	"midden/shape"
+	"midden/trial"
+	"midden/view"
+)
+
+// A hand on a heap of three objects: what it makes, puts and drops is seen; what there is no room for is refused.
+func TestHeap(t *testing.T) {
+	sh := api.Shape{Objects: 3, Slots: 1, Hands: 2, Roots: 2}
+	words, _ := shape.Fresh(sh)
+	jobs := []api.Job{
+		{Kind: api.New, A: 0}, {Kind: api.New, A: 1, B: 1}, {Kind: api.Put, A: 0, B: 0, C: 1}, {Kind: api.Put, A: 0, B: 1, C: 1},
+		{Kind: api.Drop, A: 0}, {Kind: api.Put, A: 0, B: 0, C: 1}, {Kind: api.Drop, A: 1, B: 1}, {Kind: api.Drop, A: 1, B: 1},
+		{Kind: api.New, A: 0}, {Kind: api.New, A: 1},
+	}
+	x, a, e := trial.Heap().Model(sh, words, [][]api.Job{nil, jobs}, nil, 500)
+	told := []api.Answer{trial.Told(1), trial.Told(2), trial.Told(2), {}, trial.Told(1), {}, trial.Told(2), trial.Told(0), trial.Told(3), {}}
+	if e != api.OK || !x.Ended || !slices.Equal(a[1], told) {
+		t.Fatal(x, a, e)
+	}
+	v, _ := view.Look(sh, x.Words)
+	if !slices.EqualFunc(v.Roots, [][]uint64{{0, 0}, {3, 0}}, slices.Equal) || len(v.Free) > 0 || !slices.Equal(v.Queue, []int{2}) {
+		t.Errorf("%+v", v)
+	}
+	if o := v.Objects; !o[0].Used || o[0].Final || o[0].Slots[0] != 2 || !o[1].Used || !o[1].Final || !o[1].Taken || !o[2].Used {
+		t.Errorf("%+v", o)
+	}
+	if e := view.Check(sh, x.Words); e != api.OK {
+		t.Error(e)
+	}
+}
+
+// By any jobs of any schedule a heap is sound in the end.
+func TestHeapJobs(t *testing.T) {
+	from := trial.Source(3)
+	for range 300 {
+		sh := from.Shape()
+		words, _ := shape.Fresh(sh)
+		hands := from.HeapJobs(sh, 8)
+		x, _, e := trial.Heap().Model(sh, words, hands, from.Schedule(50), 2000)
+		if e != api.OK || !x.Ended || len(hands) != sh.Hands || view.Check(sh, x.Words) != api.OK {
+			t.Fatal(sh, hands, x.Ended, e, view.Check(sh, x.Words))
+		}
+	}
+}
