@@ -24,3 +24,14 @@ func TestObject(t *testing.T) {
 		}
 	}
 }
+
+func TestIsObject(t *testing.T) {
+	for number, want := range map[int]bool{0: false, 1: true, 2: true, 3: false, -1: false, half + 1: false, math.MinInt: false, math.MaxInt: false} {
+		if got := good.IsObject(make([]api.Object, 2), number); got != want {
+			t.Errorf("%d of two: %v", number, got)
+		}
+		if good.IsObject(nil, number) {
+			t.Errorf("%d of none", number)
+		}
+	}
+}

@@ -14,7 +14,7 @@ import (
 func holdReach(t *testing.T, v api.View, from []uint64) []bool {
 	t.Helper()
 	got := graph.Reach(v, from)
-	if want := reached(v, from); !slices.Equal(got, want) {
+	if want := trial.Reached(v, from); !slices.Equal(got, want) {
 		t.Fatalf("Reach of %+v from %x: %v; want %v", v, from, got, want)
 	}
 	return got
@@ -23,10 +23,10 @@ func holdReach(t *testing.T, v api.View, from []uint64) []bool {
 // holdView fails, if a call doesn't answer by the chapter for this view.
 func holdView(t *testing.T, v api.View) {
 	t.Helper()
-	if got, want := graph.Roots(v), roots(v); !slices.Equal(got, want) {
+	if got, want := graph.Roots(v), trial.Starts(v); !slices.Equal(got, want) {
 		t.Fatalf("Roots of %+v: %x; want %x", v, got, want)
 	}
-	if got, want := graph.Live(v), reached(v, roots(v)); !slices.Equal(got, want) {
+	if got, want := graph.Live(v), trial.Reached(v, trial.Starts(v)); !slices.Equal(got, want) {
 		t.Fatalf("Live of %+v: %v; want %v", v, got, want)
 	}
 	if got, want := graph.Dead(v), dead(v); !slices.Equal(got, want) {
@@ -42,7 +42,7 @@ func holdView(t *testing.T, v api.View) {
 	}
 	holdReach(t, v, nil)
 	for i := range v.Objects {
-		holdReach(t, v, []uint64{handle(v, i+1)})
+		holdReach(t, v, []uint64{trial.Own(v, i+1)})
 	}
 }
 

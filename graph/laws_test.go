@@ -14,7 +14,7 @@ import (
 // objects all that it shows?
 func isClosed(v api.View, from []uint64, set int) bool {
 	has := func(handles []uint64) bool {
-		for i, isShown := range shownBy(v, handles) {
+		for i, isShown := range trial.ShownBy(v, handles) {
 			if isShown && set>>i&1 == 0 {
 				return false
 			}
@@ -53,12 +53,12 @@ func holdClosed(t *testing.T, v api.View, from []uint64) {
 
 // isWay: the first number by a root, each other one shown by the one ahead of it.
 func isWay(v api.View, numbers []int) bool {
-	may := shownBy(v, roots(v))
+	may := trial.ShownBy(v, trial.Starts(v))
 	for _, number := range numbers {
 		if !may[number-1] {
 			return false
 		}
-		may = shownBy(v, v.Objects[number-1].Slots)
+		may = trial.ShownBy(v, v.Objects[number-1].Slots)
 	}
 	return true
 }
@@ -158,7 +158,7 @@ func TestP14_2_Closed(t *testing.T) {
 			}
 			holdClosed(t, v, handles)
 		}
-		holdClosed(t, v, roots(v))
+		holdClosed(t, v, trial.Starts(v))
 	}
 }
 

@@ -21,7 +21,7 @@ func answersOf(v api.View, from []uint64, to int) answers {
 }
 
 func wanted(v api.View, from []uint64, to int) answers {
-	return answers{reached(v, from), reached(v, roots(v)), held(v), roots(v), dead(v), way(v, to)}
+	return answers{trial.Reached(v, from), trial.Reached(v, trial.Starts(v)), held(v), trial.Starts(v), dead(v), way(v, to)}
 }
 
 func (a answers) same(b answers) bool {

@@ -15,29 +15,6 @@ import (
 
 // Memories that runs of the layers below leave, as they are seen.
 
-func lookAt(t *testing.T, sh api.Shape, words []uint64) api.View {
-	t.Helper()
-	v, e := view.Look(sh, words)
-	if e != api.OK {
-		t.Fatal(e)
-	}
-	return v
-}
-
-// older: fresh words, whose objects have generations of their own.
-func older(t *testing.T, from *trial.Source, sh api.Shape) []uint64 {
-	t.Helper()
-	words, e := shape.Fresh(sh)
-	if e != api.OK {
-		t.Fatal(e)
-	}
-	for index := 1; index <= sh.Objects; index++ {
-		at, _ := shape.Object(sh, index)
-		words[at] = []uint64{0, 1, half - 1}[from.Below(3)] * half
-	}
-	return words
-}
-
 // The chapter's three objects, made by a hand: 1 shows 2, 2 shows 2, 3 shows 1, and 3 has a finalizer; 1 is in root 1 alone.
 func TestP14_1_ARunByHand(t *testing.T) {
 	sh := api.Shape{Objects: 4, Slots: 1, Hands: 1, Roots: 3}
@@ -47,12 +24,12 @@ func TestP14_1_ARunByHand(t *testing.T) {
 		{Kind: api.Put, A: 1, C: 0}, {Kind: api.Put, A: 0, C: 0}, {Kind: api.Put, A: 2, C: 1}, {Kind: api.Drop, A: 0},
 	}
 	x, _, _ := trial.Heap().Model(sh, words, [][]api.Job{jobs}, nil, 200)
-	v := lookAt(t, sh, x.Words)
+	v := trial.LookAt(t, sh, x.Words)
 	if slices.Contains(graph.Live(v)[:3], false) || graph.Live(v)[3] || len(graph.Dead(v)) > 0 {
 		t.Error("while 3 is in a root:", graph.Live(v), graph.Dead(v))
 	}
 	x, _, _ = trial.Heap().Model(sh, x.Words, [][]api.Job{{{Kind: api.Drop, A: 2}}}, nil, 200)
-	v = lookAt(t, sh, x.Words)
+	v = trial.LookAt(t, sh, x.Words)
 	holdView(t, v)
 	if !slices.Equal(graph.Live(v), []bool{true, true, false, false}) || !slices.Equal(graph.Dead(v), []int{3}) ||
 		!slices.Equal(graph.Way(v, 2), []int{1, 2}) || !slices.Equal(graph.Held(v), []bool{true, true, true, false}) || !slices.Equal(graph.Roots(v), []uint64{1}) {
@@ -60,7 +37,7 @@ func TestP14_1_ARunByHand(t *testing.T) {
 	}
 	// Dropped onto the queue, the ring of 1 alone begins at it.
 	x, _, _ = trial.Heap().Model(sh, x.Words, [][]api.Job{{{Kind: api.Drop, A: 1, B: 1}}}, nil, 200)
-	v = lookAt(t, sh, x.Words)
+	v = trial.LookAt(t, sh, x.Words)
 	holdView(t, v)
 	if !slices.Equal(graph.Roots(v), []uint64{1}) || !slices.Equal(graph.Way(v, 2), []int{1, 2}) || !slices.Equal(v.Queue, []int{1}) {
 		t.Error(graph.Roots(v), graph.Way(v, 2), v.Queue)
@@ -73,7 +50,7 @@ func TestP14_1_MemoriesOfRuns(t *testing.T) {
 	dead, queued, ways := 0, 0, 0
 	for range 200 {
 		sh := api.Shape{Objects: 2 + from.Below(15), Slots: 1 + from.Below(2), Hands: 1 + from.Below(2), Roots: 1 + from.Below(3)}
-		words := older(t, &from, sh)
+		words := from.Older(sh)
 		x, _, e := trial.Heap().Model(sh, words, from.HeapJobs(sh, 30), from.Schedule(60), 1000)
 		if e != api.OK || !x.Ended {
 			t.Fatal(x, e)
@@ -83,7 +60,7 @@ func TestP14_1_MemoriesOfRuns(t *testing.T) {
 			if e != api.OK {
 				t.Fatal(e)
 			}
-			v := lookAt(t, sh, behind)
+			v := trial.LookAt(t, sh, behind)
 			holdView(t, v)
 			holdLaws(t, v)
 			dead += len(graph.Dead(v))
@@ -105,8 +82,8 @@ func TestP14_1_MemoriesOfActs(t *testing.T) {
 	from := trial.Source(22)
 	for range 400 {
 		sh := from.Shape()
-		words := older(t, &from, sh)
-		objects := lookAt(t, sh, words).Objects
+		words := from.Older(sh)
+		objects := trial.LookAt(t, sh, words).Objects
 		for at := api.Head; at < len(words); at++ {
 			if from.Below(2) == 0 {
 				words[at] |= from.Handle(objects)
@@ -124,7 +101,7 @@ func TestP14_1_MemoriesOfActs(t *testing.T) {
 			t.Fatal(e)
 		}
 		for _, behind := range [][]uint64{words, x.Words, scripted} {
-			v := lookAt(t, sh, behind)
+			v := trial.LookAt(t, sh, behind)
 			holdView(t, v)
 			holdLaws(t, v)
 		}
@@ -135,7 +112,7 @@ func TestP14_1_MemoriesOfActs(t *testing.T) {
 func TestP14_1_FreshMemories(t *testing.T) {
 	for _, sh := range trial.RightShapes() {
 		words, _ := shape.Fresh(sh)
-		v := lookAt(t, sh, words)
+		v := trial.LookAt(t, sh, words)
 		holdView(t, v)
 		if len(graph.Live(v)) != sh.Objects || slices.Contains(graph.Live(v), true) || len(graph.Roots(v))+len(graph.Dead(v)) > 0 {
 			t.Errorf("%+v: %v %v %v", sh, graph.Live(v), graph.Roots(v), graph.Dead(v))

@@ -23,7 +23,7 @@ func (s *Source) View(most int) api.View {
 		v.Roots = append(v.Roots, s.handles(v.Objects, s.Below(4)))
 	}
 	v.Acks, v.Weaks = s.handles(v.Objects, s.Below(4)), s.handles(v.Objects, s.Below(4))
-	v.Free, v.Grey, v.Queue = s.numbers(len(v.Objects)), s.numbers(len(v.Objects)), s.numbers(len(v.Objects))
+	v.Free, v.Grey, v.Queue = s.Numbers(len(v.Objects)), s.Numbers(len(v.Objects)), s.Numbers(len(v.Objects))
 	for i := range v.Counts {
 		v.Counts[i] = s.Value()
 	}
@@ -71,8 +71,8 @@ func (s *Source) handles(objects []api.Object, n int) []uint64 {
 	return out
 }
 
-// numbers: some from 1 to n, and some beside them.
-func (s *Source) numbers(n int) []int {
+// Numbers: some from 1 to n, and some beside them; often none.
+func (s *Source) Numbers(n int) []int {
 	out := make([]int, s.Below(4)*s.Below(2))
 	for i := range out {
 		if out[i] = s.Below(n + 2); s.Below(6) == 0 {

@@ -3,6 +3,7 @@ package trial
 import (
 	"midden/api"
 	"midden/shape"
+	"midden/view"
 	"midden/word"
 )
 
@@ -99,4 +100,24 @@ func (s *Source) HeapJobs(sh api.Shape, most int) [][]api.Job {
 		}
 		return j
 	})
+}
+
+// Older: fresh words of a right shape, whose objects have generations of their own.
+func (s *Source) Older(sh api.Shape) []uint64 {
+	words, _ := shape.Fresh(sh)
+	for index := 1; index <= sh.Objects; index++ {
+		at, _ := shape.Object(sh, index)
+		words[at] = []uint64{0, 1, half - 1}[s.Below(3)] * half
+	}
+	return words
+}
+
+// LookAt: the view of words of this shape.
+func LookAt(t T, sh api.Shape, words []uint64) api.View {
+	t.Helper()
+	v, e := view.Look(sh, words)
+	if e != api.OK {
+		t.Fatalf("%+v, %d words: %v", sh, len(words), e)
+	}
+	return v
 }

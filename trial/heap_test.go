@@ -49,3 +49,27 @@ func TestHeapJobs(t *testing.T) {
 		}
 	}
 }
+
+// Older words are seen as fresh ones, but for the generations; and they are of all three kinds.
+func TestOlder(t *testing.T) {
+	from := trial.Source(4)
+	gens := map[uint64]int{}
+	for range 100 {
+		sh := from.Shape()
+		words, _ := shape.Fresh(sh)
+		fresh, v := trial.LookAt(t, sh, words), trial.LookAt(t, sh, from.Older(sh))
+		for i, o := range v.Objects {
+			gens[o.Gen]++
+			fresh.Objects[i].Gen = o.Gen
+		}
+		if !trial.SameView(v, fresh) {
+			t.Fatalf("%+v; want %+v", v, fresh)
+		}
+	}
+	if len(gens) != 3 || min(gens[0], gens[1], gens[1<<32-1]) < 50 {
+		t.Error(gens)
+	}
+	if !hears(func(t trial.T) { trial.LookAt(t, api.Shape{}, nil) }) {
+		t.Error("no view, and nothing is said")
+	}
+}
