@@ -24,9 +24,6 @@ const (
 	lookAtOne  = 104 // one is pulled off the grey list, and its slots are shaded
 )
 
-// colourBit: of an object's head.
-const colourBit = 2
-
 func marking() trial.Layer {
 	return trial.Layer{Table: func(sh api.Shape, hand int, j api.Job, act trial.Act) api.Answer {
 		switch j.Kind {
@@ -50,21 +47,7 @@ func marking() trial.Layer {
 
 func shading(sh api.Shape, h uint64, act trial.Act) {
 	_, colour, _ := word.Parts(act.Load(api.Phase))
-	at, e := shape.Object(sh, word.Index(h))
-	if e != api.OK {
-		return
-	}
-	head := act.Load(at)
-	if !word.White(head, word.Gen(h), colour) || !act.CAS(at, head, head^colourBit) {
-		return
-	}
-	for {
-		grey := act.Load(api.Grey)
-		act.Store(at+1, uint64(word.Index(grey)))
-		if act.CAS(api.Grey, grey, word.Bump(grey, word.Index(h))) {
-			return
-		}
-	}
+	trial.Marking(sh, h, colour, act)
 }
 
 func shadingQueue(sh api.Shape, act trial.Act) {
@@ -76,13 +59,13 @@ func shadingQueue(sh api.Shape, act trial.Act) {
 }
 
 func lookingAt(sh api.Shape, act trial.Act) {
-	grey := act.Load(api.Grey)
-	at, e := shape.Object(sh, word.Index(grey))
-	if e != api.OK || !act.CAS(api.Grey, grey, word.Bump(grey, word.Index(act.Load(at+1)))) {
+	pulled := trial.Pulling(sh, act)
+	if !pulled.OK {
 		return
 	}
 	for slot := range sh.Slots {
-		shading(sh, act.Load(at+3+slot), act)
+		at, _ := shape.Slot(sh, int(pulled.Val), slot)
+		shading(sh, act.Load(at), act)
 	}
 }
 
@@ -165,7 +148,7 @@ func markingJobs(from *trial.Source, sh api.Shape, most int) []api.Job {
 func TestP15_1_MemoriesOfRuns(t *testing.T) {
 	from := trial.Source(21)
 	counts := map[string]int{}
-	for range 800 {
+	for range 1400 {
 		sh := api.Shape{Objects: 4 + from.Below(9), Slots: 1 + from.Below(3), Hands: 1 + from.Below(2), Roots: 2 + from.Below(3)}
 		words := from.Older(sh)
 		if from.Below(8) > 0 {

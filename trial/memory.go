@@ -44,11 +44,22 @@ func Spoil[E any](list []E, with E) {
 }
 
 // HoldMemory fails, if a call changes what it is given, if its answer shares memory, or if a call hangs on what was
-// done to an earlier answer. The hands are to be such that each has an answer.
+// done to an earlier answer. The hands are to be such that each has an answer. (A heap's layers have no Free.)
 func (l Layer) HoldMemory(t T, sh api.Shape, words []uint64, hands [][]api.Job, schedule []int, most int) {
 	t.Helper()
 	given, held := hand(words, hands, schedule), hand(words, hands, schedule)
-	wantX, wantA, _ := l.Model(sh, words, hands, schedule, most)
+	l.holdPlayMemory(t, sh, given, most)
+	if l.Free != nil {
+		l.holdFreeMemory(t, sh, given)
+	}
+	if !given.same(held) {
+		t.Errorf("what was handed in has changed: %v; was %v", given, held)
+	}
+}
+
+func (l Layer) holdPlayMemory(t T, sh api.Shape, given handed, most int) {
+	t.Helper()
+	wantX, wantA, _ := l.Model(sh, given.words, given.hands, given.schedule, most)
 	for range 3 {
 		x, a, e := l.Play(sh, given.words, given.hands, given.schedule, most)
 		if e != api.OK || !SameTrace(x, wantX) || !SameAnswers(a, wantA) {
@@ -58,12 +69,16 @@ func (l Layer) HoldMemory(t T, sh api.Shape, words []uint64, hands [][]api.Job, 
 		Spoil(x.Words, 55)
 		holdApart(t, a, wantA)
 	}
+}
+
+func (l Layer) holdFreeMemory(t T, sh api.Shape, given handed) {
+	t.Helper()
 	first, _ := l.Fresh(sh)
 	fresh := slices.Clone(first)
 	Spoil(first, 55)
 	for range 3 {
 		w, a, e := l.Free(sh, given.hands)
-		if e != api.OK || len(w) != len(words) || len(a) != len(hands) {
+		if e != api.OK || len(w) != len(given.words) || len(a) != len(given.hands) {
 			t.Fatalf("Free: %v %v %v", w, a, e)
 		}
 		Spoil(w, 55)
@@ -73,9 +88,6 @@ func (l Layer) HoldMemory(t T, sh api.Shape, words []uint64, hands [][]api.Job, 
 			t.Fatalf("Fresh: %v; want %v", again, fresh)
 		}
 		Spoil(again, 55)
-	}
-	if !given.same(held) {
-		t.Errorf("what was handed in has changed: %v; was %v", given, held)
 	}
 }
 

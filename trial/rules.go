@@ -24,16 +24,26 @@ type Faults struct {
 // RoomFaults: of a layer that looks at Room alone of a shape, up to most, and has the kinds 1 to kinds. The job that it
 // takes is one of them; with another kind it is refused.
 func RoomFaults(sh api.Shape, most int, fine api.Job, kinds int) Faults {
-	f := Faults{Shape: sh, Fine: fine}
+	f := Faults{Shape: sh, Fine: fine, Wrong: ofNoKind(fine, kinds)}
 	for _, n := range NoRooms(most) {
 		f.Shapes = append(f.Shapes, api.Shape{Objects: 1, Slots: 1, Hands: 1, Roots: 1, Weaks: 1, Room: n})
 	}
-	for _, kind := range NoKinds(kinds) {
-		bad := fine
-		bad.Kind = kind
-		f.Wrong = append(f.Wrong, Wrong{bad, api.ErrKind})
-	}
 	return f
+}
+
+// HeapFaults: of a layer whose shapes are a heap's, likewise.
+func HeapFaults(sh api.Shape, fine api.Job, kinds int) Faults {
+	return Faults{Shape: sh, Shapes: WrongShapes(), Fine: fine, Wrong: ofNoKind(fine, kinds)}
+}
+
+// ofNoKind: the job with a kind that is none of 1 to kinds.
+func ofNoKind(j api.Job, kinds int) []Wrong {
+	var out []Wrong
+	for _, kind := range NoKinds(kinds) {
+		j.Kind = kind
+		out = append(out, Wrong{j, api.ErrKind})
+	}
+	return out
 }
 
 // A call of Play with one fault, and as many of those behind it as go along with it.
@@ -48,7 +58,7 @@ type call struct {
 }
 
 // HoldRefusals fails, if Size, Fresh, Play or Free answer another error than rule 8 asks for first, or anything
-// beside it.
+// beside it. (A heap's layers have no Free.)
 func (l Layer) HoldRefusals(t T, f Faults) {
 	t.Helper()
 	size, errno := l.Size(f.Shape)
@@ -78,7 +88,7 @@ func (l Layer) holdRefused(t T, c call) {
 	if !slices.Equal(held, c.words) {
 		t.Errorf("Play, %s: the words have changed", c.name)
 	}
-	if c.want == api.ErrSize || len(c.schedule) > api.MaxSteps || c.most < 0 || c.most > api.MaxSteps {
+	if l.Free == nil || c.want == api.ErrSize || len(c.schedule) > api.MaxSteps || c.most < 0 || c.most > api.MaxSteps {
 		return // Free has no such faults
 	}
 	if w, a, e := l.Free(c.shape, c.hands); w != nil || a != nil || e != c.want {
@@ -93,9 +103,10 @@ func (f Faults) many() [][]api.Job {
 
 func (f Faults) ofShapes(size int) []call {
 	var out []call
+	endless := make([]int, api.MaxSteps+1)
 	for _, sh := range f.Shapes {
 		out = append(out,
-			call{"a shape and all else", sh, make([]uint64, size+1), f.many(), make([]int, api.MaxSteps+1), -1, api.ErrShape},
+			call{"a shape and all else", sh, make([]uint64, size+1), f.many(), endless, -1, api.ErrShape},
 			call{"a shape and hands", sh, nil, f.many(), nil, 0, api.ErrShape},
 			call{"a shape alone", sh, make([]uint64, size), nil, nil, 9, api.ErrShape})
 	}

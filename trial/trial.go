@@ -64,6 +64,12 @@ func (l Layer) HoldSteps(t T, sh api.Shape, words []uint64, hands [][]api.Job, s
 // steps is left there (on a memory that lacks words it may go on for ever). Nil words stand for a nil memory.
 func (l Layer) HoldTask(t T, sh api.Shape, hand int, j api.Job, words []uint64, most int) {
 	t.Helper()
+	l.HoldTaskAmid(t, sh, hand, j, words, most, func(int) []api.Step { return nil })
+}
+
+// HoldTaskAmid is HoldTask with acts of others: ahead of the step i those that amid(i) tells are made.
+func (l Layer) HoldTaskAmid(t T, sh api.Shape, hand int, j api.Job, words []uint64, most int, amid func(i int) []api.Step) {
+	t.Helper()
 	k, e := l.Task(sh, hand, j)
 	if e != api.OK {
 		t.Fatalf("%v, hand %d, %v: %v", sh, hand, j, e)
@@ -75,6 +81,10 @@ func (l Layer) HoldTask(t T, sh api.Shape, hand int, j api.Job, words []uint64, 
 	}
 	r := l.plain(sh, hand, j)
 	for i := range most {
+		for _, a := range amid(i) {
+			m.Do(a.Hand, a.Act, a.At, a.Had, a.Put)
+			plain.Do(a.Hand, a.Act, a.At, a.Had, a.Put)
+		}
 		s, state := k.Step(m)
 		wantS, wantState := r.Step(plain)
 		if s != wantS || state != wantState || s.Hand != hand || !slices.Equal(m.Words(), plain.Words()) {

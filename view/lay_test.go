@@ -20,7 +20,7 @@ func TestP13_1_LayTakesWhatIsSeenAlone(t *testing.T) {
 		return fmt.Sprint(links(v), nexts(v), v.Free, "|", v.Grey, "|", v.Queue)
 	}
 	for list := range trial.Lists(4, 7) {
-		words := make([]uint64, sizeOf(sh))
+		words := make([]uint64, trial.SizeOf(sh))
 		for i, at := range []int{1, 2, 3, 11, 14, 12, 15} {
 			words[at] = uint64(list[i])
 		}
@@ -37,7 +37,7 @@ func TestP13_1_LayTakesWhatIsSeenAlone(t *testing.T) {
 					list[i] = numbers[p]
 				}
 				for which := range 3 {
-					v := seen(sh, make([]uint64, sizeOf(sh)))
+					v := seen(sh, make([]uint64, trial.SizeOf(sh)))
 					for i, n := range on {
 						v.Objects[i].Link, v.Objects[i].Next = uint64(n), uint64(n)
 					}
@@ -69,7 +69,7 @@ func (s *source) turned(sh api.Shape, v api.View) api.View {
 	case 1:
 		v.Colour = []int{0, 1, 2, 3, s.End(), 1 << 32, 1<<32 + 1}[s.Below(7)]
 	case 2:
-		v.Round = []uint64{0, 1<<56 - 1, 1 << 56, 1<<56 + 1, math.MaxUint64, s.any() >> 8}[s.Below(6)]
+		v.Round = []uint64{0, 1<<56 - 1, 1 << 56, 1<<56 + 1, math.MaxUint64, s.Any() >> 8}[s.Below(6)]
 	case 3:
 		v.Acks = lengthened(s, v.Acks)
 	case 4:
@@ -90,9 +90,9 @@ func (s *source) turned(sh api.Shape, v api.View) api.View {
 	case 11:
 		o.Used, o.Live, o.Final, o.Taken = s.Below(2) == 0, s.Below(2) == 0, s.Below(2) == 0, s.Below(2) == 0
 	case 12:
-		o.Link = s.one(sh)
+		o.Link = s.One(sh)
 	case 13:
-		o.Next = s.one(sh)
+		o.Next = s.One(sh)
 	case 14:
 		v.Free = s.turnedList(sh, v.Free)
 	case 15:
@@ -100,7 +100,7 @@ func (s *source) turned(sh api.Shape, v api.View) api.View {
 	case 16:
 		v.Queue = s.turnedList(sh, v.Queue)
 	case 17:
-		v.Counts[s.Below(4)] = s.any()
+		v.Counts[s.Below(4)] = s.Any()
 	}
 	return v
 }
@@ -140,7 +140,7 @@ func TestP13_1_LayOfAnyView(t *testing.T) {
 	taken, refused := 0, 0
 	for range 40000 {
 		sh := from.Shape()
-		v := seen(sh, from.words(sh))
+		v := seen(sh, from.Words(sh))
 		if from.Below(2) == 0 {
 			v = seen(sh, from.sound(sh))
 		}
@@ -159,7 +159,7 @@ func TestP13_1_LayOfAnyView(t *testing.T) {
 func TestP13_1_LayOfAnotherShape(t *testing.T) {
 	for _, sh := range trial.RightShapes() {
 		for _, other := range trial.RightShapes() {
-			words, _ := laid(sh, seen(sh, newSource(1).words(sh)))
+			words, _ := laid(sh, seen(sh, newSource(1).Words(sh)))
 			if taken := holdLay(t, other, seen(sh, words)); taken != (sh == other) {
 				t.Errorf("a view of %+v as one of %+v: %v", sh, other, taken)
 			}
@@ -299,7 +299,7 @@ func TestP13_2_LaidWordsStandAtNothing(t *testing.T) {
 	from := newSource(12)
 	for range 5000 {
 		sh := from.Shape()
-		words := from.words(sh)
+		words := from.Words(sh)
 		v, _ := view.Look(sh, words)
 		got, e := view.Lay(sh, v)
 		want := slices.Clone(words)
@@ -310,7 +310,7 @@ func TestP13_2_LaidWordsStandAtNothing(t *testing.T) {
 			}
 		}
 		for index := 1; index <= sh.Objects; index++ {
-			want[objectAt(sh, index)] &^= 0xffff00f0
+			want[trial.HeadAt(sh, index)] &^= 0xffff00f0
 		}
 		if e != api.OK || !slices.Equal(got, want) {
 			t.Fatalf("%+v %x: %x, %d; want %x", sh, words, got, e, want)

@@ -93,7 +93,7 @@ func TestP13_1_LookAndCheckMemory(t *testing.T) {
 	for i, sh := range append(trial.RightShapes(), two, five) {
 		words := from.sound(sh)
 		if i%2 == 0 {
-			words = from.words(sh)
+			words = from.Words(sh)
 		}
 		given, held := trial.Roomy(words, 77), trial.Roomy(words, 77)
 		first, _ := view.Look(sh, given)
@@ -177,7 +177,7 @@ func TestP13_1_NothingIsKept(t *testing.T) {
 	wrong := trial.WrongShapes()
 	for i := range 400 {
 		sh, other := from.Shape(), from.Shape()
-		words, others := from.words(sh), from.sound(other)
+		words, others := from.Words(sh), from.sound(other)
 		view.Look(wrong[i*31%len(wrong)], words)
 		view.Look(sh, words[1:])
 		view.Lay(sh, api.View{})

@@ -14,13 +14,13 @@ import (
 // links and next words of objects that are in no list, the bits that aren't looked at.
 func (s *source) sound(sh api.Shape) []uint64 {
 	colour := s.Below(2)
-	v := api.View{Colour: colour, Round: s.any() >> 8, Counts: [4]uint64{s.any(), s.any(), s.any(), s.any()}}
+	v := api.View{Colour: colour, Round: s.Any() >> 8, Counts: [4]uint64{s.Any(), s.Any(), s.Any(), s.Any()}}
 	var good []uint64
 	var free, queue []int
 	for index := 1; index <= sh.Objects; index++ {
 		o := api.Object{Used: s.Below(2) == 0, Live: s.Below(2) == 0, Final: s.Below(2) == 0, Taken: s.Below(2) == 0, Age: s.Below(256)}
 		o.Gen = []uint64{0, 1, uint64(s.Below(half)), half - 2, half - 1}[s.Below(5)]
-		o.Link, o.Next = s.near(sh.Objects), s.near(sh.Objects)
+		o.Link, o.Next = s.Near(sh.Objects), s.Near(sh.Objects)
 		switch {
 		case o.Used:
 			o.Live = true
@@ -48,7 +48,7 @@ func (s *source) sound(sh api.Shape) []uint64 {
 		}
 	}
 	for range sh.Hands {
-		v.Acks = append(v.Acks, s.any())
+		v.Acks = append(v.Acks, s.Any())
 		v.Roots = append(v.Roots, handles(sh.Roots))
 	}
 	v.Weaks = handles(sh.Weaks)
@@ -87,12 +87,12 @@ func (s *source) leads(list []int, i int) uint64 {
 
 // litter sets bits that nobody looks at.
 func (s *source) litter(sh api.Shape, words []uint64) {
-	words[0] |= s.any() & 0xf0
+	words[0] |= s.Any() & 0xf0
 	for at := 1; at <= 3; at++ {
-		words[at] |= s.any() &^ (half - 1)
+		words[at] |= s.Any() &^ (half - 1)
 	}
 	for index := 1; index <= sh.Objects; index++ {
-		words[objectAt(sh, index)] |= s.any() & 0xffff00f0
+		words[trial.HeadAt(sh, index)] |= s.Any() & 0xffff00f0
 	}
 }
 
@@ -135,11 +135,11 @@ func TestP13_1_CheckRefusesEachBrokenLine(t *testing.T) {
 			was := words[at]
 			switch from.Below(3) {
 			case 0:
-				words[at] = from.one(sh)
+				words[at] = from.One(sh)
 			case 1:
 				words[at] ^= 1 << from.Below(64)
 			case 2:
-				words[at] = from.near(sh.Objects)
+				words[at] = from.Near(sh.Objects)
 			}
 			switch lines := holdCheck(t, sh, words); len(lines) {
 			case 0:
@@ -273,13 +273,13 @@ func TestP13_1_CheckOfAnyWords(t *testing.T) {
 	from := newSource(3)
 	for range 20000 {
 		sh := from.Shape()
-		holdCheck(t, sh, from.words(sh))
+		holdCheck(t, sh, from.Words(sh))
 	}
 	sh := api.Shape{Objects: 2, Slots: 1, Hands: 1, Roots: 1, Weaks: 1}
 	heads := []uint64{0, 1, 13, 3, 9, 5, 12, half, half + 1, (half - 1) * half, (half-1)*half + 1}
 	sound := 0
 	for range 150000 {
-		words := make([]uint64, sizeOf(sh))
+		words := make([]uint64, trial.SizeOf(sh))
 		words[0] = uint64(from.Below(9)) / 8 * uint64(from.Below(9))
 		words[1], words[2], words[3] = uint64(from.Below(4)), uint64(from.Below(10))/9, uint64(from.Below(3))
 		for at := 9; at < len(words); at++ {

@@ -159,7 +159,7 @@ func TestP13_1_EveryList(t *testing.T) {
 	from := newSource(5)
 	sh := api.Shape{Objects: 3, Hands: 1, Roots: 1}
 	for list := range trial.Lists(5, 5) {
-		words := from.words(sh)
+		words := from.Words(sh)
 		for i, at := range []int{1, 2, 11, 14, 17} {
 			words[at] = uint64(list[i]) + half*uint64(from.Below(2))*uint64(from.Below(half))
 		}
@@ -167,7 +167,7 @@ func TestP13_1_EveryList(t *testing.T) {
 		holdCheck(t, sh, words)
 	}
 	for list := range trial.Lists(5, 4) {
-		words := from.words(sh)
+		words := from.Words(sh)
 		for i, at := range []int{3, 12, 15, 18} {
 			words[at] = uint64(list[i]) + half*uint64(from.Below(2))*uint64(from.Below(half))
 		}
@@ -193,7 +193,7 @@ func TestP13_1_EndsOfLists(t *testing.T) {
 					}
 					holdCheck(t, sh, words)
 					words = freshOf(t, sh)
-					words[objectAt(sh, sh.Objects)+1] = tag*half + low
+					words[trial.HeadAt(sh, sh.Objects)+1] = tag*half + low
 					if v := holdLook(t, sh, words); len(v.Free) != sh.Objects {
 						t.Errorf("%+v, the last link is %x: %v", sh, tag*half+low, v.Free)
 					}
@@ -223,7 +223,7 @@ func TestP13_1_LongestLists(t *testing.T) {
 			} else if round > 0 {
 				behind = uint64(order[round%len(order)])
 			}
-			words[objectAt(sh, index)+1], words[objectAt(sh, index)+2] = behind, half+behind
+			words[trial.HeadAt(sh, index)+1], words[trial.HeadAt(sh, index)+2] = behind, half+behind
 		}
 		v := holdLook(t, sh, words)
 		if !slices.Equal(v.Free, order) || !slices.Equal(v.Queue, order) || v.Grey[0] != order[9] {
@@ -237,12 +237,12 @@ func TestP13_1_LookOfAnyWords(t *testing.T) {
 	from := newSource(7)
 	for range 20000 {
 		sh := from.Shape()
-		words := from.words(sh)
+		words := from.Words(sh)
 		holdLook(t, sh, words)
 	}
 	for _, sh := range trial.RightShapes() {
 		for _, w := range append(trial.Values(), 0x5555555555555555, 0xaaaaaaaaaaaaaaaa) {
-			words := make([]uint64, sizeOf(sh))
+			words := make([]uint64, trial.SizeOf(sh))
 			for at := range words {
 				words[at] = w
 			}
@@ -297,7 +297,7 @@ func TestP13_1_MemoriesOfActs(t *testing.T) {
 // acts: for so many hands, at words and beside them.
 func (s *source) acts(words, hands, most int) [][]api.Job {
 	return s.Jobs(hands, most, func() api.Job {
-		j := api.Job{Kind: api.Load + s.Below(5), A: s.Below(words+4) - 2, B: s.Below(2), H: s.near(5)}
+		j := api.Job{Kind: api.Load + s.Below(5), A: s.Below(words+4) - 2, B: s.Below(2), H: s.Near(5)}
 		switch s.Below(6) {
 		case 0:
 			j.A, j.H = s.End(), s.Value()

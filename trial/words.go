@@ -1,0 +1,63 @@
+package trial
+
+import "midden/api"
+
+// A heap's memory as plain code: where its words stand is reckoned by layer 12's chapter alone.
+
+// SizeOf: how many words the memory of a right shape has.
+func SizeOf(sh api.Shape) int {
+	return 8 + sh.Hands + sh.Hands*sh.Roots + sh.Weaks + sh.Objects*(3+sh.Slots)
+}
+
+// HeadAt: where an object's head stands; -1 for a number that is none of its objects.
+func HeadAt(sh api.Shape, number int) int {
+	if number < 1 || number > sh.Objects {
+		return -1
+	}
+	return SizeOf(sh) - (sh.Objects-number+1)*(3+sh.Slots)
+}
+
+// LinkAt: where its link stands, likewise.
+func LinkAt(sh api.Shape, number int) int {
+	if at := HeadAt(sh, number); at >= 0 {
+		return at + 1
+	}
+	return -1
+}
+
+// Any: a word of all bits.
+func (s *Source) Any() uint64 {
+	return uint64(s.Below(half))<<32 | uint64(s.Below(half))
+}
+
+// Near: a word with a number up to n + 1 in its lower half, and often with something in its upper half.
+func (s *Source) Near(n int) uint64 {
+	w := uint64(s.Below(n + 2))
+	switch s.Below(4) {
+	case 0:
+		w += s.Any() &^ (half - 1)
+	case 1:
+		w += half * uint64(s.Below(3))
+	}
+	return w
+}
+
+// One: any word, one at an end, or one that shows an object or the number behind the last one.
+func (s *Source) One(sh api.Shape) uint64 {
+	switch s.Below(5) {
+	case 0:
+		return s.Any()
+	case 1:
+		return s.Value()
+	}
+	return s.Near(sh.Objects)
+}
+
+// Words: a memory of this shape with anything in it.
+func (s *Source) Words(sh api.Shape) []uint64 {
+	out := make([]uint64, SizeOf(sh))
+	for at := range out {
+		out[at] = s.One(sh)
+	}
+	return out
+}

@@ -1,0 +1,203 @@
+package trial_test
+
+import (
+	"slices"
+	"testing"
+
+	"midden/api"
+	"midden/shape"
+	"midden/trial"
+	"midden/turn"
+)
+
+// Where a heap's words stand is what shape tells; and what isn't there stands at -1.
+func TestPlaces(t *testing.T) {
+	for _, sh := range trial.RightShapes() {
+		if size, e := shape.Size(sh); e != api.OK || trial.SizeOf(sh) != size {
+			t.Error(sh, trial.SizeOf(sh), size)
+		}
+		for number := 1; number <= sh.Objects; number++ {
+			if at, e := shape.Object(sh, number); e != api.OK || trial.HeadAt(sh, number) != at || trial.LinkAt(sh, number) != at+1 {
+				t.Error(sh, number, trial.HeadAt(sh, number), trial.LinkAt(sh, number), at)
+			}
+		}
+		for _, number := range append(trial.Ends(), 0, sh.Objects+1, 1<<32, 1<<32+1) {
+			if trial.HeadAt(sh, number) != -1 || trial.LinkAt(sh, number) != -1 {
+				t.Error(sh, number, trial.HeadAt(sh, number), trial.LinkAt(sh, number))
+			}
+		}
+	}
+}
+
+// Any words: as many as there must be, and among them all that shows objects and all that doesn't.
+func TestWords(t *testing.T) {
+	from := trial.Source(5)
+	near, far, upper, none := 0, 0, 0, 0
+	for range 50 {
+		sh := from.Shape()
+		words := from.Words(sh)
+		if len(words) != trial.SizeOf(sh) {
+			t.Fatal(sh, len(words))
+		}
+		for _, w := range words {
+			switch number := trial.Number(w); {
+			case number == 0:
+				none++
+			case number <= sh.Objects:
+				near++
+			default:
+				far++
+			}
+			if trial.Upper(w) > 0 {
+				upper++
+			}
+		}
+	}
+	if min(near, far, upper, none) < 100 {
+		t.Error(near, far, upper, none)
+	}
+}
+
+// Layer 16's tables, on its chapter's examples and on words whose upper halves are at their end.
+func TestMarkingAndPulling(t *testing.T) {
+	sh := api.Shape{Objects: 1, Hands: 1, Roots: 1}
+	const half = 1 << 32
+	tables := trial.Layer{Table: func(sh api.Shape, _ int, j api.Job, act trial.Act) api.Answer {
+		if j.Kind == 1 {
+			return trial.Marking(sh, j.H, j.C, act)
+		}
+		return trial.Pulling(sh, act)
+	}}
+	tables.Play = tables.Model
+	words := []uint64{0, 0, 0, 0, 0, 0, 0, 0, 0, 0, 1, 0, 0}
+	jobs := []api.Job{{Kind: 1, H: 1, C: 1}, {Kind: 1, H: 1, C: -1}, {}, {}, {Kind: 1, H: 7, C: 1}, {Kind: 1, C: 1}}
+	after := slices.Clone(words)
+	after[2], after[10] = 2*half, 3
+	tables.HoldSteps(t, sh, words, [][]api.Job{jobs}, nil, []api.Step{
+		trial.Load(0, 10, 1), trial.CAS(0, 10, 1, 3), trial.Load(0, 2, 0), trial.Store(0, 11, 0, 0), trial.CAS(0, 2, 0, half+1),
+		trial.Load(0, 10, 3),
+		trial.Load(0, 2, half+1), trial.Load(0, 11, 0), trial.CAS(0, 2, half+1, 2*half),
+		trial.Load(0, 2, 2*half),
+		trial.Load(0, -1, 0), trial.Load(0, -1, 0),
+	}, [][]api.Answer{{trial.Told(1), {}, trial.Told(1), {}, {}, {}}}, after)
+	words[2], words[10], words[11] = (half-1)*half, (half-1)*half+3, 5*half
+	after = slices.Clone(words)
+	after[2], after[10], after[11] = half, (half-1)*half+1, 0
+	tables.HoldSteps(t, sh, words, [][]api.Job{{{Kind: 1, H: (half-1)*half + 1, C: 0}, {}}}, nil, []api.Step{
+		trial.Load(0, 10, words[10]), trial.CAS(0, 10, words[10], after[10]),
+		trial.Load(0, 2, words[2]), trial.Store(0, 11, 5*half, 0), trial.CAS(0, 2, words[2], 1),
+		trial.Load(0, 2, 1), trial.Load(0, 11, 0), trial.CAS(0, 2, 1, half),
+	}, [][]api.Answer{{trial.Told(1), trial.Told(1)}}, after)
+}
+
+// What is no handle of a white object.
+func TestWhite(t *testing.T) {
+	const half = 1 << 32
+	for _, c := range []struct {
+		head, gen uint64
+		colour    int
+		want      bool
+	}{
+		{1, 0, 1, true}, {1, 0, 0, false}, {1, 1, 1, false}, {2, 0, 0, false}, {3, 0, 0, true}, {3, 0, 2, true}, {3, 0, -2, true},
+		{1, 0, -1, true}, {1, 0, 3, true}, {3, 0, -1, false}, {half + 1, 1, 1, true}, {half + 1, 0, 1, false}, {0, 0, 1, false},
+		{0xfffd, 0, 1, true}, {0xfffc, 0, 1, false},
+	} {
+		if got := trial.White(c.head, c.gen, c.colour); got != c.want {
+			t.Error(c, got)
+		}
+	}
+}
+
+// heapOn: the layer on trial on a heap's memory, as a layer that has no Free.
+func heapOn(run func(words []uint64, hands [][]api.Job, schedule []int, most int) (api.Trace, [][]api.Answer, api.Errno)) trial.Layer {
+	return trial.Layer{Size: shape.Size, Fresh: shape.Fresh, Table: table,
+		Play: func(sh api.Shape, words []uint64, hands [][]api.Job, schedule []int, most int) (api.Trace, [][]api.Answer, api.Errno) {
+			size, e := shape.Size(sh)
+			if e != api.OK {
+				return api.Trace{}, nil, e
+			}
+			if len(words) != size {
+				return api.Trace{}, nil, api.ErrSize
+			}
+			return run(words, hands, schedule, most)
+		}}
+}
+
+func heapRun(words []uint64, hands [][]api.Job, schedule []int, most int) (api.Trace, [][]api.Answer, api.Errno) {
+	return turn.Play(words, hands, schedule, most, func(hand int, j api.Job) (turn.Task, api.Errno) {
+		return task(api.Shape{Room: 4}, hand, j)
+	})
+}
+
+// A layer without Free is held to the rules by Play alone; its faults are heard all the same.
+func TestLayerWithoutFree(t *testing.T) {
+	sh := api.Shape{Objects: 2, Slots: 1, Hands: 1, Roots: 2, Weaks: 1}
+	words := make([]uint64, trial.SizeOf(sh))
+	hands := [][]api.Job{{add(1), add(2)}, {add(3)}}
+	rules := func(t trial.T, l trial.Layer) {
+		l.HoldRefusals(t, trial.HeapFaults(sh, add(1), 1))
+		l.HoldMemory(t, sh, words, hands, []int{0, 1}, 30)
+	}
+	for _, c := range []struct {
+		name  string
+		spoil func(l *trial.Layer)
+		heard bool
+	}{
+		{"nothing", func(*trial.Layer) {}, false},
+		{"a shape that isn't looked at", func(l *trial.Layer) {
+			l.Play = func(sh api.Shape, words []uint64, hands [][]api.Job, schedule []int, most int) (api.Trace, [][]api.Answer, api.Errno) {
+				sh.Weaks = max(sh.Weaks, 0)
+				return heapOn(heapRun).Play(sh, words, hands, schedule, most)
+			}
+		}, true},
+		{"a kind more", func(l *trial.Layer) {
+			*l = heapOn(func(words []uint64, hands [][]api.Job, schedule []int, most int) (api.Trace, [][]api.Answer, api.Errno) {
+				if len(hands) == 1 && len(hands[0]) == 1 && hands[0][0].Kind == 2 {
+					hands = [][]api.Job{{add(1)}}
+				}
+				return heapRun(words, hands, schedule, most)
+			})
+		}, true},
+		{"words that change", func(l *trial.Layer) {
+			*l = heapOn(func(words []uint64, hands [][]api.Job, schedule []int, most int) (api.Trace, [][]api.Answer, api.Errno) {
+				x, a, e := heapRun(words, hands, schedule, most)
+				_ = append(words, 1)
+				return x, a, e
+			})
+		}, true},
+	} {
+		l := heapOn(heapRun)
+		c.spoil(&l)
+		if hears(func(t trial.T) { rules(t, l) }) != c.heard {
+			t.Error(c.name)
+		}
+	}
+}
+
+// A task that takes no notice of others is found out by acts amid its steps alone.
+func TestTaskAmid(t *testing.T) {
+	sh, words := api.Shape{Room: 1}, []uint64{4}
+	deaf := sound()
+	deaf.Table = func(_ api.Shape, _ int, j api.Job, act trial.Act) api.Answer {
+		w := act.Load(j.A)
+		act.CAS(j.A, w, w+j.H)
+		return trial.Told(w)
+	}
+	twice := func(i int) []api.Step {
+		if i == 1 || i == 3 {
+			return []api.Step{{Act: api.Add, At: 0, Put: 5}, {Act: api.Store, At: 7, Put: 5}}
+		}
+		return nil
+	}
+	for _, hand := range []int{0, -3} {
+		if hears(func(t trial.T) { deaf.HoldTask(t, sh, hand, add(1), words, 9) }) {
+			t.Error("alone it does the same")
+		}
+		if !hears(func(t trial.T) { deaf.HoldTaskAmid(t, sh, hand, add(1), words, 9, twice) }) {
+			t.Error("nothing is heard")
+		}
+		if hears(func(t trial.T) { sound().HoldTaskAmid(t, sh, hand, add(1), words, 9, twice) }) {
+			t.Error("something is heard")
+		}
+	}
+}
