@@ -36,16 +36,13 @@ var next = api.Job{Kind: shade.Next}
 
 const half = 1 << 32
 
-// tagged: a list's head, or a handle.
-func tagged(number int, upper uint64) uint64 { return uint64(number) + upper*half }
-
-// tags: those that are about to wrap among them.
-func tags() []uint64 { return []uint64{0, 1, 5, half/2 - 1, half - 2, half - 1} }
-
-// farNumbers: what is no object's number, behind the last one of so many.
-func farNumbers(objects int) []int {
-	return []int{objects + 1, objects + 2, half/2 - 1, half / 2, half - 1}
-}
+// Short names for what is written down again and again.
+var (
+	tagged     = trial.Tagged
+	tags       = trial.Tags
+	farNumbers = trial.FarNumbers
+	with       = trial.With
+)
 
 // One object without slots: its head is word 10, its link 11. Three objects with a slot each: their heads are the words 10, 14
 // and 18, each with its link behind it.
@@ -54,41 +51,15 @@ var (
 	three = api.Shape{Objects: 3, Slots: 1, Hands: 1, Roots: 1}
 )
 
-// A cell is an object's head and link.
-type cell struct{ head, link uint64 }
+type cell = trial.Cell
 
-// memory: with these objects and this word Grey; whatever else stands there is nothing that the layer may look at.
+// memory: with these objects and this word Grey.
 func memory(sh api.Shape, grey uint64, objects ...cell) []uint64 {
-	out := make([]uint64, trial.SizeOf(sh))
-	for at := range out {
-		out[at] = uint64(1000 + at)
-	}
-	out[api.Grey] = grey
-	for i, o := range objects {
-		at := trial.HeadAt(sh, i+1)
-		out[at], out[at+1] = o.head, o.link
-	}
-	return out
+	return trial.Memory(sh, api.Grey, grey, objects...)
 }
 
-// with: the same words, but for one.
-func with(words []uint64, at int, v uint64) []uint64 {
-	out := slices.Clone(words)
-	out[at] = v
-	return out
-}
-
-// listIn: the grey list, from Grey along the links; false, if it doesn't end with a 0, or has an object twice.
-func listIn(sh api.Shape, words []uint64) ([]int, bool) {
-	var out []int
-	for number := trial.Number(words[api.Grey]); number != 0; number = trial.Number(words[trial.LinkAt(sh, number)]) {
-		if number > sh.Objects || slices.Contains(out, number) {
-			return nil, false
-		}
-		out = append(out, number)
-	}
-	return out, true
-}
+// listIn: the grey list, if it is one.
+func listIn(sh api.Shape, words []uint64) ([]int, bool) { return trial.ListIn(sh, words, api.Grey) }
 
 // isList: is the grey list one of objects in use of this colour? That is what P16.2 asks for.
 func isList(sh api.Shape, words []uint64, colour int) bool {
@@ -276,13 +247,7 @@ func greyWords(from *trial.Source, sh api.Shape, colour int) []uint64 {
 			list = slices.Insert(list, from.Below(len(list)+1), number)
 		}
 	}
-	at := api.Grey
-	for _, number := range append(list, 0) {
-		upper := trial.Upper(words[at])
-		words[at] = tagged(number, upper)
-		at = trial.LinkAt(sh, number)
-	}
-	return words
+	return trial.Lay(sh, words, api.Grey, list)
 }
 
 // anyJobs: of both kinds, with these colours. What a kind doesn't use is any number.
@@ -301,15 +266,6 @@ func anyJobs(from *trial.Source, sh api.Shape, words []uint64, colours []int, ha
 }
 
 var both = []int{0, 1}
-
-// smallShape: often so few objects that hands meet at one of them.
-func smallShape(from *trial.Source) api.Shape {
-	sh := from.Shape()
-	if from.Below(3) > 0 {
-		sh.Objects = 1 + from.Below(3)
-	}
-	return sh
-}
 
 // everyOrder goes through each order of the hands' steps.
 func everyOrder(t *testing.T, sh api.Shape, words []uint64, hands [][]api.Job, hold func(schedule []int)) int {

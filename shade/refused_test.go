@@ -148,10 +148,10 @@ func TestP1_NoShape(t *testing.T) {
 	words, _ := shape.Fresh(three)
 	for _, sh := range trial.WrongShapes() {
 		for _, colour := range []int{math.MinInt, 0, 1, math.MaxInt} {
-			drive(t, shade.Mark(sh, -1, 1, colour), words, nil)
-			drive(t, shade.Mark(sh, -1, math.MaxUint64, colour), words, nil)
+			trial.Drive(t, shade.Mark(sh, -1, 1, colour), words, nil)
+			trial.Drive(t, shade.Mark(sh, -1, math.MaxUint64, colour), words, nil)
 		}
-		drive(t, shade.Pull(sh, 0), with(words, api.Grey, 2), nil)
-		drive(t, shade.Pull(sh, 0), nil, nil)
+		trial.Drive(t, shade.Pull(sh, 0), with(words, api.Grey, 2), nil)
+		trial.Drive(t, shade.Pull(sh, 0), nil, nil)
 	}
 }

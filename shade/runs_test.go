@@ -69,7 +69,7 @@ func TestP16_2_OneObject(t *testing.T) {
 	from := trial.Source(31)
 	lost := 0
 	for range 2000 {
-		sh := smallShape(&from)
+		sh := from.SmallShape()
 		colour := from.Below(2)
 		words := greyWords(&from, sh, colour)
 		number := 1 + from.Below(sh.Objects)
@@ -126,7 +126,7 @@ func TestP16_2_AnySchedule(t *testing.T) {
 	var c count
 	longest := 0
 	for range 6000 {
-		sh, colour := smallShape(&from), from.Below(2)
+		sh, colour := from.SmallShape(), from.Below(2)
 		words := greyWords(&from, sh, colour)
 		if list, _ := listIn(sh, words); len(list) > longest {
 			longest = len(list)
@@ -152,7 +152,7 @@ func TestP16_2_OneRunBehindTheOther(t *testing.T) {
 	shaded := 0
 	for range 200 {
 		sh := from.Shape()
-		words := heapOf(t, &from, sh)
+		words := from.Ran(sh)
 		var used []uint64
 		for number := 1; number <= sh.Objects; number++ {
 			if head := words[trial.HeadAt(sh, number)]; head%2 == 1 {
@@ -246,7 +246,7 @@ func TestP16_3_Tag(t *testing.T) {
 	from := trial.Source(37)
 	around := 0
 	for range 2000 {
-		sh := smallShape(&from)
+		sh := from.SmallShape()
 		words := anyWords(&from, sh)
 		words[api.Grey] = tagged(from.Below(sh.Objects+1), half-1-uint64(from.Below(20)))
 		hands := anyJobs(&from, sh, words, both, 4, 10)

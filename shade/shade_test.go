@@ -281,34 +281,6 @@ func TestP16_1_HeadThatCameAgain(t *testing.T) {
 	}
 }
 
-// A change is a word and what it becomes.
-type change struct {
-	at int
-	v  uint64
-}
-
-// drive makes a task's steps to its end on a memory by hand; ahead of a step stands what others do to a word there.
-func drive(t *testing.T, k turn.Task, words []uint64, amid map[int]change) ([]api.Step, api.Answer, []uint64) {
-	t.Helper()
-	m, _ := cells.New(words)
-	var steps []api.Step
-	for i := range 100 {
-		if c, ok := amid[i]; ok {
-			m.Store(c.at, c.v)
-		}
-		s, state := k.Step(m)
-		steps = append(steps, s)
-		if state == turn.Ended {
-			return steps, k.Answer(), m.Words()
-		}
-		if state != turn.Going {
-			t.Fatal("neither going nor ended:", state)
-		}
-	}
-	t.Fatal("no end", steps)
-	return nil, api.Answer{}, nil
-}
-
 // A head that changes otherwise between load and CAS: it is loaded again, and goes by what stands there then.
 func TestP16_1_HeadChangedAmid(t *testing.T) {
 	const hand = 12
@@ -329,7 +301,7 @@ func TestP16_1_HeadChangedAmid(t *testing.T) {
 		{"of the colour, and older", 5*half + 0x103, false},
 		{"nothing", 0, false},
 	} {
-		steps, told, after := drive(t, shade.Mark(one, hand, h, 1), words, map[int]change{1: {10, c.is}})
+		steps, told, after := trial.Drive(t, shade.Mark(one, hand, h, 1), words, map[int]trial.Put{1: {10, c.is}})
 		want := []api.Step{trial.Load(hand, 10, words[10]), trial.Lost(hand, 10, c.is), trial.Load(hand, 10, c.is)}
 		if c.done {
 			want = append(append(want, trial.CAS(hand, 10, c.is, c.is^2)), rest...)
@@ -339,12 +311,12 @@ func TestP16_1_HeadChangedAmid(t *testing.T) {
 		}
 	}
 	// Behind its CAS the head isn't looked at any more.
-	steps, told, after := drive(t, shade.Mark(one, hand, h, 1), words, map[int]change{2: {10, 0}})
+	steps, told, after := trial.Drive(t, shade.Mark(one, hand, h, 1), words, map[int]trial.Put{2: {10, 0}})
 	if len(steps) != 5 || told != trial.Told(1) || after[10] != 0 || after[2] != tagged(1, 5) {
 		t.Error(steps, told, after)
 	}
 	// Another colour by the last bit, again and again.
-	steps, told, _ = drive(t, shade.Mark(one, hand, h, -2), words, map[int]change{0: {10, 5*half + 3}, 1: {10, 5*half + 0x103}, 3: {10, 5*half + 0x203}, 5: {10, 5*half + 1}})
+	steps, told, _ = trial.Drive(t, shade.Mark(one, hand, h, -2), words, map[int]trial.Put{0: {10, 5*half + 3}, 1: {10, 5*half + 0x103}, 3: {10, 5*half + 0x203}, 5: {10, 5*half + 1}})
 	if len(steps) != 7 || told != (api.Answer{}) {
 		t.Error(steps, told)
 	}
@@ -425,18 +397,18 @@ func TestP16_1_GreyThatCameAgain(t *testing.T) {
 func TestP16_1_PullDrivenAlone(t *testing.T) {
 	words := memory(three, tagged(1, 7), cell{3, tagged(2, 9)}, cell{3, 3}, cell{3, 0})
 	for _, hand := range append(trial.Ends(), 0, 7, 8, 99) {
-		steps, told, after := drive(t, shade.Pull(three, hand), words, nil)
+		steps, told, after := trial.Drive(t, shade.Pull(three, hand), words, nil)
 		want := []api.Step{trial.Load(hand, 2, words[2]), trial.Load(hand, 11, words[11]), trial.CAS(hand, 2, words[2], tagged(2, 8))}
 		if !slices.Equal(steps, want) || told != trial.Told(1) || !slices.Equal(after, with(words, 2, tagged(2, 8))) {
 			t.Error("alone", hand, steps, told)
 		}
 		// The link goes by what stands there when it is loaded.
-		steps, told, after = drive(t, shade.Pull(three, hand), words, map[int]change{1: {11, 3}, 2: {11, 0}})
+		steps, told, after = trial.Drive(t, shade.Pull(three, hand), words, map[int]trial.Put{1: {11, 3}, 2: {11, 0}})
 		if len(steps) != 3 || told != trial.Told(1) || after[2] != tagged(3, 8) {
 			t.Error("another link", hand, steps, told)
 		}
 		// Grey shows another object, of another link; then the same tag again with another one; then none.
-		steps, told, after = drive(t, shade.Pull(three, hand), words, map[int]change{2: {2, tagged(2, 8)}, 5: {2, tagged(3, 8)}, 8: {2, tagged(0, 8)}})
+		steps, told, after = trial.Drive(t, shade.Pull(three, hand), words, map[int]trial.Put{2: {2, tagged(2, 8)}, 5: {2, tagged(3, 8)}, 8: {2, tagged(0, 8)}})
 		want = []api.Step{
 			trial.Load(hand, 2, words[2]), trial.Load(hand, 11, words[11]), trial.Lost(hand, 2, tagged(2, 8)),
 			trial.Load(hand, 2, tagged(2, 8)), trial.Load(hand, 15, 3), trial.Lost(hand, 2, tagged(3, 8)),
@@ -464,7 +436,7 @@ func TestP16_1_TaskAlone(t *testing.T) {
 	from := trial.Source(1)
 	for _, hand := range append(trial.Ends(), 0, 1, 7, 8, 9, 1<<32) {
 		for range 60 {
-			sh := smallShape(&from)
+			sh := from.SmallShape()
 			long := append(anyWords(&from, sh), from.Words(sh)...)
 			words := long[:from.Below(len(long)+1)]
 			if from.Below(3) == 0 {
@@ -482,7 +454,7 @@ func TestP16_1_TaskAlone(t *testing.T) {
 func TestP16_1_TaskAmidOthers(t *testing.T) {
 	from := trial.Source(2)
 	for range 20000 {
-		sh := smallShape(&from)
+		sh := from.SmallShape()
 		words := anyWords(&from, sh)
 		jobs := slices.Concat(anyJobs(&from, sh, words, both, 1, 2)...)
 		if len(jobs) == 0 {

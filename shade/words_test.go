@@ -5,11 +5,9 @@ import (
 	"testing"
 
 	"midden/api"
-	"midden/cells"
 	"midden/shade"
 	"midden/shape"
 	"midden/trial"
-	"midden/turn"
 )
 
 // A count is how often each kind of thing comes in runs.
@@ -80,7 +78,7 @@ func TestP16_1_AnyWordsByModel(t *testing.T) {
 	from := trial.Source(11)
 	var c count
 	for range 20000 {
-		sh := smallShape(&from)
+		sh := from.SmallShape()
 		words := anyWords(&from, sh)
 		hands := anyJobs(&from, sh, words, both, from.Below(api.MaxHands+1), 6)
 		x, a := play(t, sh, words, hands, from.Schedule(from.Below(100)), from.Below(250))
@@ -111,29 +109,15 @@ func TestP16_1_FreshMemories(t *testing.T) {
 	}
 }
 
-// heapOf: a memory that a run of hands on a heap has left; most often to its end.
-func heapOf(t *testing.T, from *trial.Source, sh api.Shape) []uint64 {
-	t.Helper()
-	most := api.MaxSteps
-	if from.Below(3) == 0 {
-		most = from.Below(150)
-	}
-	x, _, e := trial.Heap().Model(sh, from.Older(sh), from.HeapJobs(sh, 30), from.Schedule(100), most)
-	if e != api.OK {
-		t.Fatal(e)
-	}
-	return x.Words
-}
-
 // Memories that runs of the layers below leave: heaps, and acts of any kind at any word.
 func TestP16_1_MemoriesOfRuns(t *testing.T) {
 	from := trial.Source(12)
 	var c count
 	for range 2000 {
 		sh := from.Shape()
-		words := heapOf(t, &from, sh)
+		words := from.Ran(sh)
 		if from.Below(3) == 0 {
-			words = actedOn(t, &from, sh, words)
+			words = from.Acted(sh, words)
 		}
 		hands := anyJobs(&from, sh, words, both, from.Below(api.MaxHands+1), 10)
 		x, a := play(t, sh, words, hands, from.Schedule(from.Below(100)), from.Below(400))
@@ -147,23 +131,6 @@ func TestP16_1_MemoriesOfRuns(t *testing.T) {
 	if c.least() < 100 {
 		t.Errorf("something comes too seldom: %+v", c)
 	}
-}
-
-// actedOn: the words behind acts of any kind, by a schedule and as a script.
-func actedOn(t *testing.T, from *trial.Source, sh api.Shape, words []uint64) []uint64 {
-	t.Helper()
-	hands := from.Jobs(3, 20, func() api.Job {
-		return api.Job{Kind: api.Load + from.Below(5), A: from.Below(len(words)), B: from.Below(2), H: from.Near(sh.Objects)}
-	})
-	x, _, e := turn.Acts(words, hands, from.Schedule(20), 100)
-	if e != api.OK {
-		t.Fatal(e)
-	}
-	_, after, e := cells.Script(x.Words, x.Steps)
-	if e != api.OK {
-		t.Fatal(e)
-	}
-	return after
 }
 
 // most in the middle of a job: what it has done so far stands in the words, and no answer is told; most of 0 does nothing.

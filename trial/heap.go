@@ -2,14 +2,15 @@ package trial
 
 import (
 	"midden/api"
+	"midden/cells"
 	"midden/shape"
+	"midden/turn"
 	"midden/view"
 	"midden/word"
 )
 
 // The bits of an object's head that are set by hand.
 const (
-	usedBit  = 1
 	finalBit = 4
 	takenBit = 8
 )
@@ -31,23 +32,13 @@ func Heap() Layer {
 }
 
 func making(sh api.Shape, hand int, j api.Job, act Act) api.Answer {
-	for {
-		free := act.Load(api.Free)
-		index := word.Index(free)
-		at, e := shape.Object(sh, index)
-		if e != api.OK {
-			return api.Answer{}
-		}
-		link := act.Load(at + 1)
-		if !act.CAS(api.Free, free, word.Bump(free, word.Index(link))) {
-			continue
-		}
-		head := act.Load(at)
-		act.Store(at, head|usedBit|finalBit*uint64(j.B))
-		root, _ := shape.Root(sh, hand, j.A)
-		act.Store(root, word.Handle(index, word.Gen(head)))
-		return Told(uint64(index))
+	told := Making(sh, j.B == 1, 0, act)
+	if !told.OK {
+		return told
 	}
+	root, _ := shape.Root(sh, hand, j.A)
+	act.Store(root, told.Val)
+	return Told(uint64(Number(told.Val)))
 }
 
 func putting(sh api.Shape, hand int, j api.Job, act Act) api.Answer {
@@ -110,6 +101,26 @@ func (s *Source) Older(sh api.Shape) []uint64 {
 		words[at] = []uint64{0, 1, half - 1}[s.Below(3)] * half
 	}
 	return words
+}
+
+// Ran: a memory that a run of hands on a heap has left; most often to its end.
+func (s *Source) Ran(sh api.Shape) []uint64 {
+	most := api.MaxSteps
+	if s.Below(3) == 0 {
+		most = s.Below(150)
+	}
+	x, _, _ := Heap().Model(sh, s.Older(sh), s.HeapJobs(sh, 30), s.Schedule(100), most)
+	return x.Words
+}
+
+// Acted: the words behind acts of any kind at any of them, by a schedule and as a script.
+func (s *Source) Acted(sh api.Shape, words []uint64) []uint64 {
+	hands := s.Jobs(3, 20, func() api.Job {
+		return api.Job{Kind: api.Load + s.Below(5), A: s.Below(len(words)), B: s.Below(2), H: s.Near(sh.Objects)}
+	})
+	x, _, _ := turn.Acts(words, hands, s.Schedule(20), 100)
+	_, after, _ := cells.Script(x.Words, x.Steps)
+	return after
 }
 
 // LookAt: the view of words of this shape.

@@ -73,3 +73,49 @@ func TestOlder(t *testing.T) {
 		t.Error("no view, and nothing is said")
 	}
 }
+
+// What runs on a heap leave, and what acts make of it: words of this shape; heaps of all fillings, most of them at rest.
+func TestRan(t *testing.T) {
+	from := trial.Source(6)
+	used, none, amid, changed := 0, 0, 0, 0
+	for range 100 {
+		sh := from.Shape()
+		words := from.Ran(sh)
+		v := trial.LookAt(t, sh, words)
+		if made := int(v.Counts[0]); made == 0 {
+			none++
+		} else if used++; view.Check(sh, words) != api.OK {
+			amid++
+		}
+		held := slices.Clone(words)
+		behind := from.Acted(sh, words)
+		trial.LookAt(t, sh, behind)
+		if !slices.Equal(words, held) {
+			t.Fatal("the words have changed")
+		}
+		if !slices.Equal(words, behind) {
+			changed++
+		}
+	}
+	if min(used, none, amid, changed) < 2 || used < 80 || changed < 80 || amid > 40 {
+		t.Error(used, none, amid, changed)
+	}
+}
+
+// Small shapes are right ones, and many have so few objects.
+func TestSmallShapes(t *testing.T) {
+	from := trial.Source(7)
+	few := 0
+	for range 300 {
+		sh := from.SmallShape()
+		if e := shape.Check(sh); e != api.OK {
+			t.Fatal(sh, e)
+		}
+		if sh.Objects <= 3 {
+			few++
+		}
+	}
+	if few < 150 || few > 290 {
+		t.Error(few)
+	}
+}

@@ -12,8 +12,9 @@ type Act func(act, at int, old, v uint64) api.Step
 // Load: the act that tables have most of.
 func (a Act) Load(at int) uint64 { return a(api.Load, at, 0, 0).Had }
 
-// Store, CAS: likewise, with what is asked of them.
+// Store, Add, CAS: likewise, with what is asked of them.
 func (a Act) Store(at int, v uint64)         { a(api.Store, at, 0, v) }
+func (a Act) Add(at int, v uint64)           { a(api.Add, at, 0, v) }
 func (a Act) CAS(at int, old, v uint64) bool { return a(api.CAS, at, old, v).OK }
 
 // A routine is a job as plain code, as a task. The code can't stand still between its acts: so with each step it goes

@@ -8,8 +8,10 @@ import "midden/api"
 func Number(w uint64) int   { return int(w % half) }
 func Upper(w uint64) uint64 { return w / half }
 
-// Turned: a list's head that shows another number, with the next tag.
-func Turned(head uint64, number int) uint64 { return uint64(number) + (Upper(head)+1)%half*half }
+// Turned: a list's head that shows another number, with the next tag. Of the number, which may be any, it has the lower half.
+func Turned(head uint64, number int) uint64 {
+	return uint64(number)%half + (Upper(head)+1)%half*half
+}
 
 // White: is an object with this head in use, of this generation, and of another colour than this one's last bit?
 func White(head, gen uint64, colour int) bool {

@@ -72,3 +72,12 @@ func (s *Source) Shape() api.Shape {
 	}
 	return api.Shape{Objects: 1 + s.Below(8), Slots: s.Below(4), Hands: 1 + s.Below(3), Roots: 1 + s.Below(3), Weaks: s.Below(4), Room: s.End()}
 }
+
+// SmallShape: a right one, often with so few objects that hands meet at one of them.
+func (s *Source) SmallShape() api.Shape {
+	sh := s.Shape()
+	if s.Below(3) > 0 {
+		sh.Objects = 1 + s.Below(3)
+	}
+	return sh
+}

@@ -9,18 +9,34 @@ func SizeOf(sh api.Shape) int {
 	return 8 + sh.Hands + sh.Hands*sh.Roots + sh.Weaks + sh.Objects*(3+sh.Slots)
 }
 
-// HeadAt: where an object's head stands; -1 for a number that is none of its objects.
+// isRight: is it a shape?
+func isRight(sh api.Shape) bool {
+	for _, f := range Fields() {
+		if n := *f.Of(&sh); n < f.Least || n > f.Most {
+			return false
+		}
+	}
+	return true
+}
+
+// HeadAt: where an object's head stands; -1 for a number that is none of its objects, and for a shape that is none.
 func HeadAt(sh api.Shape, number int) int {
-	if number < 1 || number > sh.Objects {
+	if number < 1 || number > sh.Objects || !isRight(sh) {
 		return -1
 	}
 	return SizeOf(sh) - (sh.Objects-number+1)*(3+sh.Slots)
 }
 
-// LinkAt: where its link stands, likewise.
+// LinkAt, SlotAt: where its link and its slots stand, likewise.
 func LinkAt(sh api.Shape, number int) int {
 	if at := HeadAt(sh, number); at >= 0 {
 		return at + 1
+	}
+	return -1
+}
+func SlotAt(sh api.Shape, number, slot int) int {
+	if at := HeadAt(sh, number); at >= 0 && slot >= 0 && slot < sh.Slots {
+		return at + 3 + slot
 	}
 	return -1
 }

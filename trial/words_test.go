@@ -20,11 +20,26 @@ func TestPlaces(t *testing.T) {
 			if at, e := shape.Object(sh, number); e != api.OK || trial.HeadAt(sh, number) != at || trial.LinkAt(sh, number) != at+1 {
 				t.Error(sh, number, trial.HeadAt(sh, number), trial.LinkAt(sh, number), at)
 			}
+			for slot := range sh.Slots {
+				if at, e := shape.Slot(sh, number, slot); e != api.OK || trial.SlotAt(sh, number, slot) != at {
+					t.Error(sh, number, slot, trial.SlotAt(sh, number, slot), at)
+				}
+			}
+			for _, slot := range append(trial.Ends(), sh.Slots) {
+				if trial.SlotAt(sh, number, slot) != -1 {
+					t.Error(sh, number, slot, trial.SlotAt(sh, number, slot))
+				}
+			}
 		}
 		for _, number := range append(trial.Ends(), 0, sh.Objects+1, 1<<32, 1<<32+1) {
-			if trial.HeadAt(sh, number) != -1 || trial.LinkAt(sh, number) != -1 {
+			if trial.HeadAt(sh, number) != -1 || trial.LinkAt(sh, number) != -1 || trial.SlotAt(sh, number, 0) != -1 {
 				t.Error(sh, number, trial.HeadAt(sh, number), trial.LinkAt(sh, number))
 			}
+		}
+	}
+	for _, sh := range trial.WrongShapes() {
+		if trial.HeadAt(sh, 1) != -1 || trial.LinkAt(sh, 1) != -1 || trial.SlotAt(sh, 1, 0) != -1 {
+			t.Error("no shape:", sh)
 		}
 	}
 }
@@ -88,6 +103,45 @@ func TestMarkingAndPulling(t *testing.T) {
 		trial.Load(0, 2, words[2]), trial.Store(0, 11, 5*half, 0), trial.CAS(0, 2, words[2], 1),
 		trial.Load(0, 2, 1), trial.Load(0, 11, 0), trial.CAS(0, 2, 1, half),
 	}, [][]api.Answer{{trial.Told(1), trial.Told(1)}}, after)
+}
+
+// Layer 17's tables, on its chapter's examples and on generations, tags and numbers at their end.
+func TestMakingAndGiving(t *testing.T) {
+	sh := api.Shape{Objects: 2, Slots: 1, Hands: 1, Roots: 1} // heads 10 and 14
+	const half = 1 << 32
+	tables := trial.Layer{Table: func(sh api.Shape, _ int, j api.Job, act trial.Act) api.Answer {
+		if j.Kind == 1 {
+			return trial.Making(sh, j.B == 1, j.C, act)
+		}
+		return trial.Giving(sh, j.A, act)
+	}}
+	tables.Play = tables.Model
+	hold := func(words []uint64, steps []api.Step, jobs []api.Job, answers ...api.Answer) {
+		t.Helper()
+		after := slices.Clone(words)
+		for _, s := range steps {
+			if s.At >= 0 {
+				after[s.At] = s.Put
+			}
+		}
+		tables.HoldSteps(t, sh, words, [][]api.Job{jobs}, nil, steps, [][]api.Answer{answers}, after)
+	}
+	words, _ := shape.Fresh(sh)
+	hold(words, []api.Step{
+		trial.Load(0, 1, 1), trial.Load(0, 11, 2), trial.CAS(0, 1, 1, half+2), trial.Load(0, 10, 0), trial.Store(0, 10, 0, 1), trial.Add(0, 4, 0, 1),
+		trial.Load(0, 1, half+2), trial.Load(0, 15, 0), trial.CAS(0, 1, half+2, 2*half), trial.Load(0, 14, 0), trial.Store(0, 14, 0, 7), trial.Add(0, 4, 1, 2),
+		trial.Load(0, 1, 2*half),
+		trial.Store(0, 13, 0, 0), trial.Load(0, 10, 1), trial.Store(0, 10, 1, half),
+		trial.Load(0, 1, 2*half), trial.Store(0, 11, 2, 0), trial.CAS(0, 1, 2*half, 3*half+1), trial.Add(0, 5, 0, 1),
+	}, []api.Job{{Kind: 1}, {Kind: 1, B: 1, C: -4}, {Kind: 1}, {A: 1}}, trial.Told(1), trial.Told(2), api.Answer{}, trial.Told(1))
+	words = trial.Memory(sh, api.Free, trial.Tagged(2, half-1), trial.Cell{(half-1)*half + 9, 0}, trial.Cell{half - 1, trial.Tagged(9, 5)})
+	hold(words, []api.Step{
+		trial.Load(0, 1, words[1]), trial.Load(0, 15, words[15]), trial.CAS(0, 1, words[1], 9),
+		trial.Load(0, 14, half-1), trial.Store(0, 14, half-1, 5), trial.Add(0, 4, 1004, 1005),
+		trial.Load(0, 1, 9),
+		trial.Store(0, 13, 1013, 0), trial.Load(0, 10, words[10]), trial.Store(0, 10, words[10], (half-1)*half), trial.Add(0, 5, 1005, 1006),
+		trial.Load(0, -1, 0), trial.Store(0, -1, 0, 0), trial.Load(0, 1, 9), trial.Store(0, -1, 0, 0), trial.CAS(0, 1, 9, 2*half-3), trial.Add(0, 5, 1006, 1007),
+	}, []api.Job{{Kind: 1, B: 1}, {Kind: 1}, {A: 1}, {A: -3}}, trial.Told(2), api.Answer{}, trial.Told(1), trial.Told(0))
 }
 
 // What is no handle of a white object.

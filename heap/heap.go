@@ -1,0 +1,39 @@
+// Package heap holds what the tasks on a heap's memory have in common: where an object's words stand, and how a task goes from
+// act to act. It is no layer itself.
+package heap
+
+import (
+	"midden/api"
+	"midden/shape"
+)
+
+// NoWord: where no memory has a word. There stands each word of an object that the shape doesn't have.
+const NoWord = -1
+
+// HeadAt, LinkAt, SlotAt: where these words of an object stand.
+func HeadAt(sh api.Shape, index int) int {
+	at, errno := shape.Object(sh, index)
+	return placeIf(at, errno)
+}
+func LinkAt(sh api.Shape, index int) int {
+	at := HeadAt(sh, index)
+	if at == NoWord {
+		return NoWord
+	}
+	return at + 1
+}
+func SlotAt(sh api.Shape, index, slot int) int {
+	at, errno := shape.Slot(sh, index, slot)
+	return placeIf(at, errno)
+}
+
+// IsNumber: is it a number from 1 to Objects? That alone is asked: a shape that is none has its numbers too, though their
+// objects have no words.
+func IsNumber(sh api.Shape, index int) bool { return index >= 1 && index <= sh.Objects }
+
+func placeIf(at int, errno api.Errno) int {
+	if errno != api.OK {
+		return NoWord
+	}
+	return at
+}

@@ -1,0 +1,108 @@
+package heap_test
+
+import (
+	"slices"
+	"testing"
+
+	"midden/api"
+	"midden/cells"
+	"midden/heap"
+	"midden/trial"
+	"midden/turn"
+)
+
+const half = 1 << 32
+
+// Where an object's words stand; those of an object that isn't there, and all of a shape that is none, stand at no word.
+func TestPlaces(t *testing.T) {
+	for _, sh := range trial.RightShapes() {
+		for _, number := range slices.Concat(trial.Ends(), trial.FarNumbers(sh.Objects), []int{0, 1, 2, sh.Objects, 1 << 32, 1<<32 + 1}) {
+			isThere := number >= 1 && number <= sh.Objects
+			if at := heap.HeadAt(sh, number); at != trial.HeadAt(sh, number) || (at != heap.NoWord) != isThere {
+				t.Error("a head", sh, number, at)
+			}
+			if at := heap.LinkAt(sh, number); at != trial.LinkAt(sh, number) || (at != heap.NoWord) != isThere {
+				t.Error("a link", sh, number, at)
+			}
+			for _, slot := range append(trial.Ends(), 0, 1, sh.Slots-1, sh.Slots, 1<<32) {
+				if at := heap.SlotAt(sh, number, slot); at != trial.SlotAt(sh, number, slot) || (at != heap.NoWord) != (isThere && slot >= 0 && slot < sh.Slots) {
+					t.Error("a slot", sh, number, slot, at)
+				}
+			}
+			if heap.IsNumber(sh, number) != isThere {
+				t.Error("a number", sh, number)
+			}
+		}
+	}
+	for _, sh := range trial.WrongShapes() {
+		if heap.HeadAt(sh, 1) != heap.NoWord || heap.LinkAt(sh, 1) != heap.NoWord || heap.SlotAt(sh, 1, 0) != heap.NoWord {
+			t.Error("no shape", sh)
+		}
+		if heap.IsNumber(sh, 1) != (sh.Objects >= 1) {
+			t.Error("a number of no shape", sh)
+		}
+	}
+	if heap.NoWord != -1 {
+		t.Error(heap.NoWord)
+	}
+}
+
+// A turning is a task that turns a list's head to the number 9, if that shows one; behind that it has an act of each other kind.
+type turning struct {
+	heap.Work
+}
+
+func (k *turning) find(m *cells.Mem) (api.Step, int) {
+	s := k.LoadList(m, 0)
+	if k.First() == 0 {
+		return s, k.Refuse()
+	}
+	return s, k.GoOn(k.turn)
+}
+
+func (k *turning) turn(m *cells.Mem) (api.Step, int) {
+	s := k.TurnList(m, 0, 9)
+	if !s.OK {
+		return s, k.GoOn(k.find)
+	}
+	return s, k.GoOn(k.store)
+}
+
+func (k *turning) store(m *cells.Mem) (api.Step, int) { return k.Store(m, 1, 7), k.GoOn(k.add) }
+func (k *turning) add(m *cells.Mem) (api.Step, int)   { return k.Add(m, 1, 4), k.GoOn(k.swap) }
+func (k *turning) swap(m *cells.Mem) (api.Step, int)  { return k.CAS(m, 1, 11, 5), k.GoOn(k.end) }
+func (k *turning) end(m *cells.Mem) (api.Step, int)   { return k.Load(m, 1), k.End(uint64(k.First())) }
+
+func newTurning(hand int) turn.Task {
+	k := &turning{}
+	k.Begin(hand, k.find)
+	return k
+}
+
+// A task goes from act to act, each by its hand, and tells nothing ahead of its end.
+func TestWork(t *testing.T) {
+	for _, hand := range append(trial.Ends(), 0, 8) {
+		k := newTurning(hand)
+		words := []uint64{trial.Tagged(2, half-1), 3}
+		if k.Answer() != (api.Answer{}) {
+			t.Error("told too early", k.Answer())
+		}
+		steps, told, behind := trial.Drive(t, k, words, map[int]trial.Put{1: {0, trial.Tagged(6, 4)}})
+		want := []api.Step{
+			trial.Load(hand, 0, words[0]), trial.Lost(hand, 0, trial.Tagged(6, 4)),
+			trial.Load(hand, 0, trial.Tagged(6, 4)), trial.CAS(hand, 0, trial.Tagged(6, 4), trial.Tagged(9, 5)),
+			trial.Store(hand, 1, 3, 7), trial.Add(hand, 1, 7, 11), trial.CAS(hand, 1, 11, 5), trial.Load(hand, 1, 5),
+		}
+		if !slices.Equal(steps, want) || told != trial.Told(6) || !slices.Equal(behind, []uint64{trial.Tagged(9, 5), 5}) {
+			t.Error(hand, steps, told, behind)
+		}
+		// The tag goes around its end.
+		if _, told, behind := trial.Drive(t, newTurning(hand), words, nil); told != trial.Told(2) || behind[0] != 9 {
+			t.Error(hand, told, behind)
+		}
+		// Nothing to do: one step, and nothing is told.
+		if steps, told, _ := trial.Drive(t, newTurning(hand), []uint64{5 * half}, nil); len(steps) != 1 || told != (api.Answer{}) {
+			t.Error(hand, steps, told)
+		}
+	}
+}

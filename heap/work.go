@@ -1,0 +1,64 @@
+package heap
+
+import (
+	"midden/api"
+	"midden/cells"
+	"midden/turn"
+	"midden/word"
+)
+
+// An Act makes a task's next step, and tells whether the task goes on.
+type Act func(m *cells.Mem) (api.Step, int)
+
+// A Work is a task under way, to be embedded in what a task holds of its own. What it does next stands in it as a function:
+// each act, when it is made, puts there what follows it.
+type Work struct {
+	hand int
+	next Act
+	head uint64 // a list's, as it was loaded last
+	told api.Answer
+}
+
+// Begin: the hand whose task it is, and its first act.
+func (w *Work) Begin(hand int, first Act) { w.hand, w.next = hand, first }
+
+// Step, Answer: as turn asks of a task.
+func (w *Work) Step(m *cells.Mem) (api.Step, int) { return w.next(m) }
+func (w *Work) Answer() api.Answer                { return w.told }
+
+// GoOn: the task goes on with that act.
+func (w *Work) GoOn(next Act) int {
+	w.next = next
+	return turn.Going
+}
+
+// End: the task is done, and tells this. One that has nothing to tell ends with Refuse.
+func (w *Work) End(v uint64) int {
+	w.told = api.Answer{OK: true, Val: v}
+	return turn.Ended
+}
+func (w *Work) Refuse() int { return turn.Ended }
+
+// The acts, by the task's hand.
+func (w *Work) Load(m *cells.Mem, at int) api.Step { return m.Do(w.hand, api.Load, at, 0, 0) }
+func (w *Work) Store(m *cells.Mem, at int, v uint64) api.Step {
+	return m.Do(w.hand, api.Store, at, 0, v)
+}
+func (w *Work) Add(m *cells.Mem, at int, v uint64) api.Step { return m.Do(w.hand, api.Add, at, 0, v) }
+func (w *Work) CAS(m *cells.Mem, at int, old, v uint64) api.Step {
+	return m.Do(w.hand, api.CAS, at, old, v)
+}
+
+// LoadList: a list's head, which is kept. First: the object that it shows.
+func (w *Work) LoadList(m *cells.Mem, list int) api.Step {
+	s := w.Load(m, list)
+	w.head = s.Had
+	return s
+}
+func (w *Work) First() int { return word.Index(w.head) }
+
+// TurnList: the list begins with another object, if its head is still the one that was loaded. The tag grows with each turn,
+// so a list that has gone on since then isn't taken for the same one.
+func (w *Work) TurnList(m *cells.Mem, list, first int) api.Step {
+	return w.CAS(m, list, w.head, word.Bump(w.head, first))
+}

@@ -1,0 +1,92 @@
+package trial
+
+import (
+	"slices"
+
+	"midden/api"
+	"midden/cells"
+	"midden/turn"
+)
+
+// Tagged: a list's head, or a handle.
+func Tagged(number int, upper uint64) uint64 { return uint64(number) + upper*half }
+
+// Tags: those that are about to wrap among them.
+func Tags() []uint64 { return []uint64{0, 1, 5, half/2 - 1, half - 2, half - 1} }
+
+// FarNumbers: what is no object's number, behind the last one of so many.
+func FarNumbers(objects int) []int {
+	return []int{objects + 1, objects + 2, half/2 - 1, half / 2, half - 1}
+}
+
+// A Cell is an object's head and link.
+type Cell = [2]uint64
+
+// Memory: with these objects, and this head of that list; whatever else stands there is unlike all others.
+func Memory(sh api.Shape, list int, head uint64, objects ...Cell) []uint64 {
+	out := make([]uint64, SizeOf(sh))
+	for at := range out {
+		out[at] = uint64(1000 + at)
+	}
+	out[list] = head
+	for i, o := range objects {
+		copy(out[HeadAt(sh, i+1):], o[:])
+	}
+	return out
+}
+
+// With: the same words, but for one.
+func With(words []uint64, at int, v uint64) []uint64 {
+	out := slices.Clone(words)
+	out[at] = v
+	return out
+}
+
+// ListIn: a list, from its head along the links; false, if it doesn't end with a 0, or has an object twice.
+func ListIn(sh api.Shape, words []uint64, list int) ([]int, bool) {
+	var out []int
+	for number := Number(words[list]); number != 0; number = Number(words[LinkAt(sh, number)]) {
+		if number > sh.Objects || slices.Contains(out, number) {
+			return nil, false
+		}
+		out = append(out, number)
+	}
+	return out, true
+}
+
+// Lay: a list of these objects, in this order. In the upper halves of its head and of the links stands what stood there.
+func Lay(sh api.Shape, words []uint64, list int, numbers []int) []uint64 {
+	out := slices.Clone(words)
+	at := list
+	for _, number := range append(slices.Clone(numbers), 0) {
+		out[at] = Tagged(number, Upper(out[at]))
+		at = LinkAt(sh, number)
+	}
+	return out
+}
+
+// Drive makes a task's steps to its end on a memory by hand; what others put into a word stands ahead of which step they do so.
+// It fails, if there is no end.
+func Drive(t T, k turn.Task, words []uint64, amid map[int]Put) ([]api.Step, api.Answer, []uint64) {
+	t.Helper()
+	m, _ := cells.New(words)
+	var steps []api.Step
+	for i := range 100 {
+		if p, ok := amid[i]; ok {
+			m.Store(int(p[0]), p[1])
+		}
+		s, state := k.Step(m)
+		steps = append(steps, s)
+		if state == turn.Ended {
+			return steps, k.Answer(), m.Words()
+		}
+		if state != turn.Going {
+			t.Fatalf("neither going nor ended: %d", state)
+		}
+	}
+	t.Fatalf("no end: %v", steps)
+	return nil, api.Answer{}, nil
+}
+
+// A Put is a word's place, and what goes there.
+type Put = [2]uint64
