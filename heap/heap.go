@@ -1,5 +1,5 @@
-// Package heap holds what the tasks on a heap's memory have in common: where an object's words stand, and how a task goes from
-// act to act. It is no layer itself.
+// Package heap holds what the tasks on a heap's memory have in common: where its words stand, and how a task goes from act to
+// act, and along another task. It is no layer itself.
 package heap
 
 import (
@@ -7,8 +7,14 @@ import (
 	"midden/shape"
 )
 
-// NoWord: where no memory has a word. There stands each word of an object that the shape doesn't have.
+// NoWord: where no memory has a word. There stands each word of a hand or an object that the shape doesn't have.
 const NoWord = -1
+
+// RootAt: where a hand's root stands.
+func RootAt(sh api.Shape, hand, root int) int {
+	at, errno := shape.Root(sh, hand, root)
+	return placeIf(at, errno)
+}
 
 // HeadAt, LinkAt, SlotAt: where these words of an object stand.
 func HeadAt(sh api.Shape, index int) int {

@@ -13,7 +13,7 @@ import (
 
 const half = 1 << 32
 
-// Where an object's words stand; those of an object that isn't there, and all of a shape that is none, stand at no word.
+// Where roots and objects' words stand; those of a hand or an object that isn't there, and all of a shape that is none, stand at no word.
 func TestPlaces(t *testing.T) {
 	for _, sh := range trial.RightShapes() {
 		for _, number := range slices.Concat(trial.Ends(), trial.FarNumbers(sh.Objects), []int{0, 1, 2, sh.Objects, 1 << 32, 1<<32 + 1}) {
@@ -33,9 +33,17 @@ func TestPlaces(t *testing.T) {
 				t.Error("a number", sh, number)
 			}
 		}
+		for _, hand := range append(trial.Ends(), 0, 1, sh.Hands-1, sh.Hands, 1<<32) {
+			for _, root := range append(trial.Ends(), 0, 1, sh.Roots-1, sh.Roots, 1<<32) {
+				isThere := hand >= 0 && hand < sh.Hands && root >= 0 && root < sh.Roots
+				if at := heap.RootAt(sh, hand, root); at != trial.RootAt(sh, hand, root) || (at != heap.NoWord) != isThere {
+					t.Error("a root", sh, hand, root, at)
+				}
+			}
+		}
 	}
 	for _, sh := range trial.WrongShapes() {
-		if heap.HeadAt(sh, 1) != heap.NoWord || heap.LinkAt(sh, 1) != heap.NoWord || heap.SlotAt(sh, 1, 0) != heap.NoWord {
+		if heap.RootAt(sh, 0, 0) != heap.NoWord || heap.HeadAt(sh, 1) != heap.NoWord || heap.LinkAt(sh, 1) != heap.NoWord || heap.SlotAt(sh, 1, 0) != heap.NoWord {
 			t.Error("no shape", sh)
 		}
 		if heap.IsNumber(sh, 1) != (sh.Objects >= 1) {
@@ -102,6 +110,59 @@ func TestWork(t *testing.T) {
 		}
 		// Nothing to do: one step, and nothing is told.
 		if steps, told, _ := trial.Drive(t, newTurning(hand), []uint64{5 * half}, nil); len(steps) != 1 || told != (api.Answer{}) {
+			t.Error(hand, steps, told)
+		}
+	}
+}
+
+// A walking is a task that goes along two turnings, one behind the other, and tells what they told.
+type walking struct {
+	heap.Work
+	first api.Answer
+}
+
+func (k *walking) begin(m *cells.Mem) (api.Step, int) {
+	return k.Load(m, 1), k.GoAlong(newTurning(k.Hand()), k.again)
+}
+
+func (k *walking) again(told api.Answer) int {
+	k.first = told
+	return k.GoAlong(newTurning(k.Hand()), k.leave)
+}
+
+// leave: with the last step of its last part the task ends too, if that had nothing to tell; else there is a step more.
+func (k *walking) leave(told api.Answer) int {
+	if !told.OK {
+		return k.End(100*k.first.Val + 99)
+	}
+	return k.GoOn(func(m *cells.Mem) (api.Step, int) { return k.Load(m, 0), k.End(100*k.first.Val + told.Val) })
+}
+
+// The steps of a part are the task's own, and behind the last one it goes on by what the part told.
+func TestParts(t *testing.T) {
+	for _, hand := range append(trial.Ends(), 0, 8) {
+		k := &walking{}
+		k.Begin(hand, k.begin)
+		if k.Hand() != hand {
+			t.Error(k.Hand())
+		}
+		words := []uint64{trial.Tagged(2, 3), 3}
+		part := func(had uint64, tag, is uint64) []api.Step {
+			return []api.Step{
+				trial.Load(hand, 0, had), trial.CAS(hand, 0, had, trial.Tagged(9, tag)),
+				trial.Store(hand, 1, is, 7), trial.Add(hand, 1, 7, 11), trial.CAS(hand, 1, 11, 5), trial.Load(hand, 1, 5),
+			}
+		}
+		want := slices.Concat([]api.Step{trial.Load(hand, 1, 3)}, part(words[0], 4, 3), part(trial.Tagged(9, 4), 5, 5), []api.Step{trial.Load(hand, 0, trial.Tagged(9, 5))})
+		steps, told, _ := trial.Drive(t, k, words, nil)
+		if !slices.Equal(steps, want) || told != trial.Told(209) {
+			t.Error(hand, steps, told)
+		}
+		// The list is empty when the second part looks at it: that one ends with its first step, and so does the task.
+		k = &walking{}
+		k.Begin(hand, k.begin)
+		steps, told, _ = trial.Drive(t, k, words, map[int]trial.Put{7: {0, 6 * half}})
+		if !slices.Equal(steps, append(want[:7:7], trial.Load(hand, 0, 6*half))) || told != trial.Told(299) {
 			t.Error(hand, steps, told)
 		}
 	}

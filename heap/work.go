@@ -10,17 +10,25 @@ import (
 // An Act makes a task's next step, and tells whether the task goes on.
 type Act func(m *cells.Mem) (api.Step, int)
 
+// A Behind says how a task goes on behind another one that was a part of it, by what that one told.
+type Behind func(told api.Answer) int
+
 // A Work is a task under way, to be embedded in what a task holds of its own. What it does next stands in it as a function:
 // each act, when it is made, puts there what follows it.
 type Work struct {
-	hand int
-	next Act
-	head uint64 // a list's, as it was loaded last
-	told api.Answer
+	hand   int
+	next   Act
+	head   uint64 // a list's, as it was loaded last
+	part   turn.Task
+	behind Behind
+	told   api.Answer
 }
 
 // Begin: the hand whose task it is, and its first act.
 func (w *Work) Begin(hand int, first Act) { w.hand, w.next = hand, first }
+
+// Hand: whose task it is; the tasks that are parts of it are that hand's too.
+func (w *Work) Hand() int { return w.hand }
 
 // Step, Answer: as turn asks of a task.
 func (w *Work) Step(m *cells.Mem) (api.Step, int) { return w.next(m) }
@@ -30,6 +38,20 @@ func (w *Work) Answer() api.Answer                { return w.told }
 func (w *Work) GoOn(next Act) int {
 	w.next = next
 	return turn.Going
+}
+
+// GoAlong: the task goes on with the steps of another one, which are its own.
+func (w *Work) GoAlong(part turn.Task, behind Behind) int {
+	w.part, w.behind = part, behind
+	return w.GoOn(w.along)
+}
+
+func (w *Work) along(m *cells.Mem) (api.Step, int) {
+	s, state := w.part.Step(m)
+	if state == turn.Ended {
+		return s, w.behind(w.part.Answer())
+	}
+	return s, turn.Going
 }
 
 // End: the task is done, and tells this. One that has nothing to tell ends with Refuse.

@@ -5,6 +5,7 @@ import (
 	"strconv"
 
 	"midden/api"
+	"midden/cells"
 	"midden/turn"
 )
 
@@ -13,7 +14,7 @@ const mostSpots = 100000
 
 // EveryOrder tells of each spot that the hands can come to, and of each step from there, one schedule that leads to it.
 // (A hand that waits comes back to where it was: so they are not without end.) It answers how many spots there are.
-// What a task's going on hangs on, state tells.
+// What a task's going on hangs on, state tells; where there is no state, the task's steps so far do: it knows no more.
 func (l Layer) EveryOrder(t T, sh api.Shape, words []uint64, hands [][]api.Job, state func(turn.Task) string, hold func(schedule []int)) int {
 	t.Helper()
 	return l.EveryPast(t, sh, words, hands, state, func(schedule []int) string {
@@ -51,11 +52,15 @@ func (l Layer) EveryPast(t T, sh api.Shape, words []uint64, hands [][]api.Job, s
 // how many hands go on.
 func (l Layer) spotOf(t T, sh api.Shape, words []uint64, hands [][]api.Job, state func(turn.Task) string, schedule []int) (spot string, going int) {
 	t.Helper()
-	made := make([][]turn.Task, len(hands))
+	made := make([][]*watched, len(hands))
 	x, a, e := turn.Play(words, hands, schedule, len(schedule), func(hand int, j api.Job) (turn.Task, api.Errno) {
 		k, e := l.Task(sh, hand, j)
-		made[hand] = append(made[hand], k)
-		return k, e
+		if k == nil {
+			return nil, e
+		}
+		w := &watched{Task: k}
+		made[hand] = append(made[hand], w)
+		return w, e
 	})
 	if e != api.OK {
 		t.Fatalf("%v %v: %v", sh, hands, e)
@@ -70,9 +75,34 @@ func (l Layer) spotOf(t T, sh api.Shape, words []uint64, hands [][]api.Job, stat
 			key = strconv.AppendUint(strconv.AppendBool(key, told.OK), told.Val, 10)
 		}
 		if n := len(a[h]); n < len(own) {
-			key = append(append(key, ' '), state(own[n])...)
+			key = append(append(key, ' '), own[n].told(state)...)
 			going++
 		}
 	}
 	return string(key), going
+}
+
+// A watched is a task, and the steps that it has made.
+type watched struct {
+	turn.Task
+	made []api.Step
+}
+
+func (w *watched) Step(m *cells.Mem) (api.Step, int) {
+	s, how := w.Task.Step(m)
+	w.made = append(w.made, s)
+	return s, how
+}
+
+// told: where the task stands, by its state, or by its steps.
+func (w *watched) told(state func(turn.Task) string) string {
+	if state != nil {
+		return state(w.Task)
+	}
+	var key []byte
+	for _, s := range w.made {
+		key = strconv.AppendInt(append(key, ','), int64(s.At), 10)
+		key = strconv.AppendBool(strconv.AppendUint(append(key, ':'), s.Had, 10), s.OK)
+	}
+	return string(key)
 }

@@ -363,26 +363,33 @@ func TestEveryOrder(t *testing.T) {
 		}
 		return fmt.Sprint(x.Words, a, loaded)
 	}
-	told := map[string]int{}
-	ended := 0
-	spots := sound().EveryOrder(t, sh, words, hands, stateOf, func(schedule []int) {
-		told[spotOf(schedule)]++
-		if x, _, _ := play(sh, words, hands, schedule, len(schedule)); x.Ended {
-			ended++
+	var counts []int
+	for _, state := range []func(turn.Task) string{stateOf, nil} {
+		told := map[string]int{}
+		ended := 0
+		spots := sound().EveryOrder(t, sh, words, hands, state, func(schedule []int) {
+			told[spotOf(schedule)]++
+			if x, _, _ := play(sh, words, hands, schedule, len(schedule)); x.Ended {
+				ended++
+			}
+		})
+		if ended < 3 || spots < len(told) {
+			t.Error(ended, spots, len(told))
 		}
-	})
-	if ended < 3 || spots < len(told) {
-		t.Error(ended, spots, len(told))
-	}
-	for schedule := range trial.Lists(2, 10) {
-		for n := range len(schedule) + 1 {
-			if told[spotOf(schedule[:n])] == 0 {
-				t.Fatal("not told of:", schedule[:n])
+		for schedule := range trial.Lists(2, 10) {
+			for n := range len(schedule) + 1 {
+				if told[spotOf(schedule[:n])] == 0 {
+					t.Fatal("not told of:", schedule[:n])
+				}
 			}
 		}
+		if n := sound().EveryOrder(t, sh, words, nil, state, func([]int) {}); n != 1 {
+			t.Error("no hands:", n)
+		}
+		counts = append(counts, spots)
 	}
-	if n := sound().EveryOrder(t, sh, words, nil, stateOf, func([]int) {}); n != 1 {
-		t.Error("no hands:", n)
+	if counts[1] < counts[0] {
+		t.Error("by its steps a task is told apart at least as well:", counts)
 	}
 }
 
@@ -415,5 +422,10 @@ func TestEveryOrderWithoutEnd(t *testing.T) {
 	}
 	if !hears(func(t trial.T) { sound().EveryOrder(t, sh, words, [][]api.Job{{{}}}, stateOf, func([]int) {}) }) {
 		t.Error("a job that is none")
+	}
+	none := sound()
+	none.Task = func(api.Shape, int, api.Job) (turn.Task, api.Errno) { return nil, api.OK }
+	if !hears(func(t trial.T) { none.EveryOrder(t, sh, words, hands, nil, func([]int) {}) }) {
+		t.Error("a task that is none")
 	}
 }

@@ -19,6 +19,14 @@ func isRight(sh api.Shape) bool {
 	return true
 }
 
+// RootAt: where a hand's root stands; -1, if there is none, and for a shape that is none.
+func RootAt(sh api.Shape, hand, root int) int {
+	if hand < 0 || hand >= sh.Hands || root < 0 || root >= sh.Roots || !isRight(sh) {
+		return -1
+	}
+	return 8 + sh.Hands + hand*sh.Roots + root
+}
+
 // HeadAt: where an object's head stands; -1 for a number that is none of its objects, and for a shape that is none.
 func HeadAt(sh api.Shape, number int) int {
 	if number < 1 || number > sh.Objects || !isRight(sh) {

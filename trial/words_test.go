@@ -16,6 +16,18 @@ func TestPlaces(t *testing.T) {
 		if size, e := shape.Size(sh); e != api.OK || trial.SizeOf(sh) != size {
 			t.Error(sh, trial.SizeOf(sh), size)
 		}
+		for hand := range sh.Hands {
+			for root := range sh.Roots {
+				if at, e := shape.Root(sh, hand, root); e != api.OK || trial.RootAt(sh, hand, root) != at {
+					t.Error(sh, hand, root, trial.RootAt(sh, hand, root), at)
+				}
+			}
+			for _, n := range append(trial.Ends(), 1<<32) {
+				if trial.RootAt(sh, hand, n) != -1 || trial.RootAt(sh, hand, sh.Roots) != -1 || trial.RootAt(sh, n, 0) != -1 || trial.RootAt(sh, sh.Hands, 0) != -1 {
+					t.Error(sh, hand, n)
+				}
+			}
+		}
 		for number := 1; number <= sh.Objects; number++ {
 			if at, e := shape.Object(sh, number); e != api.OK || trial.HeadAt(sh, number) != at || trial.LinkAt(sh, number) != at+1 {
 				t.Error(sh, number, trial.HeadAt(sh, number), trial.LinkAt(sh, number), at)
@@ -38,7 +50,7 @@ func TestPlaces(t *testing.T) {
 		}
 	}
 	for _, sh := range trial.WrongShapes() {
-		if trial.HeadAt(sh, 1) != -1 || trial.LinkAt(sh, 1) != -1 || trial.SlotAt(sh, 1, 0) != -1 {
+		if trial.RootAt(sh, 0, 0) != -1 || trial.HeadAt(sh, 1) != -1 || trial.LinkAt(sh, 1) != -1 || trial.SlotAt(sh, 1, 0) != -1 {
 			t.Error("no shape:", sh)
 		}
 	}
@@ -142,6 +154,36 @@ func TestMakingAndGiving(t *testing.T) {
 		trial.Store(0, 13, 1013, 0), trial.Load(0, 10, words[10]), trial.Store(0, 10, words[10], (half-1)*half), trial.Add(0, 5, 1005, 1006),
 		trial.Load(0, -1, 0), trial.Store(0, -1, 0, 0), trial.Load(0, 1, 9), trial.Store(0, -1, 0, 0), trial.CAS(0, 1, 9, 2*half-3), trial.Add(0, 5, 1006, 1007),
 	}, []api.Job{{Kind: 1, B: 1}, {Kind: 1}, {A: 1}, {A: -3}}, trial.Told(2), api.Answer{}, trial.Told(1), trial.Told(0))
+}
+
+// Layer 18's tables, on its chapter's examples and on words that aren't there.
+func TestStoring(t *testing.T) {
+	sh := api.Shape{Objects: 2, Slots: 1, Hands: 1, Roots: 1} // the root 9, heads 10 and 14, the slots 13 and 17
+	const half = 1 << 32
+	tables := trial.Layer{Table: func(sh api.Shape, _ int, j api.Job, act trial.Act) api.Answer {
+		return trial.Storing(sh, j.A, j.H, j.B == 1, j.C, act)
+	}}
+	tables.Play = tables.Model
+	words := trial.With(trial.With(trial.Memory(sh, api.Grey, 0, trial.Cell{1, 5}, trial.Cell{7*half + 1, 5}), 9, 1), 13, 0)
+	two := trial.Tagged(2, 7)
+	steps := []api.Step{
+		trial.Store(0, 13, 0, 9),
+		trial.Load(0, 9, 1), trial.Load(0, 10, 1), trial.CAS(0, 10, 1, 3), trial.Load(0, 2, 0), trial.Store(0, 11, 5, 0), trial.CAS(0, 2, 0, half+1), trial.Store(0, 9, 1, 0),
+		trial.Load(0, 9, 0), trial.Store(0, 9, 0, 0),
+		trial.Load(0, 9, 0), trial.Load(0, 14, 7*half+1), trial.CAS(0, 14, 7*half+1, 7*half+3), trial.Load(0, 2, half+1), trial.Store(0, 15, 5, 1), trial.CAS(0, 2, half+1, 2*half+2), trial.Store(0, 9, 0, two),
+		trial.Load(0, 9, two), trial.Load(0, 14, 7*half+3), trial.Load(0, 10, 3), trial.Store(0, 9, two, 1),
+		trial.Load(0, -1, 0), trial.Load(0, -1, 0), trial.Store(0, -1, 0, 0),
+		trial.Store(0, -1, 0, 0),
+	}
+	after := slices.Clone(words)
+	for _, s := range steps {
+		if s.At >= 0 {
+			after[s.At] = s.Put
+		}
+	}
+	tables.HoldSteps(t, sh, words, [][]api.Job{{
+		{A: 13, H: 9}, {A: 9, B: 1, C: 1}, {A: 9, B: 1, C: 1}, {A: 9, B: 1, C: -1, H: two}, {A: 9, B: 1, C: 1, H: 1}, {A: -1, B: 1, H: 3}, {A: -1, H: 3},
+	}}, nil, steps, [][]api.Answer{slices.Repeat([]api.Answer{trial.Told(0)}, 7)}, after)
 }
 
 // What is no handle of a white object.
