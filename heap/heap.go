@@ -7,12 +7,18 @@ import (
 	"midden/shape"
 )
 
-// NoWord: where no memory has a word. There stands each word of a hand or an object that the shape doesn't have.
+// NoWord: where no memory has a word. There stands each word of a hand or an object, and each weak word, that the shape doesn't have.
 const NoWord = -1
 
 // RootAt: where a hand's root stands.
 func RootAt(sh api.Shape, hand, root int) int {
 	at, errno := shape.Root(sh, hand, root)
+	return placeIf(at, errno)
+}
+
+// WeakAt: where a weak word stands.
+func WeakAt(sh api.Shape, weak int) int {
+	at, errno := shape.Weak(sh, weak)
 	return placeIf(at, errno)
 }
 
@@ -36,6 +42,9 @@ func SlotAt(sh api.Shape, index, slot int) int {
 // IsNumber: is it a number from 1 to Objects? That alone is asked: a shape that is none has its numbers too, though their
 // objects have no words.
 func IsNumber(sh api.Shape, index int) bool { return index >= 1 && index <= sh.Objects }
+
+// LastBit: what counts of a colour that may be any number.
+func LastBit(colour int) int { return colour & 1 }
 
 func placeIf(at int, errno api.Errno) int {
 	if errno != api.OK {

@@ -1,6 +1,7 @@
 package heap_test
 
 import (
+	"math"
 	"slices"
 	"testing"
 
@@ -13,7 +14,7 @@ import (
 
 const half = 1 << 32
 
-// Where roots and objects' words stand; those of a hand or an object that isn't there, and all of a shape that is none, stand at no word.
+// Where roots, weak words and objects' words stand; those that aren't there, and all of a shape that is none, stand at no word.
 func TestPlaces(t *testing.T) {
 	for _, sh := range trial.RightShapes() {
 		for _, number := range slices.Concat(trial.Ends(), trial.FarNumbers(sh.Objects), []int{0, 1, 2, sh.Objects, 1 << 32, 1<<32 + 1}) {
@@ -41,9 +42,14 @@ func TestPlaces(t *testing.T) {
 				}
 			}
 		}
+		for _, weak := range append(trial.Ends(), 0, 1, sh.Weaks-1, sh.Weaks, 1<<32) {
+			if at := heap.WeakAt(sh, weak); at != trial.WeakAt(sh, weak) || (at != heap.NoWord) != (weak >= 0 && weak < sh.Weaks) {
+				t.Error("a weak word", sh, weak, at)
+			}
+		}
 	}
 	for _, sh := range trial.WrongShapes() {
-		if heap.RootAt(sh, 0, 0) != heap.NoWord || heap.HeadAt(sh, 1) != heap.NoWord || heap.LinkAt(sh, 1) != heap.NoWord || heap.SlotAt(sh, 1, 0) != heap.NoWord {
+		if heap.RootAt(sh, 0, 0) != heap.NoWord || heap.WeakAt(sh, 0) != heap.NoWord || heap.HeadAt(sh, 1) != heap.NoWord || heap.LinkAt(sh, 1) != heap.NoWord || heap.SlotAt(sh, 1, 0) != heap.NoWord {
 			t.Error("no shape", sh)
 		}
 		if heap.IsNumber(sh, 1) != (sh.Objects >= 1) {
@@ -52,6 +58,15 @@ func TestPlaces(t *testing.T) {
 	}
 	if heap.NoWord != -1 {
 		t.Error(heap.NoWord)
+	}
+}
+
+// Of a colour the last bit counts, of one below 0 too.
+func TestLastBit(t *testing.T) {
+	for colour, want := range map[int]int{0: 0, 1: 1, 2: 0, 3: 1, -1: 1, -2: 0, 1 << 32: 0, 1<<32 + 1: 1, math.MinInt: 0, math.MaxInt: 1} {
+		if got := heap.LastBit(colour); got != want {
+			t.Error(colour, got)
+		}
 	}
 }
 
@@ -111,6 +126,23 @@ func TestWork(t *testing.T) {
 		// Nothing to do: one step, and nothing is told.
 		if steps, told, _ := trial.Drive(t, newTurning(hand), []uint64{5 * half}, nil); len(steps) != 1 || told != (api.Answer{}) {
 			t.Error(hand, steps, told)
+		}
+	}
+}
+
+// A task that is done tells its value with OK; one that is refused without, or tells nothing at all.
+func TestEnds(t *testing.T) {
+	for _, v := range append(trial.Values(), 7) {
+		for want, end := range map[api.Answer]func(w *heap.Work) int{
+			{OK: true, Val: v}:  func(w *heap.Work) int { return w.End(v) },
+			{Val: v}:            func(w *heap.Work) int { return w.RefuseWith(v) },
+			{OK: false, Val: 0}: func(w *heap.Work) int { return w.Refuse() },
+		} {
+			var w heap.Work
+			w.Begin(3, func(m *cells.Mem) (api.Step, int) { return w.Load(m, 0), end(&w) })
+			if steps, told, _ := trial.Drive(t, &w, []uint64{v}, nil); told != want || !slices.Equal(steps, []api.Step{trial.Load(3, 0, v)}) {
+				t.Error(v, steps, told, want)
+			}
 		}
 	}
 }

@@ -54,12 +54,16 @@ func (w *Work) along(m *cells.Mem) (api.Step, int) {
 	return s, turn.Going
 }
 
-// End: the task is done, and tells this. One that has nothing to tell ends with Refuse.
+// End: the task is done, and tells this. One that has nothing to tell ends with Refuse; one that tells why with RefuseWith.
 func (w *Work) End(v uint64) int {
 	w.told = api.Answer{OK: true, Val: v}
 	return turn.Ended
 }
 func (w *Work) Refuse() int { return turn.Ended }
+func (w *Work) RefuseWith(v uint64) int {
+	w.told = api.Answer{Val: v}
+	return turn.Ended
+}
 
 // The acts, by the task's hand.
 func (w *Work) Load(m *cells.Mem, at int) api.Step { return m.Do(w.hand, api.Load, at, 0, 0) }

@@ -252,10 +252,7 @@ func greyWords(from *trial.Source, sh api.Shape, colour int) []uint64 {
 
 // anyJobs: of both kinds, with these colours. What a kind doesn't use is any number.
 func anyJobs(from *trial.Source, sh api.Shape, words []uint64, colours []int, hands, most int) [][]api.Job {
-	var objects []api.Object
-	for number := 1; number <= sh.Objects; number++ {
-		objects = append(objects, api.Object{Gen: trial.Upper(words[trial.HeadAt(sh, number)])})
-	}
+	objects := trial.ObjectsIn(sh, words)
 	return from.Jobs(hands, most, func() api.Job {
 		j := api.Job{Kind: shade.Next, A: from.End(), B: from.End(), C: from.End(), H: from.Value()}
 		if from.Below(3) > 0 {

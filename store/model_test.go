@@ -1,7 +1,6 @@
 package store_test
 
 import (
-	"slices"
 	"testing"
 
 	"midden/api"
@@ -54,9 +53,10 @@ const half = 1 << 32
 // Short names for what is written down again and again.
 var (
 	tagged     = trial.Tagged
-	tags       = trial.Tags
 	farNumbers = trial.FarNumbers
 	with       = trial.With
+	puts       = trial.Puts
+	objectsIn  = trial.ObjectsIn
 	told       = trial.Told(0)
 )
 
@@ -69,15 +69,6 @@ type cell = trial.Cell
 // memory: of the shape three, with these objects and this word Grey. Roots and slots show no object.
 func memory(grey uint64, objects ...cell) []uint64 {
 	return trial.Memory(three, api.Grey, grey, objects...)
-}
-
-// puts: the same words, but for some: each place is followed by what stands there.
-func puts(words []uint64, pairs ...uint64) []uint64 {
-	out := slices.Clone(words)
-	for i := 0; i < len(pairs); i += 2 {
-		out[pairs[i]] = pairs[i+1]
-	}
-	return out
 }
 
 // play plays a run, and holds it to the tables.
@@ -98,29 +89,7 @@ func run(t *testing.T, sh api.Shape, words []uint64, hands [][]api.Job, schedule
 
 // stepsOfMark: what a Mark of a handle in the colour 1 does on words of the shape three, alone; and the words behind it.
 func stepsOfMark(words []uint64, hand int, h uint64) ([]api.Step, []uint64) {
-	number := trial.Number(h)
-	at := trial.HeadAt(three, number)
-	if at < 0 {
-		return []api.Step{trial.Load(hand, -1, 0)}, words
-	}
-	head, grey := words[at], words[api.Grey]
-	if head&3 != 1 || head/half != h/half {
-		return []api.Step{trial.Load(hand, at, head)}, words
-	}
-	turned := tagged(number, (grey/half+1)%half)
-	return []api.Step{
-		trial.Load(hand, at, head), trial.CAS(hand, at, head, head+2),
-		trial.Load(hand, 2, grey), trial.Store(hand, at+1, words[at+1], grey%half), trial.CAS(hand, 2, grey, turned),
-	}, puts(words, uint64(at), head+2, uint64(at+1), grey%half, 2, turned)
-}
-
-// objectsIn: with the generations that stand in the words.
-func objectsIn(sh api.Shape, words []uint64) []api.Object {
-	var out []api.Object
-	for number := 1; number <= sh.Objects; number++ {
-		out = append(out, api.Object{Gen: trial.Upper(words[trial.HeadAt(sh, number)])})
-	}
-	return out
+	return trial.Shading(three, words, hand, h, 1)
 }
 
 // shown: where handles stand, roots and slots.
@@ -139,25 +108,8 @@ func shown(sh api.Shape) []int {
 	return out
 }
 
-// anyWords: any at all, but with more objects in use, with more good handles, and with Grey that shows an object or about one.
-func anyWords(from *trial.Source, sh api.Shape) []uint64 {
-	words := from.Words(sh)
-	if from.Below(5) > 0 {
-		words[api.Grey] = tagged(from.Below(sh.Objects+2), tags()[from.Below(len(tags()))])
-	}
-	for number := 1; number <= sh.Objects; number++ {
-		if from.Below(4) > 0 {
-			words[trial.HeadAt(sh, number)] |= 1
-		}
-	}
-	objects := objectsIn(sh, words)
-	for _, at := range shown(sh) {
-		if from.Below(5) > 0 {
-			words[at] = from.Handle(objects)
-		}
-	}
-	return words
-}
+// anyWords: any at all, but with more that is in use, and with more good handles in roots and slots.
+func anyWords(from *trial.Source, sh api.Shape) []uint64 { return from.UsedWords(sh, shown(sh)) }
 
 // anyJobs: of both kinds, with these barriers. What a kind doesn't use is any number. A hand that the shape doesn't have stores
 // into slots alone.

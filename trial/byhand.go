@@ -42,6 +42,33 @@ func With(words []uint64, at int, v uint64) []uint64 {
 	return out
 }
 
+// Puts: the same words, but for some: each place is followed by what stands there.
+func Puts(words []uint64, pairs ...uint64) []uint64 {
+	out := slices.Clone(words)
+	for i := 0; i < len(pairs); i += 2 {
+		out[pairs[i]] = pairs[i+1]
+	}
+	return out
+}
+
+// Shading: what a Mark of a handle in a colour does on these words, alone, step by step; and the words behind it.
+func Shading(sh api.Shape, words []uint64, hand int, h uint64, colour int) ([]api.Step, []uint64) {
+	number := Number(h)
+	at := HeadAt(sh, number)
+	if at < 0 {
+		return []api.Step{Load(hand, -1, 0)}, words
+	}
+	head, grey := words[at], words[api.Grey]
+	if !White(head, Upper(h), colour) {
+		return []api.Step{Load(hand, at, head)}, words
+	}
+	turned := Turned(grey, number)
+	return []api.Step{
+		Load(hand, at, head), CAS(hand, at, head, head^2),
+		Load(hand, api.Grey, grey), Store(hand, at+1, words[at+1], grey%half), CAS(hand, api.Grey, grey, turned),
+	}, Puts(words, uint64(at), head^2, uint64(at+1), grey%half, api.Grey, turned)
+}
+
 // ListIn: a list, from its head along the links; false, if it doesn't end with a 0, or has an object twice.
 func ListIn(sh api.Shape, words []uint64, list int) ([]int, bool) {
 	var out []int

@@ -27,6 +27,14 @@ func RootAt(sh api.Shape, hand, root int) int {
 	return 8 + sh.Hands + hand*sh.Roots + root
 }
 
+// WeakAt: where a weak word stands, likewise.
+func WeakAt(sh api.Shape, weak int) int {
+	if weak < 0 || weak >= sh.Weaks || !isRight(sh) {
+		return -1
+	}
+	return 8 + sh.Hands + sh.Hands*sh.Roots + weak
+}
+
 // HeadAt: where an object's head stands; -1 for a number that is none of its objects, and for a shape that is none.
 func HeadAt(sh api.Shape, number int) int {
 	if number < 1 || number > sh.Objects || !isRight(sh) {
@@ -82,6 +90,36 @@ func (s *Source) Words(sh api.Shape) []uint64 {
 	out := make([]uint64, SizeOf(sh))
 	for at := range out {
 		out[at] = s.One(sh)
+	}
+	return out
+}
+
+// UsedWords: the like, but with more objects in use, with more good handles at these places, and with Grey that shows an object
+// or about one.
+func (s *Source) UsedWords(sh api.Shape, shown []int) []uint64 {
+	words := s.Words(sh)
+	if s.Below(5) > 0 {
+		words[api.Grey] = Tagged(s.Below(sh.Objects+2), Tags()[s.Below(len(Tags()))])
+	}
+	for number := 1; number <= sh.Objects; number++ {
+		if s.Below(4) > 0 {
+			words[HeadAt(sh, number)] |= 1
+		}
+	}
+	objects := ObjectsIn(sh, words)
+	for _, at := range shown {
+		if s.Below(5) > 0 {
+			words[at] = s.Handle(objects)
+		}
+	}
+	return words
+}
+
+// ObjectsIn: with the generations that stand in the words.
+func ObjectsIn(sh api.Shape, words []uint64) []api.Object {
+	var out []api.Object
+	for number := 1; number <= sh.Objects; number++ {
+		out = append(out, api.Object{Gen: Upper(words[HeadAt(sh, number)])})
 	}
 	return out
 }

@@ -28,6 +28,16 @@ func TestPlaces(t *testing.T) {
 				}
 			}
 		}
+		for weak := range sh.Weaks {
+			if at, e := shape.Weak(sh, weak); e != api.OK || trial.WeakAt(sh, weak) != at {
+				t.Error(sh, weak, trial.WeakAt(sh, weak), at)
+			}
+		}
+		for _, weak := range append(trial.Ends(), sh.Weaks, 1<<32) {
+			if trial.WeakAt(sh, weak) != -1 {
+				t.Error(sh, weak, trial.WeakAt(sh, weak))
+			}
+		}
 		for number := 1; number <= sh.Objects; number++ {
 			if at, e := shape.Object(sh, number); e != api.OK || trial.HeadAt(sh, number) != at || trial.LinkAt(sh, number) != at+1 {
 				t.Error(sh, number, trial.HeadAt(sh, number), trial.LinkAt(sh, number), at)
@@ -50,7 +60,7 @@ func TestPlaces(t *testing.T) {
 		}
 	}
 	for _, sh := range trial.WrongShapes() {
-		if trial.RootAt(sh, 0, 0) != -1 || trial.HeadAt(sh, 1) != -1 || trial.LinkAt(sh, 1) != -1 || trial.SlotAt(sh, 1, 0) != -1 {
+		if trial.RootAt(sh, 0, 0) != -1 || trial.WeakAt(sh, 0) != -1 || trial.HeadAt(sh, 1) != -1 || trial.LinkAt(sh, 1) != -1 || trial.SlotAt(sh, 1, 0) != -1 {
 			t.Error("no shape:", sh)
 		}
 	}
@@ -82,6 +92,75 @@ func TestWords(t *testing.T) {
 	}
 	if min(near, far, upper, none) < 100 {
 		t.Error(near, far, upper, none)
+	}
+}
+
+// Words that are used more: most objects are in use, most handles at the places are good, and Grey shows an object most often.
+func TestUsedWords(t *testing.T) {
+	from := trial.Source(8)
+	var objects, used, places, good, lists, grey int
+	for range 200 {
+		sh := from.Shape()
+		shown := []int{trial.RootAt(sh, 0, 0), trial.RootAt(sh, sh.Hands-1, sh.Roots-1)}
+		words := from.UsedWords(sh, shown)
+		v := trial.LookAt(t, sh, words)
+		for i, o := range trial.ObjectsIn(sh, words) {
+			if o.Gen != v.Objects[i].Gen || len(o.Slots) > 0 || o.Used {
+				t.Fatal(i, o, v.Objects[i])
+			}
+			objects++
+			if v.Objects[i].Used {
+				used++
+			}
+		}
+		for _, at := range shown {
+			places++
+			if trial.Shown(v, words[at]) > 0 {
+				good++
+			}
+		}
+		lists++
+		if trial.HeadAt(sh, trial.Number(words[api.Grey])) >= 0 {
+			grey++
+		}
+	}
+	if 3*used < 2*objects || used == objects || 4*good < places || good == places || 2*grey < lists || grey == lists {
+		t.Error(objects, used, places, good, lists, grey)
+	}
+}
+
+// What a Mark does alone is what its table makes of the same words.
+func TestShading(t *testing.T) {
+	from := trial.Source(9)
+	tables := trial.Layer{Table: func(sh api.Shape, _ int, j api.Job, act trial.Act) api.Answer {
+		return trial.Marking(sh, j.H, j.C, act)
+	}}
+	lengths := map[int]int{}
+	for range 500 {
+		sh := from.Shape()
+		words := from.UsedWords(sh, nil)
+		held := slices.Clone(words)
+		h, colour := from.Handle(trial.ObjectsIn(sh, words)), from.End()
+		x, _, _ := tables.Model(sh, words, [][]api.Job{nil, {{H: h, C: colour}}}, nil, 9)
+		steps, after := trial.Shading(sh, words, 1, h, colour)
+		if !slices.Equal(steps, x.Steps) || !slices.Equal(after, x.Words) || !slices.Equal(words, held) {
+			t.Fatal(sh, words, h, colour, steps, after, x)
+		}
+		lengths[len(steps)]++
+	}
+	if len(lengths) != 2 || min(lengths[1], lengths[5]) < 50 {
+		t.Error(lengths)
+	}
+}
+
+// Words by hand: the same but for some, in memory of their own.
+func TestPuts(t *testing.T) {
+	words := []uint64{5, 6, 7}
+	if got := trial.Puts(words, 2, 9, 0, 8, 2, 1); !slices.Equal(got, []uint64{8, 6, 1}) || !slices.Equal(words, []uint64{5, 6, 7}) {
+		t.Error(got, words)
+	}
+	if got := trial.Puts(words); !slices.Equal(got, words) || &got[0] == &words[0] {
+		t.Error(got)
 	}
 }
 
@@ -184,6 +263,60 @@ func TestStoring(t *testing.T) {
 	tables.HoldSteps(t, sh, words, [][]api.Job{{
 		{A: 13, H: 9}, {A: 9, B: 1, C: 1}, {A: 9, B: 1, C: 1}, {A: 9, B: 1, C: -1, H: two}, {A: 9, B: 1, C: 1, H: 1}, {A: -1, B: 1, H: 3}, {A: -1, H: 3},
 	}}, nil, steps, [][]api.Answer{slices.Repeat([]api.Answer{trial.Told(0)}, 7)}, after)
+}
+
+// Layer 19's tables, on its chapter's examples and on words that aren't there.
+func TestSettingAndGetting(t *testing.T) {
+	sh := api.Shape{Objects: 1, Hands: 1, Roots: 1, Weaks: 2} // the weak words 10 and 11, the head 12
+	const half = 1 << 32
+	tables := trial.Layer{Table: func(sh api.Shape, _ int, j api.Job, act trial.Act) api.Answer {
+		if j.Kind == 1 {
+			return trial.Setting(sh, j.B, j.H, act)
+		}
+		return trial.Getting(sh, j.B, j.C, j.A, act)
+	}}
+	tables.Play = tables.Model
+	one := func(phase, colour int) api.Job { return api.Job{Kind: 2, C: phase, A: colour} }
+	words := trial.Puts(trial.Memory(sh, api.Grey, 0, trial.Cell{1, 5}), 10, 1, 11, 0)
+	told, again := trial.Told(1), api.Answer{Val: 1}
+	for _, c := range []struct {
+		job   api.Job
+		steps []api.Step
+		want  api.Answer
+	}{
+		{one(api.Idle, 1), []api.Step{trial.Load(0, 10, 1)}, told},
+		{one(api.Sweep, 1), []api.Step{trial.Load(0, 10, 1)}, told},
+		{one(-1, 1), []api.Step{trial.Load(0, 10, 1)}, told},
+		{one(5, 1), []api.Step{trial.Load(0, 10, 1)}, told},
+		{one(api.Mark, 1), []api.Step{
+			trial.Load(0, 10, 1),
+			trial.Load(0, 12, 1), trial.CAS(0, 12, 1, 3), trial.Load(0, 2, 0), trial.Store(0, 13, 5, 0), trial.CAS(0, 2, 0, half+1),
+		}, told},
+		{one(api.Arm, -2), []api.Step{trial.Load(0, 10, 1), trial.Load(0, 12, 1)}, told},
+		{one(api.Close, -1), []api.Step{trial.Load(0, 10, 1), trial.Load(0, 12, 1)}, again},
+		{one(api.Close, 4), []api.Step{trial.Load(0, 10, 1), trial.Load(0, 12, 1), trial.Load(0, 10, 1)}, told},
+		{api.Job{Kind: 2, B: 1, C: api.Close}, []api.Step{trial.Load(0, 11, 0)}, trial.Told(0)},
+		{api.Job{Kind: 2, B: 2, C: api.Mark}, []api.Step{trial.Load(0, -1, 0)}, trial.Told(0)},
+		{api.Job{Kind: 1, B: 1, H: 9}, []api.Step{trial.Store(0, 11, 0, 9)}, trial.Told(9)},
+		{api.Job{Kind: 1, B: 0, H: 0}, []api.Step{trial.Store(0, 10, 1, 0)}, trial.Told(0)},
+		{api.Job{Kind: 1, B: -1, H: 9}, []api.Step{trial.Store(0, -1, 0, 0)}, trial.Told(9)},
+	} {
+		after := slices.Clone(words)
+		for _, s := range c.steps {
+			if s.At >= 0 {
+				after[s.At] = s.Put
+			}
+		}
+		tables.HoldSteps(t, sh, words, [][]api.Job{{c.job}}, nil, c.steps, [][]api.Answer{{c.want}}, after)
+	}
+	// Wiped between the two looks, or ahead of the one alone.
+	hands := [][]api.Job{{one(api.Close, 0)}, {{Kind: 1}}}
+	tables.HoldSteps(t, sh, words, hands, []int{0, 1, 0, 0}, []api.Step{
+		trial.Load(0, 10, 1), trial.Store(1, 10, 1, 0), trial.Load(0, 12, 1), trial.Load(0, 10, 0),
+	}, [][]api.Answer{{again}, {trial.Told(0)}}, trial.With(words, 10, 0))
+	tables.HoldSteps(t, sh, words, hands, []int{1}, []api.Step{
+		trial.Store(1, 10, 1, 0), trial.Load(0, 10, 0),
+	}, [][]api.Answer{{trial.Told(0)}, {trial.Told(0)}}, trial.With(words, 10, 0))
 }
 
 // What is no handle of a white object.
