@@ -22,17 +22,18 @@ func WeakAt(sh api.Shape, weak int) int {
 	return placeIf(at, errno)
 }
 
-// HeadAt, LinkAt, SlotAt: where these words of an object stand.
+// HeadAt, LinkAt, NextAt, SlotAt: where these words of an object stand.
 func HeadAt(sh api.Shape, index int) int {
 	at, errno := shape.Object(sh, index)
 	return placeIf(at, errno)
 }
 func LinkAt(sh api.Shape, index int) int {
-	at := HeadAt(sh, index)
-	if at == NoWord {
-		return NoWord
-	}
-	return at + 1
+	at, errno := shape.Object(sh, index)
+	return placeIf(at+1, errno)
+}
+func NextAt(sh api.Shape, index int) int {
+	at, errno := shape.Object(sh, index)
+	return placeIf(at+2, errno)
 }
 func SlotAt(sh api.Shape, index, slot int) int {
 	at, errno := shape.Slot(sh, index, slot)

@@ -25,6 +25,9 @@ func TestPlaces(t *testing.T) {
 			if at := heap.LinkAt(sh, number); at != trial.LinkAt(sh, number) || (at != heap.NoWord) != isThere {
 				t.Error("a link", sh, number, at)
 			}
+			if at := heap.NextAt(sh, number); at != trial.NextAt(sh, number) || (at != heap.NoWord) != isThere {
+				t.Error("a next", sh, number, at)
+			}
 			for _, slot := range append(trial.Ends(), 0, 1, sh.Slots-1, sh.Slots, 1<<32) {
 				if at := heap.SlotAt(sh, number, slot); at != trial.SlotAt(sh, number, slot) || (at != heap.NoWord) != (isThere && slot >= 0 && slot < sh.Slots) {
 					t.Error("a slot", sh, number, slot, at)
@@ -49,7 +52,7 @@ func TestPlaces(t *testing.T) {
 		}
 	}
 	for _, sh := range trial.WrongShapes() {
-		if heap.RootAt(sh, 0, 0) != heap.NoWord || heap.WeakAt(sh, 0) != heap.NoWord || heap.HeadAt(sh, 1) != heap.NoWord || heap.LinkAt(sh, 1) != heap.NoWord || heap.SlotAt(sh, 1, 0) != heap.NoWord {
+		if heap.RootAt(sh, 0, 0) != heap.NoWord || heap.WeakAt(sh, 0) != heap.NoWord || heap.HeadAt(sh, 1) != heap.NoWord || heap.LinkAt(sh, 1) != heap.NoWord || heap.NextAt(sh, 1) != heap.NoWord || heap.SlotAt(sh, 1, 0) != heap.NoWord {
 			t.Error("no shape", sh)
 		}
 		if heap.IsNumber(sh, 1) != (sh.Objects >= 1) {
@@ -196,6 +199,27 @@ func TestParts(t *testing.T) {
 		steps, told, _ = trial.Drive(t, k, words, map[int]trial.Put{7: {0, 6 * half}})
 		if !slices.Equal(steps, append(want[:7:7], trial.Load(hand, 0, 6*half))) || told != trial.Told(299) {
 			t.Error(hand, steps, told)
+		}
+	}
+}
+
+// A task may begin with the steps of a part.
+func TestBeginAlong(t *testing.T) {
+	for _, hand := range append(trial.Ends(), 0, 8) {
+		var w heap.Work
+		var part api.Answer
+		w.BeginAlong(hand, newTurning(hand), func(told api.Answer) int {
+			part = told
+			return w.GoOn(func(m *cells.Mem) (api.Step, int) { return w.Load(m, 1), w.End(told.Val + 40) })
+		})
+		if w.Hand() != hand || w.Answer() != (api.Answer{}) {
+			t.Error(w.Hand(), w.Answer())
+		}
+		words := []uint64{trial.Tagged(2, 3), 3}
+		alone, told, _ := trial.Drive(t, newTurning(hand), words, nil)
+		steps, all, _ := trial.Drive(t, &w, words, nil)
+		if !slices.Equal(steps, append(alone, trial.Load(hand, 1, 5))) || part != told || all != trial.Told(42) {
+			t.Error(hand, steps, part, all)
 		}
 	}
 }

@@ -24,8 +24,12 @@ type Work struct {
 	told   api.Answer
 }
 
-// Begin: the hand whose task it is, and its first act.
+// Begin: the hand whose task it is, and its first act. BeginAlong: the first acts are those of another task.
 func (w *Work) Begin(hand int, first Act) { w.hand, w.next = hand, first }
+func (w *Work) BeginAlong(hand int, part turn.Task, behind Behind) {
+	w.hand = hand
+	w.GoAlong(part, behind)
+}
 
 // Hand: whose task it is; the tasks that are parts of it are that hand's too.
 func (w *Work) Hand() int { return w.hand }

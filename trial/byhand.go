@@ -69,10 +69,11 @@ func Shading(sh api.Shape, words []uint64, hand int, h uint64, colour int) ([]ap
 	}, Puts(words, uint64(at), head^2, uint64(at+1), grey%half, api.Grey, turned)
 }
 
-// ListIn: a list, from its head along the links; false, if it doesn't end with a 0, or has an object twice.
+// ListIn: a list, from its head along the links (the queue: along the next words); false, if it doesn't end with a 0, or has an
+// object twice.
 func ListIn(sh api.Shape, words []uint64, list int) ([]int, bool) {
 	var out []int
-	for number := Number(words[list]); number != 0; number = Number(words[LinkAt(sh, number)]) {
+	for number := Number(words[list]); number != 0; number = Number(words[behindAt(sh, list, number)]) {
 		if number > sh.Objects || slices.Contains(out, number) {
 			return nil, false
 		}
@@ -81,13 +82,21 @@ func ListIn(sh api.Shape, words []uint64, list int) ([]int, bool) {
 	return out, true
 }
 
+// behindAt: where the number stands that is behind this one in such a list.
+func behindAt(sh api.Shape, list, number int) int {
+	if list == api.Queue {
+		return NextAt(sh, number)
+	}
+	return LinkAt(sh, number)
+}
+
 // Lay: a list of these objects, in this order. In the upper halves of its head and of the links stands what stood there.
 func Lay(sh api.Shape, words []uint64, list int, numbers []int) []uint64 {
 	out := slices.Clone(words)
 	at := list
 	for _, number := range append(slices.Clone(numbers), 0) {
 		out[at] = Tagged(number, Upper(out[at]))
-		at = LinkAt(sh, number)
+		at = behindAt(sh, list, number)
 	}
 	return out
 }

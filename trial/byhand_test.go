@@ -61,6 +61,13 @@ func TestLists(t *testing.T) {
 			}
 		}
 	}
+	// The queue leads along other words than the others do: both can stand side by side.
+	both := trial.Lay(sh, trial.Lay(sh, from.Words(sh), api.Queue, []int{2, 4, 1}), api.Grey, []int{1, 3, 2})
+	queue, isQueue := trial.ListIn(sh, both, api.Queue)
+	grey, isGrey := trial.ListIn(sh, both, api.Grey)
+	if !isQueue || !isGrey || !slices.Equal(queue, []int{2, 4, 1}) || !slices.Equal(grey, []int{1, 3, 2}) || trial.Number(both[trial.NextAt(sh, 2)]) != 4 {
+		t.Error("the queue", queue, grey)
+	}
 	ring := trial.Lay(sh, make([]uint64, trial.SizeOf(sh)), api.Grey, []int{1, 2})
 	ring[trial.LinkAt(sh, 2)] = 1
 	if list, whole := trial.ListIn(sh, ring, api.Grey); whole || list != nil {

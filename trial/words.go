@@ -43,10 +43,16 @@ func HeadAt(sh api.Shape, number int) int {
 	return SizeOf(sh) - (sh.Objects-number+1)*(3+sh.Slots)
 }
 
-// LinkAt, SlotAt: where its link and its slots stand, likewise.
+// LinkAt, NextAt, SlotAt: where its link, its next and its slots stand, likewise.
 func LinkAt(sh api.Shape, number int) int {
 	if at := HeadAt(sh, number); at >= 0 {
 		return at + 1
+	}
+	return -1
+}
+func NextAt(sh api.Shape, number int) int {
+	if at := HeadAt(sh, number); at >= 0 {
+		return at + 2
 	}
 	return -1
 }

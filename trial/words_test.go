@@ -39,8 +39,8 @@ func TestPlaces(t *testing.T) {
 			}
 		}
 		for number := 1; number <= sh.Objects; number++ {
-			if at, e := shape.Object(sh, number); e != api.OK || trial.HeadAt(sh, number) != at || trial.LinkAt(sh, number) != at+1 {
-				t.Error(sh, number, trial.HeadAt(sh, number), trial.LinkAt(sh, number), at)
+			if at, e := shape.Object(sh, number); e != api.OK || trial.HeadAt(sh, number) != at || trial.LinkAt(sh, number) != at+1 || trial.NextAt(sh, number) != at+2 {
+				t.Error(sh, number, trial.HeadAt(sh, number), trial.LinkAt(sh, number), trial.NextAt(sh, number), at)
 			}
 			for slot := range sh.Slots {
 				if at, e := shape.Slot(sh, number, slot); e != api.OK || trial.SlotAt(sh, number, slot) != at {
@@ -54,13 +54,13 @@ func TestPlaces(t *testing.T) {
 			}
 		}
 		for _, number := range append(trial.Ends(), 0, sh.Objects+1, 1<<32, 1<<32+1) {
-			if trial.HeadAt(sh, number) != -1 || trial.LinkAt(sh, number) != -1 || trial.SlotAt(sh, number, 0) != -1 {
-				t.Error(sh, number, trial.HeadAt(sh, number), trial.LinkAt(sh, number))
+			if trial.HeadAt(sh, number) != -1 || trial.LinkAt(sh, number) != -1 || trial.NextAt(sh, number) != -1 || trial.SlotAt(sh, number, 0) != -1 {
+				t.Error(sh, number, trial.HeadAt(sh, number), trial.LinkAt(sh, number), trial.NextAt(sh, number))
 			}
 		}
 	}
 	for _, sh := range trial.WrongShapes() {
-		if trial.RootAt(sh, 0, 0) != -1 || trial.WeakAt(sh, 0) != -1 || trial.HeadAt(sh, 1) != -1 || trial.LinkAt(sh, 1) != -1 || trial.SlotAt(sh, 1, 0) != -1 {
+		if trial.RootAt(sh, 0, 0) != -1 || trial.WeakAt(sh, 0) != -1 || trial.HeadAt(sh, 1) != -1 || trial.LinkAt(sh, 1) != -1 || trial.NextAt(sh, 1) != -1 || trial.SlotAt(sh, 1, 0) != -1 {
 			t.Error("no shape:", sh)
 		}
 	}
@@ -317,6 +317,41 @@ func TestSettingAndGetting(t *testing.T) {
 	tables.HoldSteps(t, sh, words, hands, []int{1}, []api.Step{
 		trial.Store(1, 10, 1, 0), trial.Load(0, 10, 0),
 	}, [][]api.Answer{{trial.Told(0)}, {trial.Told(0)}}, trial.With(words, 10, 0))
+}
+
+func TestScanningAndResting(t *testing.T) {
+	sh := api.Shape{Objects: 2, Slots: 1, Hands: 2, Roots: 1} // the roots 10 and 11, the heads 12 and 16
+	tables := trial.Layer{Table: func(sh api.Shape, _ int, j api.Job, act trial.Act) api.Answer {
+		if j.Kind == 1 {
+			return trial.Scanning(sh, j.C, act)
+		}
+		return trial.Resting(sh, j.C, act)
+	}}
+	tables.Play = tables.Model
+	tagged, load := trial.Tagged, trial.Load
+	// Root 0 shows nothing that is there, root 1 shows object 2, and object 2 shows object 1, which is the queue's only one.
+	words := trial.Puts(trial.Memory(sh, api.Grey, 0, trial.Cell{tagged(1, 6), 5}, trial.Cell{1, 9}), 10, 3, 11, 2, 3, tagged(1, 8), 14, tagged(0, 2), 15, 0, 19, tagged(1, 6))
+	steps := []api.Step{
+		load(0, 10, 3), load(0, 11, 2),
+		load(0, 16, 1), trial.CAS(0, 16, 1, 3), load(0, 2, 0), trial.Store(0, 17, 9, 0), trial.CAS(0, 2, 0, tagged(2, 1)),
+		load(0, 3, tagged(1, 8)), load(0, 12, tagged(1, 6)),
+		load(0, 12, tagged(1, 6)), trial.CAS(0, 12, tagged(1, 6), tagged(3, 6)), load(0, 2, tagged(2, 1)), trial.Store(0, 13, 5, 2), trial.CAS(0, 2, tagged(2, 1), tagged(1, 2)),
+		load(0, 14, tagged(0, 2)),
+	}
+	shaded := trial.Puts(words, 16, 3, 17, 0, 12, tagged(3, 6), 13, 2, 2, tagged(1, 2))
+	tables.HoldSteps(t, sh, words, [][]api.Job{{{Kind: 1, C: 1}}}, nil, steps, [][]api.Answer{{trial.Told(2)}}, shaded)
+	// 1 is pulled, and shows nothing; 2 is pulled, and shows 1, which has the colour.
+	tables.HoldSteps(t, sh, shaded, [][]api.Job{{{Kind: 2, C: 1}}}, nil, []api.Step{
+		load(0, 2, tagged(1, 2)), load(0, 13, 2), trial.CAS(0, 2, tagged(1, 2), tagged(2, 3)), load(0, 15, 0),
+		load(0, 2, tagged(2, 3)), load(0, 17, 0), trial.CAS(0, 2, tagged(2, 3), tagged(0, 4)), load(0, 19, tagged(1, 6)), load(0, 12, tagged(3, 6)),
+		load(0, 2, tagged(0, 4)),
+	}, [][]api.Answer{{trial.Told(2)}}, trial.With(shaded, 2, tagged(0, 4)))
+	// A queue that leads round and round is left behind as many objects as there are.
+	ring := trial.Puts(words, 10, 0, 11, 0, 3, 2, 18, 2)
+	tables.HoldSteps(t, sh, ring, [][]api.Job{{{Kind: 1, C: 0}}}, nil, []api.Step{
+		load(0, 10, 0), load(0, 11, 0), load(0, 3, 2),
+		load(0, 16, 1), load(0, 16, 1), load(0, 18, 2), load(0, 16, 1), load(0, 16, 1), load(0, 18, 2),
+	}, [][]api.Answer{{trial.Told(0)}}, ring)
 }
 
 // What is no handle of a white object.
