@@ -5,7 +5,6 @@ import (
 	"testing"
 
 	"midden/api"
-	"midden/cells"
 	"midden/mark"
 	"midden/shape"
 	"midden/trial"
@@ -114,55 +113,28 @@ func holdNothingElse(t *testing.T, sh api.Shape, words []uint64, x api.Trace) {
 	}
 }
 
-// A job is one of a run, with the steps that are its own, and when each of them was made.
-type job struct {
-	api.Job
-	hand, number int
-	steps        []api.Step
-	when         []int
-}
+// A job is one of a run, with its steps.
+type job struct{ *trial.Noted }
 
-// A noting is a task that writes its steps down in its job.
-type noting struct {
-	turn.Task
-	job  *job
-	made *int // steps of the run so far
-}
-
-func (n *noting) Step(m *cells.Mem) (api.Step, int) {
-	s, state := n.Task.Step(m)
-	n.job.steps, n.job.when = append(n.job.steps, s), append(n.job.when, *n.made)
-	*n.made++
-	return s, state
-}
-
-// jobsOf: the jobs of a run, with their steps. It fails, if Play doesn't make the same run of the same tasks.
-func jobsOf(t *testing.T, sh api.Shape, words []uint64, hands [][]api.Job, schedule []int, most int) ([]*job, api.Trace, [][]api.Answer) {
+func jobsOf(t *testing.T, sh api.Shape, words []uint64, hands [][]api.Job, schedule []int, most int) ([]job, api.Trace, [][]api.Answer) {
 	t.Helper()
-	var out []*job
-	made, number := 0, make([]int, len(hands))
-	x, a, e := turn.Play(words, hands, schedule, most, func(hand int, j api.Job) (turn.Task, api.Errno) {
-		k, e := task(sh, hand, j)
-		out = append(out, &job{Job: j, hand: hand, number: number[hand]})
-		number[hand]++
-		return &noting{k, out[len(out)-1], &made}, e
-	})
-	y, b, f := mark.Play(sh, words, hands, schedule, most)
-	if e != api.OK || f != api.OK || !trial.SameTrace(x, y) || !trial.SameAnswers(a, b) {
-		t.Fatal("another run by Play", sh, hands, schedule, e, f)
+	noted, x, a := marks.Noted(t, sh, words, hands, schedule, most)
+	out := make([]job, len(noted))
+	for i, n := range noted {
+		out[i] = job{n}
 	}
 	return out, x, a
 }
 
 // laid, pulled: the objects that a job has put on the grey list, and those that it has pulled off it. Ahead of the CAS of Grey that
 // pulls an object, its link is loaded; ahead of the one that lays it, the link is stored.
-func (j *job) laid() []int   { return j.turned(api.Store) }
-func (j *job) pulled() []int { return j.turned(api.Load) }
+func (j job) laid() []int   { return j.turned(api.Store) }
+func (j job) pulled() []int { return j.turned(api.Load) }
 
-func (j *job) turned(ahead int) []int {
+func (j job) turned(ahead int) []int {
 	var out []int
-	for i, s := range j.steps {
-		if s.At != api.Grey || s.Act != api.CAS || !s.OK || j.steps[i-1].Act != ahead {
+	for i, s := range j.Steps {
+		if s.At != api.Grey || s.Act != api.CAS || !s.OK || j.Steps[i-1].Act != ahead {
 			continue
 		}
 		if ahead == api.Store {
@@ -175,21 +147,13 @@ func (j *job) turned(ahead int) []int {
 }
 
 // layAt: when a job has put that object on the list.
-func (j *job) layAt(number int) int {
-	for i, s := range j.steps {
-		if s.At == api.Grey && s.Act == api.CAS && s.OK && trial.Number(s.Put) == number && j.steps[i-1].Act == api.Store {
-			return j.when[i]
+func (j job) layAt(number int) int {
+	for i, s := range j.Steps {
+		if s.At == api.Grey && s.Act == api.CAS && s.OK && trial.Number(s.Put) == number && j.Steps[i-1].Act == api.Store {
+			return j.When[i]
 		}
 	}
 	return -1
-}
-
-// end: when a job has made its last step so far; -1, if it has made none.
-func (j *job) end() int {
-	if len(j.when) == 0 {
-		return -1
-	}
-	return j.when[len(j.when)-1]
 }
 
 // shown: where handles stand, roots and slots.

@@ -9,17 +9,12 @@ import (
 	"midden/trial"
 )
 
-// noColours: what is neither 0 nor 1; some of them are in their lower half alone.
-func noColours() []int {
-	return append(trial.Ends(), -3, 2, 3, 4, 255, 1<<32, 1<<32+1, -1<<32+1, 1<<62)
-}
-
 func fineJobs() []api.Job { return []api.Job{roots(0), roots(1), drain(0), drain(1)} }
 
 // wrongJobs: both kinds with a colour that is none.
 func wrongJobs() []api.Job {
 	var out []api.Job
-	for _, colour := range noColours() {
+	for _, colour := range trial.NoColours() {
 		out = append(out, roots(colour), drain(colour))
 	}
 	return out
@@ -37,12 +32,6 @@ func TestP20_1_ErrorsInOrder(t *testing.T) {
 	}
 }
 
-// isRefused: with this error, and nothing beside it.
-func isRefused(sh api.Shape, words []uint64, hands [][]api.Job, most int, want api.Errno) bool {
-	x, a, e := mark.Play(sh, words, hands, nil, most)
-	return e == want && a == nil && x.Steps == nil && x.Words == nil && !x.Ended
-}
-
 // Each wrong field alone, of each hand, whether the shape has it or not; what is just in range is taken.
 func TestP20_1_WrongFields(t *testing.T) {
 	for _, sh := range trial.RightShapes() {
@@ -51,7 +40,7 @@ func TestP20_1_WrongFields(t *testing.T) {
 			hands := make([][]api.Job, hand+1)
 			for _, j := range wrongJobs() {
 				hands[hand] = []api.Job{j}
-				if !isRefused(sh, words, hands, 9, api.ErrArg) || !isRefused(sh, words, hands, 0, api.ErrArg) {
+				if !marks.IsRefused(sh, words, hands, 9, api.ErrArg) || !marks.IsRefused(sh, words, hands, 0, api.ErrArg) {
 					t.Error(sh, hand, j)
 				}
 			}
@@ -126,7 +115,7 @@ func TestP20_1_FieldsNotUsed(t *testing.T) {
 		if !x.Ended || !slices.Equal(a[1], []api.Answer{told(1), told(1)}) || len(x.Steps) != 4+5+1+3+2+1 || x.Words[19] != 3 {
 			t.Error(n, x, a)
 		}
-		if !isRefused(sh, words, [][]api.Job{{{Kind: 3, A: n, B: n, C: n}}}, 9, api.ErrKind) {
+		if !marks.IsRefused(sh, words, [][]api.Job{{{Kind: 3, A: n, B: n, C: n}}}, 9, api.ErrKind) {
 			t.Error(n)
 		}
 	}

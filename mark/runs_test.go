@@ -257,21 +257,21 @@ func holdTogether(t *testing.T, sh api.Shape, words []uint64, colour int, hands 
 }
 
 // holdEachOnce: P20.4, by the steps: what is pulled was put on the list ahead of that, and each only once; and by the answers.
-func holdEachOnce(t *testing.T, sh api.Shape, words []uint64, jobs []*job, x api.Trace, a [][]api.Answer) counts {
+func holdEachOnce(t *testing.T, sh api.Shape, words []uint64, jobs []job, x api.Trace, a [][]api.Answer) counts {
 	t.Helper()
 	var c counts
-	laid, pulled := map[int]*job{}, map[int]*job{}
+	laid, pulled := map[int]job{}, map[int]job{}
 	pullers := 0
 	for _, j := range jobs {
 		for _, number := range j.laid() {
-			if laid[number] != nil {
+			if _, isTwice := laid[number]; isTwice {
 				t.Fatal("put on the list twice:", number, x)
 			}
 			laid[number] = j
 		}
 		numbers := j.pulled()
 		for _, number := range numbers {
-			if pulled[number] != nil {
+			if _, isTwice := pulled[number]; isTwice {
 				t.Fatal("pulled twice:", number, x)
 			}
 			pulled[number] = j
@@ -279,21 +279,22 @@ func holdEachOnce(t *testing.T, sh api.Shape, words []uint64, jobs []*job, x api
 		if len(numbers) > 0 {
 			pullers++
 		}
-		if hasEnded := j.number < len(a[j.hand]); hasEnded {
+		if hasEnded := j.Number < len(a[j.Hand]); hasEnded {
 			want := len(numbers)
 			if j.Kind == mark.Roots {
 				want = len(j.laid())
 			}
-			if a[j.hand][j.number] != told(uint64(want)) {
+			if a[j.Hand][j.Number] != told(uint64(want)) {
 				t.Fatal(j, a)
 			}
 		}
 	}
 	for number, j := range pulled {
-		if laid[number] == nil {
+		by, isLaid := laid[number]
+		if !isLaid {
 			t.Fatal("pulled, and never put on the list:", number, x)
 		}
-		if laid[number].hand != j.hand {
+		if by.Hand != j.Hand {
 			c.foreign++
 		}
 	}
@@ -309,7 +310,7 @@ func holdEachOnce(t *testing.T, sh api.Shape, words []uint64, jobs []*job, x api
 // holdBySchedule: P20.3, of a run that has ended. What waits was put there by a Roots behind all Drains; where each Roots has a Drain
 // behind it nothing waits, and all that is reached has the colour. Else what it hasn't is reached from what waits: nobody has looked
 // at the slots of that yet.
-func holdBySchedule(t *testing.T, sh api.Shape, words []uint64, colour int, hands [][]api.Job, jobs []*job, x api.Trace) (waits, unseen int) {
+func holdBySchedule(t *testing.T, sh api.Shape, words []uint64, colour int, hands [][]api.Job, jobs []job, x api.Trace) (waits, unseen int) {
 	t.Helper()
 	list, isList := trial.ListIn(sh, x.Words, api.Grey)
 	if !isList {
@@ -337,18 +338,18 @@ func holdBySchedule(t *testing.T, sh api.Shape, words []uint64, colour int, hand
 }
 
 // holdPutBehind: it was put there by a Roots behind each Drain, and by a hand that has no Drain behind that Roots.
-func holdPutBehind(t *testing.T, number int, hands [][]api.Job, jobs []*job) {
+func holdPutBehind(t *testing.T, number int, hands [][]api.Job, jobs []job) {
 	t.Helper()
-	by := slices.IndexFunc(jobs, func(j *job) bool { return slices.Contains(j.laid(), number) })
+	by := slices.IndexFunc(jobs, func(j job) bool { return slices.Contains(j.laid(), number) })
 	if by < 0 || jobs[by].Kind != mark.Roots {
 		t.Fatal("no Roots has put it there:", number, jobs)
 	}
-	if _, isLeft := leftOf(hands[jobs[by].hand]); !isLeft {
+	if _, isLeft := leftOf(hands[jobs[by].Hand]); !isLeft {
 		t.Fatal("one that has a Drain behind it:", number, jobs[by])
 	}
 	when := jobs[by].layAt(number)
 	for _, j := range jobs {
-		if j.Kind == mark.Drain && j.end() > when {
+		if j.Kind == mark.Drain && j.End() > when {
 			t.Fatal("ahead of a Drain's end:", number, jobs[by], j)
 		}
 	}
@@ -425,15 +426,6 @@ func togetherJobs(from *trial.Source, colour int, isLeft bool) [][]api.Job {
 	return hands
 }
 
-// streaks: a schedule that picks each hand for some steps in a row.
-func streaks(from *trial.Source, n int) []int {
-	var out []int
-	for range n {
-		out = append(out, slices.Repeat([]int{from.Below(40)}, 1+from.Below(15))...)
-	}
-	return out
-}
-
 // Any hands, any schedules, any such words; runs that are left in the middle, too.
 func TestP20_3_And_20_4_AnySchedule(t *testing.T) {
 	from := trial.Source(33)
@@ -445,7 +437,7 @@ func TestP20_3_And_20_4_AnySchedule(t *testing.T) {
 			hands := togetherJobs(&from, colour, isLeft)
 			_, n := holdTogether(t, sh, words, colour, hands, from.Schedule(from.Below(400)), api.MaxSteps)
 			c.add(n)
-			_, n = holdTogether(t, sh, words, colour, hands, streaks(&from, 30), api.MaxSteps)
+			_, n = holdTogether(t, sh, words, colour, hands, from.Streaks(30), api.MaxSteps)
 			c.add(n)
 			_, n = holdTogether(t, sh, words, colour, hands, from.Schedule(from.Below(400)), from.Below(300))
 			c.add(n)

@@ -96,6 +96,12 @@ func (l Layer) holdRefused(t T, c call) {
 	}
 }
 
+// IsRefused: are these jobs, on words that are right, refused with this error, and with nothing beside it?
+func (l Layer) IsRefused(sh api.Shape, words []uint64, hands [][]api.Job, most int, want api.Errno) bool {
+	x, a, e := l.Play(sh, words, hands, nil, most)
+	return e == want && a == nil && x.Steps == nil && x.Words == nil && !x.Ended
+}
+
 func (f Faults) many() [][]api.Job {
 	bad := f.Wrong[0].Job
 	return append(slices.Repeat([][]api.Job{{f.Fine}}, api.MaxHands), []api.Job{bad})

@@ -39,6 +39,18 @@ func (s *Source) Schedule(n int) []int {
 	return out
 }
 
+// Streaks: a schedule that picks each hand for some steps in a row, so many times.
+func (s *Source) Streaks(n int) []int {
+	var out []int
+	for range n {
+		pick := s.Below(40)
+		for range 1 + s.Below(15) {
+			out = append(out, pick)
+		}
+	}
+	return out
+}
+
 // Jobs: up to most for each hand, each made by itself; some hands have none.
 func (s *Source) Jobs(hands, most int, job func() api.Job) [][]api.Job {
 	out := make([][]api.Job, hands)
@@ -68,6 +80,11 @@ func NoRooms(most int) []int {
 // NoKinds: what is no kind from 1 to most.
 func NoKinds(most int) []int {
 	return append([]int{0, most + 1, most + 2, 1 << 32, 1<<32 + 1}, Ends()...)
+}
+
+// NoColours: what is neither 0 nor 1; some of them are in their lower half alone.
+func NoColours() []int {
+	return append([]int{-3, 2, 3, 4, 255, 1 << 32, 1<<32 + 1, -1<<32 + 1, 1 << 62}, Ends()...)
 }
 
 // Lists: all lists of so many numbers from 0 to n - 1, each a new one.

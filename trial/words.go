@@ -100,6 +100,20 @@ func (s *Source) Words(sh api.Shape) []uint64 {
 	return out
 }
 
+// Head: an object's, most often in use; of both colours, of all ages and generations, most often those at the ends, and in half of
+// them with anything in the bits that aren't looked at.
+func (s *Source) Head() uint64 {
+	lower := uint64(s.Below(half)) &^ 0xff01
+	if s.Below(2) == 0 {
+		lower &= 0xf
+	}
+	if s.Below(5) > 0 {
+		lower |= 1
+	}
+	ages := []uint64{0, 1, 254, 255, uint64(s.Below(256))}
+	return lower + ages[s.Below(len(ages))]*256 + Tags()[s.Below(len(Tags()))]*half
+}
+
 // UsedWords: the like, but with more objects in use, with more good handles at these places, and with Grey that shows an object
 // or about one.
 func (s *Source) UsedWords(sh api.Shape, shown []int) []uint64 {

@@ -354,6 +354,60 @@ func TestScanningAndResting(t *testing.T) {
 	}, [][]api.Answer{{trial.Told(0)}}, ring)
 }
 
+// Layer 21's table, on its chapter's example, and on ages, generations and colours at their end.
+func TestSweeping(t *testing.T) {
+	sh := api.Shape{Objects: 2, Hands: 1, Roots: 1} // heads 10 and 13
+	tables := trial.Layer{Table: func(sh api.Shape, _ int, j api.Job, act trial.Act) api.Answer { return trial.Sweeping(sh, j.C, act) }}
+	tables.Play = tables.Model
+	const half, last = 1 << 32, 1<<32 - 1
+	tagged, load := trial.Tagged, trial.Load
+	words := trial.Puts(make([]uint64, 16), 10, 1, 13, 3)
+	tables.HoldSteps(t, sh, words, [][]api.Job{{{C: 1}}}, nil, []api.Step{
+		load(0, 10, 1),
+		load(0, 10, 1), trial.Store(0, 10, 1, half), load(0, 1, 0), trial.Store(0, 11, 0, 0), trial.CAS(0, 1, 0, tagged(1, 1)), trial.Add(0, 5, 0, 1),
+		load(0, 13, 3), trial.CAS(0, 13, 3, 0x103),
+	}, [][]api.Answer{{trial.Told(1)}}, trial.Puts(words, 10, half, 1, tagged(1, 1), 5, 1, 13, 0x103))
+	// One that is as old as can be, and one of the last generation; then one that is about to be so old, and one that is out of use.
+	words = trial.Puts(make([]uint64, 16), 10, tagged(0xffffffff, 7), 13, tagged(0xff01, last))
+	tables.HoldSteps(t, sh, words, [][]api.Job{{{C: -1}}}, nil, []api.Step{
+		load(0, 10, words[10]),
+		load(0, 13, words[13]), load(0, 13, words[13]), trial.Store(0, 13, words[13], last*half), trial.Add(0, 5, 0, 1),
+	}, [][]api.Answer{{trial.Told(1)}}, trial.Puts(words, 13, last*half, 5, 1))
+	words = trial.Puts(make([]uint64, 16), 10, 0xfffffefd, 13, 0xfe)
+	tables.HoldSteps(t, sh, words, [][]api.Job{{{C: 4}}}, nil, []api.Step{
+		load(0, 10, 0xfffffefd), trial.CAS(0, 10, 0xfffffefd, 0xfffffffd), load(0, 13, 0xfe),
+	}, [][]api.Answer{{trial.Told(0)}}, trial.With(words, 10, 0xfffffffd))
+	// Of two at one head, one CAS is not done.
+	words = trial.Puts(make([]uint64, 16), 10, 3)
+	tables.HoldSteps(t, sh, words, [][]api.Job{{{C: 1}}, {{C: 1}}}, nil, []api.Step{
+		load(0, 10, 3), load(1, 10, 3), trial.CAS(0, 10, 3, 0x103), trial.Lost(1, 10, 0x103), load(0, 13, 0), load(1, 13, 0),
+	}, [][]api.Answer{{trial.Told(0)}, {trial.Told(0)}}, trial.With(words, 10, 0x103))
+}
+
+// Heads: in use and not, of both colours, of all ages and generations, those at the ends among them; with other bits and without.
+func TestHead(t *testing.T) {
+	from := trial.Source(10)
+	ages, gens, foots := map[uint64]int{}, map[uint64]int{}, map[uint64]int{}
+	other, n := 0, 4000
+	for range n {
+		head := from.Head()
+		foots[head%16]++
+		ages[head/256%256]++
+		gens[trial.Upper(head)]++
+		if head&0xffff00f0 != 0 {
+			other++
+		}
+	}
+	for foot := range uint64(16) {
+		if foots[foot] < 50 {
+			t.Error(foot, foots)
+		}
+	}
+	if min(ages[0], ages[1], ages[254], ages[255]) < 500 || len(ages) < 200 || min(gens[0], gens[1<<32-2], gens[1<<32-1]) < 400 || other < n/3 || other > 2*n/3 {
+		t.Error(ages, gens, other)
+	}
+}
+
 // What is no handle of a white object.
 func TestWhite(t *testing.T) {
 	const half = 1 << 32

@@ -64,12 +64,6 @@ func TestP19_1_ErrorsInOrder(t *testing.T) {
 	}
 }
 
-// isRefused: with this error, and nothing beside it.
-func isRefused(sh api.Shape, words []uint64, hands [][]api.Job, most int, want api.Errno) bool {
-	x, a, e := weak.Play(sh, words, hands, nil, most)
-	return e == want && a == nil && x.Steps == nil && x.Words == nil && !x.Ended
-}
-
 // Each wrong field alone, of each hand; what is just in range is taken.
 func TestP19_1_WrongFields(t *testing.T) {
 	for _, sh := range trial.RightShapes() {
@@ -78,7 +72,7 @@ func TestP19_1_WrongFields(t *testing.T) {
 			for hand := range api.MaxHands {
 				hands := make([][]api.Job, hand+1)
 				hands[hand] = []api.Job{j}
-				if !isRefused(sh, words, hands, 9, api.ErrArg) || !isRefused(sh, words, hands, 0, api.ErrArg) {
+				if !weaks.IsRefused(sh, words, hands, 9, api.ErrArg) || !weaks.IsRefused(sh, words, hands, 0, api.ErrArg) {
 					t.Error(sh, hand, j)
 				}
 			}
@@ -105,12 +99,12 @@ func TestP19_1_NoWeakWords(t *testing.T) {
 		sh.Weaks = 0
 		words, _ := shape.Fresh(sh)
 		for _, j := range append(fineJobs(three), set(-1, 0), see(-1, 0, 0), see(0, 5, 2)) {
-			if !isRefused(sh, words, [][]api.Job{nil, {j}}, 9, api.ErrArg) {
+			if !weaks.IsRefused(sh, words, [][]api.Job{nil, {j}}, 9, api.ErrArg) {
 				t.Error(sh, j)
 			}
 			for _, kind := range trial.NoKinds(weak.See) {
 				j.Kind = kind
-				if !isRefused(sh, words, [][]api.Job{{j}}, 9, api.ErrKind) {
+				if !weaks.IsRefused(sh, words, [][]api.Job{{j}}, 9, api.ErrKind) {
 					t.Error(sh, j)
 				}
 			}
@@ -187,7 +181,7 @@ func TestP19_1_FieldsNotUsed(t *testing.T) {
 		if !x.Ended || !slices.Equal(a[1], []api.Answer{told(3), told(3), told(2), told(2)}) || len(x.Steps) != 1+1+6+3 || x.Words[12] != 3 {
 			t.Error(n, x, a)
 		}
-		if !isRefused(sh, words, [][]api.Job{{{Kind: 3, A: n, B: n, C: n}}}, 9, api.ErrKind) {
+		if !weaks.IsRefused(sh, words, [][]api.Job{{{Kind: 3, A: n, B: n, C: n}}}, 9, api.ErrKind) {
 			t.Error(n)
 		}
 	}
