@@ -1,5 +1,5 @@
 // Package heap holds what the tasks on a heap's memory have in common: where its words stand, and how a task goes from act to
-// act, and along another task. It is no layer itself.
+// act, and along another task, and how one puts an object on a list, or takes one off it. It is no layer itself.
 package heap
 
 import (
@@ -9,6 +9,12 @@ import (
 
 // NoWord: where no memory has a word. There stands each word of a hand or an object, and each weak word, that the shape doesn't have.
 const NoWord = -1
+
+// The bits of an object's head that are turned, or set, where they stand.
+const (
+	ColourBit uint64 = 1 << 1
+	TakenBit  uint64 = 1 << 3
+)
 
 // RootAt: where a hand's root stands.
 func RootAt(sh api.Shape, hand, root int) int {

@@ -4,7 +4,6 @@ import (
 	"midden/api"
 	"midden/cells"
 	"midden/turn"
-	"midden/word"
 )
 
 // An Act makes a task's next step, and tells whether the task goes on.
@@ -18,7 +17,6 @@ type Behind func(told api.Answer) int
 type Work struct {
 	hand   int
 	next   Act
-	head   uint64 // a list's, as it was loaded last
 	part   turn.Task
 	behind Behind
 	told   api.Answer
@@ -77,18 +75,4 @@ func (w *Work) Store(m *cells.Mem, at int, v uint64) api.Step {
 func (w *Work) Add(m *cells.Mem, at int, v uint64) api.Step { return m.Do(w.hand, api.Add, at, 0, v) }
 func (w *Work) CAS(m *cells.Mem, at int, old, v uint64) api.Step {
 	return m.Do(w.hand, api.CAS, at, old, v)
-}
-
-// LoadList: a list's head, which is kept. First: the object that it shows.
-func (w *Work) LoadList(m *cells.Mem, list int) api.Step {
-	s := w.Load(m, list)
-	w.head = s.Had
-	return s
-}
-func (w *Work) First() int { return word.Index(w.head) }
-
-// TurnList: the list begins with another object, if its head is still the one that was loaded. The tag grows with each turn,
-// so a list that has gone on since then isn't taken for the same one.
-func (w *Work) TurnList(m *cells.Mem, list, first int) api.Step {
-	return w.CAS(m, list, w.head, word.Bump(w.head, first))
 }

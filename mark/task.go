@@ -46,8 +46,8 @@ func (k *scanning) goToNextRoot() int {
 }
 
 func (k *scanning) lookAtQueue(m *cells.Mem) (api.Step, int) {
-	s := k.LoadList(m, api.Queue)
-	return s, k.goAlongQueue(k.First())
+	s := k.Load(m, api.Queue)
+	return s, k.goAlongQueue(word.Index(s.Had))
 }
 
 // goAlongQueue: a queue that is none may lead round and round, so it is left behind as many objects as there are.

@@ -315,8 +315,5 @@ func anyJobs(from *trial.Source, sh api.Shape, hands, most int) [][]api.Job {
 // everyOrder goes through each order of the hands' steps.
 func everyOrder(t *testing.T, sh api.Shape, words []uint64, hands [][]api.Job, hold func(schedule []int)) int {
 	t.Helper()
-	return rooms.EveryOrder(t, sh, words, hands, stateOf, hold)
+	return rooms.EveryOrder(t, sh, words, hands, nil, hold)
 }
-
-// stateOf: a task's act that is next is told by where its code stands, which is the same for all tasks of its kind.
-func stateOf(k turn.Task) string { return fmt.Sprintf("%+v", k) }

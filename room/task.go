@@ -16,35 +16,20 @@ type making struct {
 	sh     api.Shape
 	final  bool
 	colour int
-	below  int // what the first one's link shows
+	index  int
 	gen    uint64
 }
 
-func (k *making) find(m *cells.Mem) (api.Step, int) {
-	s := k.LoadList(m, api.Free)
-	if !heap.IsNumber(k.sh, k.First()) {
-		return s, k.Refuse()
+func (k *making) goByDrawn(told api.Answer) int {
+	if !told.OK {
+		return k.Refuse()
 	}
-	return s, k.GoOn(k.peek)
-}
-
-func (k *making) peek(m *cells.Mem) (api.Step, int) {
-	s := k.Load(m, heap.LinkAt(k.sh, k.First()))
-	k.below = word.Index(s.Had)
-	return s, k.GoOn(k.take)
-}
-
-// take: the link may be stale by now, but then Free has another tag, and the CAS is not done.
-func (k *making) take(m *cells.Mem) (api.Step, int) {
-	s := k.TurnList(m, api.Free, k.below)
-	if !s.OK {
-		return s, k.GoOn(k.find)
-	}
-	return s, k.GoOn(k.look)
+	k.index = int(told.Val)
+	return k.GoOn(k.look)
 }
 
 func (k *making) look(m *cells.Mem) (api.Step, int) {
-	s := k.Load(m, heap.HeadAt(k.sh, k.First()))
+	s := k.Load(m, heap.HeadAt(k.sh, k.index))
 	k.gen = word.Gen(s.Had)
 	return s, k.GoOn(k.use)
 }
@@ -52,11 +37,11 @@ func (k *making) look(m *cells.Mem) (api.Step, int) {
 // use: who has taken an object off the list is alone with it, so its head needs no CAS.
 func (k *making) use(m *cells.Mem) (api.Step, int) {
 	head, _ := word.Pack(api.Object{Used: true, Live: true, Final: k.final, Gen: k.gen}, k.colour)
-	return k.Store(m, heap.HeadAt(k.sh, k.First()), head), k.GoOn(k.count)
+	return k.Store(m, heap.HeadAt(k.sh, k.index), head), k.GoOn(k.count)
 }
 
 func (k *making) count(m *cells.Mem) (api.Step, int) {
-	return k.Add(m, api.Allocated, 1), k.End(word.Handle(k.First(), k.gen))
+	return k.Add(m, api.Allocated, 1), k.End(word.Handle(k.index, k.gen))
 }
 
 // A giving is a Give under way.
@@ -90,30 +75,18 @@ func (g *giving) look(m *cells.Mem) (api.Step, int) {
 
 // leave: with the next generation no handle of this object is good any more.
 func (g *giving) leave(m *cells.Mem) (api.Step, int) {
-	next := g.meet
-	gen := g.gen + 1
 	if g.gen == lastGen {
-		gen, next = g.gen, g.count
+		return g.put(m, lastGen), g.GoOn(g.count)
 	}
-	return g.Store(m, heap.HeadAt(g.sh, g.index), word.Handle(0, gen)), g.GoOn(next)
+	return g.put(m, g.gen+1), g.GoAlong(heap.Lay(g.sh, g.Hand(), api.Free, g.index), g.countNext)
 }
 
-func (g *giving) meet(m *cells.Mem) (api.Step, int) {
-	return g.LoadList(m, api.Free), g.GoOn(g.tie)
+// put: a head that is out of use.
+func (g *giving) put(m *cells.Mem, gen uint64) api.Step {
+	return g.Store(m, heap.HeadAt(g.sh, g.index), word.Handle(0, gen))
 }
 
-// tie: as long as the object isn't on the list, nobody else comes by its link.
-func (g *giving) tie(m *cells.Mem) (api.Step, int) {
-	return g.Store(m, heap.LinkAt(g.sh, g.index), uint64(g.First())), g.GoOn(g.lay)
-}
-
-func (g *giving) lay(m *cells.Mem) (api.Step, int) {
-	s := g.TurnList(m, api.Free, g.index)
-	if !s.OK {
-		return s, g.GoOn(g.meet)
-	}
-	return s, g.GoOn(g.count)
-}
+func (g *giving) countNext(api.Answer) int { return g.GoOn(g.count) }
 
 func (g *giving) count(m *cells.Mem) (api.Step, int) {
 	return g.Add(m, api.Freed, 1), g.End(uint64(max(g.index, 0)))

@@ -267,8 +267,5 @@ var both = []int{0, 1}
 // everyOrder goes through each order of the hands' steps.
 func everyOrder(t *testing.T, sh api.Shape, words []uint64, hands [][]api.Job, hold func(schedule []int)) int {
 	t.Helper()
-	return shades.EveryOrder(t, sh, words, hands, stateOf, hold)
+	return shades.EveryOrder(t, sh, words, hands, nil, hold)
 }
-
-// stateOf: a task's act that is next is told by where its code stands, which is the same for all tasks of its kind.
-func stateOf(k turn.Task) string { return fmt.Sprintf("%+v", k) }
