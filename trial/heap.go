@@ -70,13 +70,7 @@ func queueing(at, index int, act Act) {
 	if head&takenBit != 0 || !act.CAS(at, head, head|finalBit|takenBit) {
 		return
 	}
-	for {
-		queue := act.Load(api.Queue)
-		act.Store(at+2, uint64(word.Index(queue)))
-		if act.CAS(api.Queue, queue, word.Bump(queue, index)) {
-			return
-		}
-	}
+	puttingOn(api.Queue, at+2, index, act)
 }
 
 // HeapJobs: for each of the shape's hands, up to most.

@@ -41,10 +41,8 @@ func Giving(sh api.Shape, number int, act Act) api.Answer {
 		gen++
 	}
 	act.Store(HeadAt(sh, number), gen*half)
-	for done := isLast; !done; {
-		free := act.Load(api.Free)
-		act.Store(LinkAt(sh, number), uint64(Number(free)))
-		done = act.CAS(api.Free, free, Turned(free, number))
+	if !isLast {
+		puttingOn(api.Free, LinkAt(sh, number), number, act)
 	}
 	act.Add(api.Freed, 1)
 	return Told(uint64(max(number, 0)))

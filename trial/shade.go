@@ -30,13 +30,8 @@ func Marking(sh api.Shape, h uint64, colour int, act Act) api.Answer {
 			break
 		}
 	}
-	for {
-		grey := act.Load(api.Grey)
-		act.Store(LinkAt(sh, number), uint64(Number(grey)))
-		if act.CAS(api.Grey, grey, Turned(grey, number)) {
-			return Told(uint64(number))
-		}
-	}
+	puttingOn(api.Grey, LinkAt(sh, number), number, act)
+	return Told(uint64(number))
 }
 
 // Pulling: the table Pull.

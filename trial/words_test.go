@@ -384,6 +384,74 @@ func TestSweeping(t *testing.T) {
 	}, [][]api.Answer{{trial.Told(0)}, {trial.Told(0)}}, trial.With(words, 10, 0x103))
 }
 
+// Layer 22's tables, on its chapter's examples, on a shape without weak words, and with others amid them.
+func TestWipingGatheringTaking(t *testing.T) {
+	sh := api.Shape{Objects: 2, Slots: 1, Hands: 1, Roots: 1, Weaks: 2} // the weak words 10 and 11, the heads 12 and 16
+	tables := trial.Layer{Table: func(sh api.Shape, _ int, j api.Job, act trial.Act) api.Answer {
+		switch j.Kind {
+		case 1:
+			return trial.Wiping(sh, j.C, act)
+		case 2:
+			return trial.Gathering(sh, j.C, act)
+		}
+		return trial.Taking(sh, act)
+	}}
+	tables.Play = tables.Model
+	tagged, load := trial.Tagged, trial.Load
+	words := trial.Puts(make([]uint64, trial.SizeOf(sh)), 10, 2, 11, 3, 12, 5, 15, 2, 16, 1)
+	hold := func(words []uint64, j api.Job, want api.Answer, after []uint64, steps ...api.Step) {
+		t.Helper()
+		tables.HoldSteps(t, sh, words, [][]api.Job{{j}}, nil, steps, [][]api.Answer{{want}}, after)
+	}
+	hold(words, api.Job{Kind: 1, C: -1}, trial.Told(1), trial.With(words, 10, 0), load(0, 10, 2), load(0, 16, 1), trial.CAS(0, 10, 2, 0), load(0, 11, 3))
+	hold(words, api.Job{Kind: 1, C: 2}, trial.Told(0), words, load(0, 10, 2), load(0, 16, 1), load(0, 11, 3))
+	called := trial.Puts(words, 12, 15, 16, 3, 2, tagged(0, 4), 3, tagged(1, 1), 6, 1)
+	hold(words, api.Job{Kind: 2, C: 1}, trial.Told(1), called,
+		load(0, 12, 5), trial.CAS(0, 12, 5, 15), load(0, 2, 0), trial.Store(0, 13, 0, 0), trial.CAS(0, 2, 0, tagged(1, 1)),
+		load(0, 16, 1),
+		load(0, 2, tagged(1, 1)), load(0, 13, 0), trial.CAS(0, 2, tagged(1, 1), tagged(0, 2)), load(0, 15, 2),
+		load(0, 16, 1), trial.CAS(0, 16, 1, 3), load(0, 2, tagged(0, 2)), trial.Store(0, 17, 0, 0), trial.CAS(0, 2, tagged(0, 2), tagged(2, 3)),
+		load(0, 2, tagged(2, 3)), load(0, 17, 0), trial.CAS(0, 2, tagged(2, 3), tagged(0, 4)), load(0, 19, 0), load(0, 2, tagged(0, 4)),
+		load(0, 3, 0), trial.Store(0, 14, 0, 0), trial.CAS(0, 3, 0, tagged(1, 1)), trial.Add(0, 6, 0, 1))
+	hold(words, api.Job{Kind: 2, C: -2}, trial.Told(0), words, load(0, 12, 5), load(0, 16, 1), load(0, 2, 0))
+	drawn := trial.With(called, 3, tagged(0, 2))
+	hold(called, api.Job{}, trial.Told(1), drawn, load(0, 3, tagged(1, 1)), load(0, 14, 0), trial.CAS(0, 3, tagged(1, 1), tagged(0, 2)), load(0, 12, 15))
+	hold(drawn, api.Job{}, api.Answer{}, drawn, load(0, 3, tagged(0, 2)))
+	older := trial.Puts(called, 12, tagged(15, 7), 14, tagged(9, 6))
+	hold(older, api.Job{}, trial.Told(tagged(1, 7)), trial.With(older, 3, tagged(9, 2)),
+		load(0, 3, tagged(1, 1)), load(0, 14, tagged(9, 6)), trial.CAS(0, 3, tagged(1, 1), tagged(9, 2)), load(0, 12, tagged(15, 7)))
+	none := api.Shape{Objects: 1, Hands: 1, Roots: 1} // the head 10
+	plain := trial.Puts(make([]uint64, 13), 0, 7, 10, 5)
+	tables.HoldSteps(t, none, plain, [][]api.Job{{{Kind: 1}}}, nil, []api.Step{load(0, 0, 7)}, [][]api.Answer{{trial.Told(0)}}, plain)
+	// Of two at one weak word, at one object and at one queue, one CAS is not done.
+	words = trial.Puts(words, 11, 0, 12, 1)
+	tables.HoldSteps(t, sh, words, [][]api.Job{{{Kind: 1, C: 1}}, {{Kind: 1, C: 1}}}, nil, []api.Step{
+		load(0, 10, 2), load(1, 10, 2), load(0, 16, 1), load(1, 16, 1), trial.CAS(0, 10, 2, 0), trial.Lost(1, 10, 0), load(0, 11, 0), load(1, 11, 0),
+	}, [][]api.Answer{{trial.Told(1)}, {trial.Told(0)}}, trial.With(words, 10, 0))
+	tables.HoldSteps(t, none, plain, [][]api.Job{{{Kind: 2, C: 1}}, {{Kind: 2, C: 1}}}, []int{0, 1, 0, 1, 1}, []api.Step{
+		load(0, 10, 5), load(1, 10, 5), trial.CAS(0, 10, 5, 15), trial.Lost(1, 10, 15), load(1, 2, 0),
+		load(0, 2, 0), trial.Store(0, 11, 0, 0), trial.CAS(0, 2, 0, tagged(1, 1)), load(0, 2, tagged(1, 1)), load(0, 11, 0), trial.CAS(0, 2, tagged(1, 1), tagged(0, 2)), load(0, 2, tagged(0, 2)),
+		load(0, 3, 0), trial.Store(0, 12, 0, 0), trial.CAS(0, 3, 0, tagged(1, 1)), trial.Add(0, 6, 0, 1),
+	}, [][]api.Answer{{trial.Told(1)}, {trial.Told(0)}}, trial.Puts(plain, 10, 15, 2, tagged(0, 2), 3, tagged(1, 1), 6, 1))
+	queue := trial.With(plain, 3, tagged(1, 1<<32-1))
+	tables.HoldSteps(t, none, queue, [][]api.Job{{{}}, {{}}}, nil, []api.Step{
+		load(0, 3, queue[3]), load(1, 3, queue[3]), load(0, 12, 0), load(1, 12, 0), trial.CAS(0, 3, queue[3], 0), trial.Lost(1, 3, 0), load(0, 10, 5), load(1, 3, 0),
+	}, [][]api.Answer{{trial.Told(1)}, {{}}}, trial.With(queue, 3, 0))
+}
+
+// What is due: an object in use, of another colour, with a finalizer that isn't taken.
+func TestIsDue(t *testing.T) {
+	for lower := range uint64(32) {
+		for colour := -2; colour <= 3; colour++ {
+			isUsed, isOther := lower%2 == 1, (lower/2%2 == 1) != (colour%2 != 0)
+			want := isUsed && isOther && lower/4%2 == 1 && lower/8%2 == 0
+			if got := trial.IsDue(trial.Tagged(int(lower), 7), colour); got != want {
+				t.Error(lower, colour, got)
+			}
+		}
+	}
+}
+
 // Heads: in use and not, of both colours, of all ages and generations, those at the ends among them; with other bits and without.
 func TestHead(t *testing.T) {
 	from := trial.Source(10)
