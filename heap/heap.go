@@ -16,6 +16,12 @@ const (
 	TakenBit  uint64 = 1 << 3
 )
 
+// AckAt: where a hand's ack stands.
+func AckAt(sh api.Shape, hand int) int {
+	at, errno := shape.Ack(sh, hand)
+	return placeIf(at, errno)
+}
+
 // RootAt: where a hand's root stands.
 func RootAt(sh api.Shape, hand, root int) int {
 	at, errno := shape.Root(sh, hand, root)

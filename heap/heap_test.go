@@ -14,7 +14,7 @@ import (
 
 const half = 1 << 32
 
-// Where roots, weak words and objects' words stand; those that aren't there, and all of a shape that is none, stand at no word.
+// Where acks, roots, weak words and objects' words stand; those that aren't there, and all of a shape that is none, stand at no word.
 func TestPlaces(t *testing.T) {
 	for _, sh := range trial.RightShapes() {
 		for _, number := range slices.Concat(trial.Ends(), trial.FarNumbers(sh.Objects), []int{0, 1, 2, sh.Objects, 1 << 32, 1<<32 + 1}) {
@@ -38,6 +38,9 @@ func TestPlaces(t *testing.T) {
 			}
 		}
 		for _, hand := range append(trial.Ends(), 0, 1, sh.Hands-1, sh.Hands, 1<<32) {
+			if at := heap.AckAt(sh, hand); at != trial.AckAt(sh, hand) || (at != heap.NoWord) != (hand >= 0 && hand < sh.Hands) {
+				t.Error("an ack", sh, hand, at)
+			}
 			for _, root := range append(trial.Ends(), 0, 1, sh.Roots-1, sh.Roots, 1<<32) {
 				isThere := hand >= 0 && hand < sh.Hands && root >= 0 && root < sh.Roots
 				if at := heap.RootAt(sh, hand, root); at != trial.RootAt(sh, hand, root) || (at != heap.NoWord) != isThere {
@@ -52,7 +55,7 @@ func TestPlaces(t *testing.T) {
 		}
 	}
 	for _, sh := range trial.WrongShapes() {
-		if heap.RootAt(sh, 0, 0) != heap.NoWord || heap.WeakAt(sh, 0) != heap.NoWord || heap.HeadAt(sh, 1) != heap.NoWord || heap.LinkAt(sh, 1) != heap.NoWord || heap.NextAt(sh, 1) != heap.NoWord || heap.SlotAt(sh, 1, 0) != heap.NoWord {
+		if heap.AckAt(sh, 0) != heap.NoWord || heap.RootAt(sh, 0, 0) != heap.NoWord || heap.WeakAt(sh, 0) != heap.NoWord || heap.HeadAt(sh, 1) != heap.NoWord || heap.LinkAt(sh, 1) != heap.NoWord || heap.NextAt(sh, 1) != heap.NoWord || heap.SlotAt(sh, 1, 0) != heap.NoWord {
 			t.Error("no shape", sh)
 		}
 		if heap.IsNumber(sh, 1) != (sh.Objects >= 1) {

@@ -42,6 +42,7 @@ func (n *noting) Step(m *cells.Mem) (api.Step, int) {
 // Noted: the jobs of a run, hand by hand, with their steps. It fails, if Play doesn't make the same run of the same tasks.
 func (l Layer) Noted(t T, sh api.Shape, words []uint64, hands [][]api.Job, schedule []int, most int) ([]*Noted, api.Trace, [][]api.Answer) {
 	t.Helper()
+	l = l.anew()
 	var out []*Noted
 	made, number := 0, make([]int, len(hands))
 	x, a, e := turn.Play(words, hands, schedule, most, func(hand int, j api.Job) (turn.Task, api.Errno) {

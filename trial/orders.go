@@ -52,6 +52,7 @@ func (l Layer) EveryPast(t T, sh api.Shape, words []uint64, hands [][]api.Job, s
 // how many hands go on.
 func (l Layer) spotOf(t T, sh api.Shape, words []uint64, hands [][]api.Job, state func(turn.Task) string, schedule []int) (spot string, going int) {
 	t.Helper()
+	l = l.anew()
 	made := make([][]*watched, len(hands))
 	x, a, e := turn.Play(words, hands, schedule, len(schedule), func(hand int, j api.Job) (turn.Task, api.Errno) {
 		k, e := l.Task(sh, hand, j)

@@ -22,14 +22,32 @@ type T interface {
 type Layer struct {
 	Size  func(sh api.Shape) (int, api.Errno)
 	Fresh func(sh api.Shape) ([]uint64, api.Errno)
-	Task  func(sh api.Shape, hand int, j api.Job) (turn.Task, api.Errno)
+	Task  Maker
 	Play  func(sh api.Shape, words []uint64, hands [][]api.Job, schedule []int, most int) (api.Trace, [][]api.Answer, api.Errno)
 	Free  func(sh api.Shape, hands [][]api.Job) ([]uint64, [][]api.Answer, api.Errno)
+	Table Table
+
+	// Anew: of a layer whose hands keep something from job to job, the Task and the Table of one run, with nothing kept yet.
+	Anew func() (Maker, Table)
+}
+
+// A Maker makes the task of a hand's job. A Table is what the job does, as plain code.
+type (
+	Maker func(sh api.Shape, hand int, j api.Job) (turn.Task, api.Errno)
 	Table func(sh api.Shape, hand int, j api.Job, act Act) api.Answer
+)
+
+// anew: the layer as it is for one run.
+func (l Layer) anew() Layer {
+	if l.Anew != nil {
+		l.Task, l.Table = l.Anew()
+	}
+	return l
 }
 
 // Model: the run by the schedule of the tables as plain code.
 func (l Layer) Model(sh api.Shape, words []uint64, hands [][]api.Job, schedule []int, most int) (api.Trace, [][]api.Answer, api.Errno) {
+	l = l.anew()
 	return turn.Play(words, hands, schedule, most, func(hand int, j api.Job) (turn.Task, api.Errno) {
 		return l.plain(sh, hand, j), api.OK
 	})
@@ -70,6 +88,7 @@ func (l Layer) HoldTask(t T, sh api.Shape, hand int, j api.Job, words []uint64, 
 // HoldTaskAmid is HoldTask with acts of others: ahead of the step i those that amid(i) tells are made.
 func (l Layer) HoldTaskAmid(t T, sh api.Shape, hand int, j api.Job, words []uint64, most int, amid func(i int) []api.Step) {
 	t.Helper()
+	l = l.anew()
 	k, e := l.Task(sh, hand, j)
 	if e != api.OK {
 		t.Fatalf("%v, hand %d, %v: %v", sh, hand, j, e)

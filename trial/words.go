@@ -19,7 +19,15 @@ func isRight(sh api.Shape) bool {
 	return true
 }
 
-// RootAt: where a hand's root stands; -1, if there is none, and for a shape that is none.
+// AckAt: where a hand's ack stands; -1, if there is none, and for a shape that is none.
+func AckAt(sh api.Shape, hand int) int {
+	if hand < 0 || hand >= sh.Hands || !isRight(sh) {
+		return -1
+	}
+	return 8 + hand
+}
+
+// RootAt: where a hand's root stands, likewise.
 func RootAt(sh api.Shape, hand, root int) int {
 	if hand < 0 || hand >= sh.Hands || root < 0 || root >= sh.Roots || !isRight(sh) {
 		return -1

@@ -17,6 +17,9 @@ func TestPlaces(t *testing.T) {
 			t.Error(sh, trial.SizeOf(sh), size)
 		}
 		for hand := range sh.Hands {
+			if at, e := shape.Ack(sh, hand); e != api.OK || trial.AckAt(sh, hand) != at {
+				t.Error(sh, hand, trial.AckAt(sh, hand), at)
+			}
 			for root := range sh.Roots {
 				if at, e := shape.Root(sh, hand, root); e != api.OK || trial.RootAt(sh, hand, root) != at {
 					t.Error(sh, hand, root, trial.RootAt(sh, hand, root), at)
@@ -26,6 +29,11 @@ func TestPlaces(t *testing.T) {
 				if trial.RootAt(sh, hand, n) != -1 || trial.RootAt(sh, hand, sh.Roots) != -1 || trial.RootAt(sh, n, 0) != -1 || trial.RootAt(sh, sh.Hands, 0) != -1 {
 					t.Error(sh, hand, n)
 				}
+			}
+		}
+		for _, hand := range append(trial.Ends(), sh.Hands, 1<<32) {
+			if trial.AckAt(sh, hand) != -1 {
+				t.Error(sh, hand, trial.AckAt(sh, hand))
 			}
 		}
 		for weak := range sh.Weaks {
@@ -60,7 +68,7 @@ func TestPlaces(t *testing.T) {
 		}
 	}
 	for _, sh := range trial.WrongShapes() {
-		if trial.RootAt(sh, 0, 0) != -1 || trial.WeakAt(sh, 0) != -1 || trial.HeadAt(sh, 1) != -1 || trial.LinkAt(sh, 1) != -1 || trial.NextAt(sh, 1) != -1 || trial.SlotAt(sh, 1, 0) != -1 {
+		if trial.AckAt(sh, 0) != -1 || trial.RootAt(sh, 0, 0) != -1 || trial.WeakAt(sh, 0) != -1 || trial.HeadAt(sh, 1) != -1 || trial.LinkAt(sh, 1) != -1 || trial.NextAt(sh, 1) != -1 || trial.SlotAt(sh, 1, 0) != -1 {
 			t.Error("no shape:", sh)
 		}
 	}
